@@ -1,0 +1,1 @@
+"""Nestdeep: how deep a stack can ever be, function by function, for all sizes of frames."""

@@ -1,0 +1,45 @@
+"""Lines that are known to be lines: sums, products, sizes, and the check of sizes."""
+
+from nestdeep.errors import InvalidSizes
+from nestdeep.values import is_count
+
+
+def summed(lines):
+    """The line that has each frame as often as all of these together."""
+    counts = {}
+    for line in lines:
+        for frame, count in line:
+            counts[frame] = counts.get(frame, 0) + count
+    return tuple(sorted(counts.items()))
+
+
+def multiplied(line, count):
+    """The line that has each frame so many times as often."""
+    if count == 0:
+        return ()
+    return tuple([(frame, many * count) for frame, many in line])
+
+
+def size_of(line, sizes):
+    """The sum of the counts times the sizes."""
+    return sum([count * sizes[frame] for frame, count in line])
+
+
+def lies_within(line, other):
+    """Whether the other line has each frame at least as often."""
+    counts = dict(other)
+    return all([counts.get(frame, 0) >= count for frame, count in line])
+
+
+def frames_in(lines):
+    """The sorted list of the frames of all these lines."""
+    return sorted(set([frame for line in lines for frame, _ in line]))
+
+
+def check_sizes(frames, sizes):
+    """Raise InvalidSizes if this is no dict, or for the first frame that has no size."""
+    if not isinstance(sizes, dict):
+        raise InvalidSizes(None)
+    for frame in frames:
+        if not is_count(sizes.get(frame), 1):
+            raise InvalidSizes(frame)
