@@ -52,7 +52,7 @@ def _is_take(statement):
 
 
 def _is_shut(statement):
-    return len(statement) == 2 and statement[1] != () and is_name_set(statement[1])
+    return len(statement) == 2 and is_name_set(statement[1]) and statement[1] != ()
 
 
 def _is_room(statement):

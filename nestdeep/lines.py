@@ -66,12 +66,9 @@ def line_text(line):
 
 
 def _part_in(text):
-    """The part that is written so, or None."""
+    """The frame and the count that are written so; no part of a line if the text is wrong."""
     words = text.split(" ")
-    if len(words) != 2:
-        return None
-    part = words[1], number_in(words[0])
-    return part if _is_part(part) else None
+    return (words[1], number_in(words[0])) if len(words) == 2 else ()
 
 
 def parse_line(text):

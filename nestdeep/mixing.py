@@ -2,9 +2,18 @@
 
 from math import gcd
 
-from nestdeep.frames import frames_in, lies_within, size_of
+from nestdeep.frames import frames_in, lies_within
 from nestdeep.tableau import Tableau
 from nestdeep.values import fraction
+
+
+def _scarce_frame(line, lines):
+    """The first frame that the line has more often than each one of the lines, or None."""
+    tables = [dict(other) for other in lines]
+    for frame, count in line:
+        if not [table for table in tables if table.get(frame, 0) >= count]:
+            return frame
+    return None
 
 
 def _weights_in(tableau, prices):
@@ -18,40 +27,35 @@ def _weights_in(tableau, prices):
 
 
 def _solved(line, lines):
-    """(weights, None) if the lines cover the line, else (None, prices); there is at least one line.
+    """(weights, None) if the lines cover the line, else (None, prices); no frame is scarce.
 
     At the prices, a list of integers for the line's frames, it is worth more than each of the lines.
     """
     tables = [dict(other) for other in lines]
     held = [[table.get(frame, 0) for frame, _ in line] for table in tables]
     tableau = Tableau([count for _, count in line], held)
-    while True:
+    while tableau.goal[0] <= tableau.bottom:
         column = tableau.entering()
         if column is None:
             return _weights_in(tableau, len(line)), None
-        at = tableau.leaving(column)
-        if at is None:
-            by = (tableau.bottom - tableau.goal[0]) // tableau.goal[column + 1] + 1
-            return None, tableau.price_tops(len(line), column, by)
-        tableau.pivot(at, column)
-        if tableau.goal[0] > tableau.bottom:
-            return None, tableau.price_tops(len(line), column, 0)
+        tableau.pivot(tableau.leaving(column), column)
+    return None, tableau.price_tops(len(line))
 
 
 def is_mixed(line, lines):
     """Whether the lines cover the line."""
+    if not lines or _scarce_frame(line, lines) is not None:
+        return False
     if [other for other in lines if lies_within(line, other)]:
         return True
-    tables = [dict(other) for other in lines]
-    for frame, count in line:
-        if not [table for table in tables if table.get(frame, 0) >= count]:
-            return False
-    return bool(lines) and _solved(line, lines)[0] is not None
+    return _solved(line, lines)[1] is None
 
 
 def mix_weights(line, lines):
     """The weights of a mix that covers the line, None if there is none."""
-    return _solved(line, lines)[0] if lines else None
+    if not lines or _scarce_frame(line, lines) is not None:
+        return None
+    return _solved(line, lines)[0]
 
 
 def _common(numbers):
@@ -62,29 +66,33 @@ def _common(numbers):
     return common
 
 
-def _growth(line, lines, prices):
-    """How often the prices are needed, so that 1 more for each frame changes nothing."""
-    ones = {frame: 1 for frame in frames_in([line, *lines])}
-    many = 0
-    for other in lines:
-        ahead = size_of(line, prices) - size_of(other, prices)
-        behind = size_of(other, ones) - size_of(line, ones)
-        many = max(many, behind // ahead + 1)
-    return many
+def _prices(line, lines):
+    """A dict from the frames of the line to prices from 0 on that part it from the lines, or None."""
+    frame = _scarce_frame(line, lines)
+    if frame is not None:
+        return {frame: 1}
+    tops = _solved(line, lines)[1] if lines else []
+    if tops is None:
+        return None
+    common = _common(tops)
+    return {line[at][0]: top // common for at, top in enumerate(tops)}
+
+
+def _times_needed(line, other, prices):
+    """How often the prices are needed, so that 1 more for each frame cannot put the other line ahead."""
+    ahead = sum([count * prices.get(frame, 0) for frame, count in line])
+    ahead -= sum([count * prices.get(frame, 0) for frame, count in other])
+    behind = sum([count for _, count in other]) - sum([count for _, count in line])
+    return behind // ahead + 1
 
 
 def parting_prices(line, lines):
     """A dict from frames to sizes at which the line is greater than each one of the lines, or None."""
-    prices = {frame: 0 for frame in frames_in([line, *lines])}
-    if lines:
-        tops = _solved(line, lines)[1]
-        if tops is None:
-            return None
-        common = _common(tops)
-        for (frame, _), top in zip(line, tops):
-            prices[frame] = top // common
-    many = _growth(line, lines, prices)
-    return {frame: many * prices[frame] + 1 for frame in prices}
+    prices = _prices(line, lines)
+    if prices is None:
+        return None
+    times = max([0] + [_times_needed(line, other, prices) for other in lines])
+    return {frame: times * prices.get(frame, 0) + 1 for frame in frames_in([line, *lines])}
 
 
 def corner_lines(lines):

@@ -17,17 +17,26 @@ class Tableau:
     def __init__(self, wanted, held):
         self.bottom = 1
         self.goal = [0, *wanted]
-        self.rows = [[1, *[-count for count in counts]] for counts in held]
+        self.rows = [[1] + [-count for count in counts] for counts in held]
         self.columns = list(range(len(wanted)))
         self.basis = [len(wanted) + at for at in range(len(held))]
+        self.is_stuck = False
 
     def entering(self):
-        """The column by which the goal grows, of several that of the first variable; None if there is none."""
-        growing = [(self.columns[at], at) for at in range(len(self.columns)) if self.goal[at + 1] > 0]
-        return min(growing)[1] if growing else None
+        """The column by which the goal grows the fastest, None if there is none.
+
+        Behind a pivot that gained nothing it is the one of the first variable by which the goal
+        grows: as the first of several variables leaves, too, no basis can then recur.
+        """
+        growing = [at for at in range(len(self.columns)) if self.goal[at + 1] > 0]
+        if not growing:
+            return None
+        if self.is_stuck:
+            return min([(self.columns[at], at) for at in growing])[1]
+        return max([(self.goal[at + 1], at) for at in growing])[1]
 
     def leaving(self, column):
-        """The row that holds a column back the most; None if none does."""
+        """The row that holds a column back the most; each frame is in a line, so there is one."""
         best = None
         for at, row in enumerate(self.rows):
             if row[column + 1] < 0 and (best is None or self._is_closer(at, best, column + 1)):
@@ -35,7 +44,7 @@ class Tableau:
         return best
 
     def _is_closer(self, at, best, item):
-        """Whether a row reaches 0 ahead of the best one; of equals the first variable leaves, so nothing recurs."""
+        """Whether a row reaches 0 ahead of the best one; of equals the first variable leaves."""
         row, other = self.rows[at], self.rows[best]
         mine, its = row[0] * other[item], other[0] * row[item]
         return mine > its or (mine == its and self.basis[at] < self.basis[best])
@@ -44,6 +53,7 @@ class Tableau:
         """Let the variable of a column and that of a row change places."""
         told = self.rows[at]
         bottom = -told[column + 1]
+        self.is_stuck = told[0] == 0
         self.goal = self._told_anew(self.goal, told, column + 1)
         self.rows = [self._told_anew(row, told, column + 1) for row in self.rows]
         self.rows[at] = list(told)
@@ -58,12 +68,10 @@ class Tableau:
         new[item] = -many
         return new
 
-    def price_tops(self, prices, grown, by):
-        """The tops of the first variables, over bottom, when the column grown has grown by an integer."""
+    def price_tops(self, prices):
+        """The tops, over bottom, of the first variables, which are so many prices."""
         tops = [0] * prices
-        if self.columns[grown] < prices:
-            tops[self.columns[grown]] = by * self.bottom
         for variable, row in zip(self.basis, self.rows):
             if variable < prices:
-                tops[variable] = row[0] + row[grown + 1] * by
+                tops[variable] = row[0]
         return tops

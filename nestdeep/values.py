@@ -3,14 +3,14 @@
 from math import gcd
 
 
-def is_integer(value):
+def is_whole_number(value):
     """Whether this is an integer; True and False are none."""
     return isinstance(value, int) and not isinstance(value, bool)
 
 
 def is_count(value, least):
     """Whether this is an integer from least on."""
-    return is_integer(value) and value >= least
+    return is_whole_number(value) and value >= least
 
 
 def is_list(value):
@@ -28,7 +28,7 @@ def is_fraction(value):
     if not is_tuple_of(value, 2):
         return False
     top, bottom = value
-    return is_integer(top) and is_count(bottom, 1) and gcd(top, bottom) == 1
+    return is_whole_number(top) and is_count(bottom, 1) and gcd(top, bottom) == 1
 
 
 def fraction(top, bottom):

@@ -88,6 +88,12 @@ class Good(Case):
         self.assertIsNot(house.handlers(), house.handlers())
         self.is_same(list(house), ["u", "v"])
 
+    def test_by_name_only(self):
+        with self.assertRaises(TypeError):
+            House(PROGRAM, "main", HANDLERS, ("u",))
+        with self.assertRaises(TypeError):
+            self.house.with_shut(["u"], "v")
+
     def test_times(self):
         for times in (1, 2, 10 ** 12):
             self.is_same(House(PROGRAM, "main", {"u": ("tick", times, ())}).handler("u"), ("tick", times, ()))

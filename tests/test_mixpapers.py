@@ -40,6 +40,9 @@ class Weights(Case):
         for paper in (((1, 3), (1, 2)), ((1, 2), (2, 3)), ((1, 1), (0, 1)), ((1, 3), (2, 3)), ((0, 1), (0, 1)), ((3, 2), (-1, 2)),
                       ((1, 1), (1, 1)), ((2, 4), (1, 2))):
             self.assertIs(is_weights(BOTH, [TWO_A, TWO_B], paper), False, paper)
+        for paper in (((3, 2), (-1, 2)), ((2, 1), (-1, 1)), ((-1, 3), (4, 3))):
+            self.assertIs(is_weights((), [TWO_A, TWO_B], paper), False, paper)
+            self.assertIs(is_weights((("a", 1),), [TWO_A, TWO_A], paper), False, paper)
         half = BIG // 2
         self.assertIs(is_weights((("a", BIG),), [(("a", 2 * BIG),), ()], ((half, BIG), (BIG - half, BIG))), False)
 
@@ -150,6 +153,8 @@ class Covers(Case):
         for first, second in (((1, 3), (1, 2)), ((1, 3), (2, 3)), ((1, 1), (1, 1)), ((2, 4), (1, 2)), ((3, 2), (-1, 2))):
             self.assertIs(is_cover(self.TERM, self.TERMS, {one: first, two: second}), False)
         self.assertIs(is_cover(self.TERM, self.TERMS, {one: (1, 1)}), False)
+        for first, second in (((3, 2), (-1, 2)), ((1, 1), (0, 1)), ((-1, 1), (2, 1))):
+            self.assertIs(is_cover(now((), "uv"), self.TERMS, {one: first, two: second}), False)
         self.assertIs(is_cover(START, [], {}), False)
         self.assertIs(is_cover(START, [START], {}), False)
 
