@@ -13,6 +13,16 @@ def summed(lines):
     return tuple(sorted(counts.items()))
 
 
+def with_more(line, count, frame):
+    """The line with so many more of a frame."""
+    for at, (other, many) in enumerate(line):
+        if other == frame:
+            return *line[:at], (frame, many + count), *line[at + 1:]
+        if other > frame:
+            return *line[:at], (frame, count), *line[at:]
+    return *line, (frame, count)
+
+
 def multiplied(line, count):
     """The line that has each frame so many times as often."""
     if count == 0:

@@ -8,6 +8,13 @@ RESERVED = (
     "house", "kind", "limit", "loop", "most", "now", "or", "returns", "room", "shut", "size",
     "stop", "take", "task", "times",
 )
+# The same words, to be looked up at once.
+IS_RESERVED = {
+    "call": True, "do": True, "either": True, "else": True, "end": True, "endless": True, "form": True,
+    "frame": True, "function": True, "handler": True, "house": True, "kind": True, "limit": True, "loop": True,
+    "most": True, "now": True, "or": True, "returns": True, "room": True, "shut": True, "size": True,
+    "stop": True, "take": True, "task": True, "times": True,
+}
 LONGEST_NAME = 8
 MOST_PARAMS = 2
 MOST_IN_BODY = 12
@@ -17,14 +24,19 @@ MOST_ROUNDS = 10 ** 12
 
 def is_name(value):
     """Whether this is a name: one to eight letters a to z, no reserved word."""
-    if not isinstance(value, str) or not 1 <= len(value) <= LONGEST_NAME:
+    if not isinstance(value, str) or len(value) > LONGEST_NAME or value in IS_RESERVED:
         return False
-    return all(["a" <= letter <= "z" for letter in value]) and value not in RESERVED
+    return value.isalpha() and value.islower() and value.isascii()
 
 
 def are_names(value):
     """Whether this is a tuple of names, in any order."""
-    return isinstance(value, tuple) and all([is_name(name) for name in value])
+    if not isinstance(value, tuple):
+        return False
+    for name in value:
+        if not is_name(name):
+            return False
+    return True
 
 
 def is_name_set(value):
@@ -88,6 +100,10 @@ SHAPES = {
 }
 
 
+# Behind how many items of a statement its bodies stand.
+FIRST_BODY = {"room": 1, "either": 1, "loop": 2}
+
+
 def _has_shape(value):
     """Whether this is a statement, whatever stands in its bodies."""
     if not isinstance(value, tuple) or not value:
@@ -101,42 +117,33 @@ def _has_shape(value):
 
 def bodies_of(statement):
     """The tuple of the bodies in a statement."""
-    if statement[0] in ("room", "either"):
-        return statement[1:]
-    return statement[2:] if statement[0] == "loop" else ()
+    first = FIRST_BODY.get(statement[0])
+    return () if first is None else statement[first:]
 
 
-def _check_block(body, before, blocks):
-    """Check what stands in so many blocks, behind the place before."""
+def _gather(body, before, blocks, rows):
+    """Check what stands in so many blocks, behind the place before, and put it into rows."""
     for at, statement in enumerate(body):
         place = (*before, at)
         if not _has_shape(statement):
             raise InvalidBody(place)
+        rows.append((place, statement))
         inner = bodies_of(statement)
         if inner and blocks == MOST_BLOCKS:
             raise InvalidBody(place)
         for number, block in enumerate(inner):
-            _check_block(block, (*place, number), blocks + 1)
-
-
-def check_body(body):
-    """Raise InvalidBody with the place of the first wrong statement, if there is one."""
-    if not is_block(body):
-        raise InvalidBody(())
-    _check_block(body, (), 0)
-
-
-def _placed(body, before):
-    rows = []
-    for at, statement in enumerate(body):
-        place = (*before, at)
-        rows.append((place, statement))
-        for number, block in enumerate(bodies_of(statement)):
-            rows.extend(_placed(block, (*place, number)))
-    return rows
+            _gather(block, (*place, number), blocks + 1, rows)
 
 
 def statements(body):
     """The list of tuples (place, statement), in the order of the text."""
-    check_body(body)
-    return _placed(body, ())
+    if not is_block(body):
+        raise InvalidBody(())
+    rows = []
+    _gather(body, (), 0, rows)
+    return rows
+
+
+def check_body(body):
+    """Raise InvalidBody with the place of the first wrong statement, if there is one."""
+    statements(body)

@@ -4,13 +4,8 @@ from nestdeep.errors import InvalidChoice
 from nestdeep.frames import check_sizes, size_of
 from nestdeep.functions import united
 from nestdeep.steps import (
-    behind_statement, entry_behind, events_of, instance_called, is_at_end, moment_of, new_entry,
+    behind_statement, call_of, entry_behind, events_of, instance_called, is_at_end, moment_of, new_entry,
 )
-
-
-def _has_words_only(value):
-    """Whether this is a tuple of strings; what is none must not be compared with an event."""
-    return isinstance(value, tuple) and all([isinstance(word, str) for word in value])
 
 
 class Machine:
@@ -19,7 +14,8 @@ class Machine:
     def __init__(self, house):
         self.house = house
         # A segment is a tuple (interrupt, entries); what entries are tells nestdeep.steps.
-        self._segments = [(None, [new_entry((house.task, ()), ((), house.shut))])]
+        self._segments = [(None, [new_entry(house.program, (house.task, ()), (), house.shut)])]
+        self._standing = {}
         self._events = []
         self._look()
 
@@ -30,7 +26,7 @@ class Machine:
 
     def stack(self):
         """The list of the segments, the task's first."""
-        return [(interrupt, tuple([entry[0] for entry in entries])) for interrupt, entries in self._segments]
+        return [(interrupt, tuple([call_of(entry) for entry in entries])) for interrupt, entries in self._segments]
 
     def depth(self, sizes):
         """The size of the present line."""
@@ -38,21 +34,32 @@ class Machine:
         return size_of(self.line, sizes)
 
     def _can_come(self, interrupt):
-        standing = [segment for segment in self._segments if segment[0] == interrupt]
-        return interrupt not in self.shut and len(standing) < self.house.handler(interrupt)[1]
+        if interrupt not in self.house or interrupt in self.shut:
+            return False
+        return self._standing.get(interrupt, 0) < self.house.handler(interrupt)[1]
 
     def possible(self):
         """The list of the events that are possible now."""
         if self.ended:
             return []
-        own = events_of(self.house.program, self._segments[-1][1][-1])
+        own = events_of(self._segments[-1][1][-1])
         return own + [("come", interrupt) for interrupt in self.house if self._can_come(interrupt)]
+
+    def _is_possible(self, event):
+        # An event is looked at word by word: what is none must not be compared with one.
+        if self.ended or not isinstance(event, tuple) or not 1 <= len(event) <= 2:
+            return False
+        if not isinstance(event[0], str):
+            return False
+        if len(event) == 2:
+            return event[0] == "come" and self._can_come(event[1])
+        return event in events_of(self._segments[-1][1][-1])
 
     def do(self, event):
         """Do an event; the line of the moment behind it."""
-        if not _has_words_only(event) or event not in self.possible():
+        if not self._is_possible(event):
             raise InvalidChoice(event)
-        if event[0] == "come":
+        if len(event) == 2:
             self._come(event[1])
         else:
             self._go_on(event)
@@ -62,22 +69,27 @@ class Machine:
 
     def _come(self, interrupt):
         function, _, shut = self.house.handler(interrupt)
-        below = self.line, united(self.shut, shut)
-        self._segments.append((interrupt, [new_entry((function, ()), below)]))
+        entry = new_entry(self.house.program, (function, ()), self.line, united(self.shut, shut))
+        self._segments.append((interrupt, [entry]))
+        self._standing[interrupt] = self._standing.get(interrupt, 0) + 1
 
     def _go_on(self, event):
-        program = self.house.program
         entries = self._segments[-1][1]
-        instance = instance_called(program, entries[-1][0])
+        instance = instance_called(self.house.program, entries[-1])
         if instance is not None:
-            entries.append(new_entry(instance, (self.line, self.shut)))
-        elif not is_at_end(program, entries[-1][0]):
-            entries[-1] = entry_behind(program, entries[-1], event)
-        elif len(entries) == 1:
-            self._segments.pop()
-        else:
+            entries.append(new_entry(self.house.program, instance, self.line, self.shut))
+        elif not is_at_end(entries[-1]):
+            entries[-1] = entry_behind(entries[-1], event)
+        elif len(entries) > 1:
             entries.pop()
             entries[-1] = behind_statement(entries[-1])
+        else:
+            self._end_segment()
+
+    def _end_segment(self):
+        interrupt, _ = self._segments.pop()
+        if interrupt is not None:
+            self._standing[interrupt] -= 1
 
     def events(self):
         """The list of the events done."""
@@ -87,6 +99,7 @@ class Machine:
         """An equal machine with these events, which goes on by itself."""
         twin = Machine(self.house)
         twin._segments = [(interrupt, list(entries)) for interrupt, entries in self._segments]
+        twin._standing = dict(self._standing)
         twin._events = list(self._events)
         twin._look()
         return twin

@@ -1,23 +1,12 @@
 """What makes a list of functions a program: the checks, in the order of the document."""
 
 from nestdeep.errors import InvalidBody, InvalidProgram
-from nestdeep.functions import are_args, check_body, is_name, statements
+from nestdeep.functions import are_args, is_name, statements
 from nestdeep.values import is_list, is_tuple_of
 
 MOST_STATEMENTS = 60
 MOST_FRAMES = 6
 MOST_INTERRUPTS = 5
-
-
-def frames_of(body):
-    """The frames that a body takes, each once, sorted."""
-    return sorted(set([statement[2] for _, statement in statements(body) if statement[0] == "take"]))
-
-
-def interrupts_of(body):
-    """The interrupts that a body shuts, each once, sorted."""
-    shuts = [statement[1] for _, statement in statements(body) if statement[0] == "shut"]
-    return sorted(set([interrupt for shut in shuts for interrupt in shut]))
 
 
 def _check_head(function, position, earlier):
@@ -43,17 +32,19 @@ def check_heads(functions, most):
         names.append(function[0])
 
 
-def _check_body_of(function, params_of):
+def _statements_of(function, params_of):
+    """The list of the statements of a function, in the order of the text."""
     name, params, body = function
     for param in params:
         if param in params_of:
             raise InvalidProgram("parameter", name)
     try:
-        check_body(body)
+        placed = statements(body)
     except InvalidBody as error:
         raise InvalidProgram("body", name) from error
-    if len(statements(body)) > MOST_STATEMENTS:
+    if len(placed) > MOST_STATEMENTS:
         raise InvalidProgram("statements", name)
+    return [statement for _, statement in placed]
 
 
 def _check_call(statement, name, params_of):
@@ -68,32 +59,39 @@ def _check_call(statement, name, params_of):
             raise InvalidProgram("args", name)
 
 
-def _check_calls(function, params_of):
-    name, params, body = function
-    for _, statement in statements(body):
+def _check_calls(name, rows, params_of):
+    for statement in rows:
         if statement[0] == "call":
             _check_call(statement, name, params_of)
-        if statement[0] == "do" and statement[1] not in params:
+        elif statement[0] == "do" and statement[1] not in params_of[name]:
             raise InvalidProgram("do", name)
 
 
-def _check_numbers(functions):
-    """Check how many frames and interrupts occur in all functions together."""
-    bodies = [body for _, _, body in functions]
-    frames = set([frame for body in bodies for frame in frames_of(body)])
-    if len(frames) > MOST_FRAMES:
-        raise InvalidProgram("frames", "")
-    interrupts = set([interrupt for body in bodies for interrupt in interrupts_of(body)])
-    if len(interrupts) > MOST_INTERRUPTS:
-        raise InvalidProgram("interrupts", "")
+def frames_of(rows):
+    """The sorted list of the frames that these statements take."""
+    return sorted(set([statement[2] for statement in rows if statement[0] == "take"]))
 
 
-def check_program(functions, most):
-    """Raise InvalidProgram unless these are the functions of a program, at most so many."""
+def interrupts_of(rows):
+    """The sorted list of the interrupts that these statements shut."""
+    return sorted(set([interrupt for statement in rows if statement[0] == "shut" for interrupt in statement[1]]))
+
+
+def checked_statements(functions, most):
+    """A dict from the functions of a program, at most so many, to the lists of their statements.
+
+    Raises InvalidProgram unless these are the functions of a program.
+    """
     check_heads(functions, most)
     params_of = {name: params for name, params, _ in functions}
+    statements_of = {}
     for function in functions:
-        _check_body_of(function, params_of)
-    for function in functions:
-        _check_calls(function, params_of)
-    _check_numbers(functions)
+        statements_of[function[0]] = _statements_of(function, params_of)
+    for name, rows in statements_of.items():
+        _check_calls(name, rows, params_of)
+    every = [statement for rows in statements_of.values() for statement in rows]
+    if len(frames_of(every)) > MOST_FRAMES:
+        raise InvalidProgram("frames", "")
+    if len(interrupts_of(every)) > MOST_INTERRUPTS:
+        raise InvalidProgram("interrupts", "")
+    return statements_of

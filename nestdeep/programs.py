@@ -1,8 +1,8 @@
 """Programs: functions that call one another."""
 
 from nestdeep.errors import UnknownFunction
-from nestdeep.functions import statements
-from nestdeep.programchecks import check_program, frames_of, interrupts_of
+from nestdeep.nodes import nodes_of
+from nestdeep.programchecks import checked_statements, frames_of, interrupts_of
 
 
 class Program:
@@ -11,9 +11,13 @@ class Program:
     MOST = 24
 
     def __init__(self, functions):
-        check_program(functions, self.MOST)
+        self._statements_of = checked_statements(functions, self.MOST)
         self._rows = sorted(functions, key=lambda row: row[0])
         self._functions_by_name = {row[0]: row for row in self._rows}
+        every = [statement for rows in self._statements_of.values() for statement in rows]
+        self._frames = frames_of(every)
+        self._interrupts = interrupts_of(every)
+        self._nodes = {}
 
     @classmethod
     def of(cls, *functions):
@@ -30,11 +34,11 @@ class Program:
 
     def frames(self):
         """The sorted list of the frames that occur."""
-        return sorted(set([frame for row in self._rows for frame in frames_of(row[2])]))
+        return list(self._frames)
 
     def interrupts(self):
         """The sorted list of the interrupts that occur."""
-        return sorted(set([interrupt for row in self._rows for interrupt in interrupts_of(row[2])]))
+        return list(self._interrupts)
 
     def _function(self, name):
         if not isinstance(name, str) or name not in self._functions_by_name:
@@ -49,10 +53,16 @@ class Program:
         """The body of a function."""
         return self._function(name)[2]
 
+    def nodes(self, name):
+        """The nodes of a function's body and the number of the first one; nobody changes them."""
+        if name not in self._nodes:
+            self._nodes[name] = nodes_of(self.body(name))
+        return self._nodes[name]
+
     def uses(self, name):
         """The sorted list of the functions that a function calls or passes."""
-        _, params, body = self._function(name)
-        calls = [statement for _, statement in statements(body) if statement[0] == "call"]
+        params = self.params(name)
+        calls = [statement for statement in self._statements_of[name] if statement[0] == "call"]
         called = [call[1] for call in calls]
         passed = [arg for call in calls for arg in call[2] if arg not in params]
         return sorted(set([*called, *passed]))

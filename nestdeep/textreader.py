@@ -1,7 +1,7 @@
 """A reader of the lines of programs: it knows their shapes and how deep they may stand."""
 
 from nestdeep.errors import InvalidText
-from nestdeep.functions import MOST_PARAMS, are_names
+from nestdeep.functions import MOST_PARAMS, are_names, is_name
 from nestdeep.values import number_in
 
 PLAIN_WORDS = ("room", "either", "loop", "stop", "else")
@@ -13,9 +13,10 @@ def _function_head(words):
 
 
 def _take(words):
-    if len(words) != 3 or number_in(words[1]) is None or not are_names(words[2:]):
+    if len(words) != 3 or not is_name(words[2]):
         return None
-    return ("take", number_in(words[1]), words[2])
+    count = number_in(words[1])
+    return None if count is None else ("take", count, words[2])
 
 
 def _shut(words):
@@ -28,13 +29,12 @@ def _call(words):
 
 
 def _do(words):
-    return words if len(words) == 2 and are_names(words[1:]) else None
+    return words if len(words) == 2 and is_name(words[1]) else None
 
 
 def _loop(words):
-    if len(words) != 2 or number_in(words[1]) is None:
-        return None
-    return ("loop", number_in(words[1]))
+    rounds = number_in(words[1]) if len(words) == 2 else None
+    return None if rounds is None else ("loop", rounds)
 
 
 SHAPES = {"function": _function_head, "take": _take, "shut": _shut, "call": _call, "do": _do, "loop": _loop}

@@ -10,7 +10,7 @@ def is_whole_number(value):
 
 def is_count(value, least):
     """Whether this is an integer from least on."""
-    return is_whole_number(value) and value >= least
+    return isinstance(value, int) and not isinstance(value, bool) and value >= least
 
 
 def is_list(value):
@@ -47,7 +47,6 @@ def fraction_sum(fractions):
 
 def number_in(word):
     """The number from 1 on that a word of a text writes, or None."""
-    digits = [sign for sign in word if "0" <= sign <= "9"]
-    if not digits or len(digits) < len(word) or word[0] == "0":
+    if not word.isdigit() or not word.isascii() or word[0] == "0":
         return None
     return int(word)

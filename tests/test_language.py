@@ -19,7 +19,7 @@ ERRORS = {"ValueError", "LookupError", "RuntimeError", "ArithmeticError"}
 METHODS = set(
     "append clear copy count endswith extend find get index insert isalnum isalpha isdigit islower isspace isupper items"
     " join keys ljust lower lstrip partition pop remove replace reverse rfind rjust rpartition rsplit rstrip setdefault"
-    " split splitlines startswith strip update upper values zfill bit_length removeprefix removesuffix".split())
+    " split splitlines startswith strip update upper values zfill bit_length isascii removeprefix removesuffix".split())
 DUNDERS = {"__init__", "__eq__", "__repr__", "__str__", "__len__", "__contains__", "__iter__"}
 BARRED = set(
     "register mro elements open input law version_info with_traceback add_note compile copyright credits delattr dir eval"
