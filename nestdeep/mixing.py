@@ -3,6 +3,7 @@
 from math import gcd
 
 from nestdeep.frames import frames_in, lies_within
+from nestdeep.hulls import left_over
 from nestdeep.tableau import Tableau
 from nestdeep.values import fraction
 
@@ -97,9 +98,11 @@ def parting_prices(line, lines):
 
 def corner_lines(lines):
     """The sorted tuple of the lines that the others do not cover."""
-    rest = sorted(set(lines))
-    for line in list(rest):
-        others = [other for other in rest if other != line]
-        if is_mixed(line, others):
-            rest = others
-    return tuple(rest)
+    if not lines:
+        return ()
+    frames = frames_in(lines)
+    rows = {}
+    for line in lines:
+        counts = dict(line)
+        rows[tuple([counts.get(frame, 0) for frame in frames])] = line
+    return tuple(sorted([rows[row] for row in left_over(list(rows), [])]))
