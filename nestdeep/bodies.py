@@ -6,12 +6,13 @@ from nestdeep.formchecks import MOST_CALLBACKS
 from nestdeep.forms import form_of_pack
 from nestdeep.functions import statements
 from nestdeep.packs import eithered, how_many, roomed, turned
-from nestdeep.plans import MOST_TERMS, plan_of
+from nestdeep.plans import MOST_TERMS, checked_plan, codes_of_statements
 
 
 def body_plan(body):
     """The plan of any body."""
-    return plan_of(body, [statement for _, statement in statements(body)])
+    rows = [statement for _, statement in statements(body)]
+    return checked_plan(codes_of_statements(rows), body)
 
 
 def body_form(body):
@@ -23,9 +24,8 @@ def body_form(body):
 def function_form(function):
     """The form of the body of a function, performed as a room."""
     name, _, body = function
-    rows = statements(body)
     try:
-        plan = plan_of(body, [statement for _, statement in rows])
+        plan = body_plan(body)
     except TooMany as error:
         raise TooMany(name) from error
     return form_of_pack(plan.codes, roomed(plan.result, plan.codes.nothing))

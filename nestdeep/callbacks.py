@@ -14,6 +14,13 @@ def is_callback(value):
     return is_name(value) or is_instance(value)
 
 
+def callback_of(statement):
+    """The callback that a statement calls, None if it calls none."""
+    if statement[0] == "do":
+        return statement[1]
+    return statement[1:] if statement[0] == "call" else None
+
+
 def callback_key(callback):
     """What callbacks are sorted by: names, then instances."""
     return (0, callback) if isinstance(callback, str) else (1, callback)
@@ -49,3 +56,8 @@ def sets_in_order(sets):
         if not [other for other in least if is_part(other, callbacks)]:
             least.append(callbacks)
     return tuple(least)
+
+
+def callbacks_in(rows):
+    """The tuple of the callbacks that some statements call, in callback order."""
+    return in_callback_order([callback_of(statement) for statement in rows if statement[0] in ("do", "call")])

@@ -51,6 +51,8 @@ class House:
         self.shut = shut
         self._interrupts = tuple(sorted(table))
         self._table = {interrupt: table[interrupt] for interrupt in self._interrupts}
+        # What nestdeep.houselines keeps for this house.
+        self.kept = None
 
     def handlers(self):
         """A dict from the interrupts that have handlers to these."""

@@ -53,7 +53,7 @@ def both_groups(groups, more):
     return result
 
 
-def _put_on(ends, groups):
+def put_groups(ends, groups):
     """The groups of each end put on each term."""
     result = {}
     for (shut, returned), rows in ends.items():
@@ -149,7 +149,7 @@ def turned(first, second):
     more = [returned | mask for _, returned in ends for mask in second[0]]
     result = behind_stop(first)[1]
     for tag, groups in second[1].items():
-        result[tag] = both_groups(result.get(tag, {}), _put_on(ends, groups))
+        result[tag] = both_groups(result.get(tag, {}), put_groups(ends, groups))
     if endless or more:
         return chosen([*endless, *more], result)
     # With the other tags there are only the terms of the first body, which are the least ones.
@@ -188,6 +188,6 @@ def looped(form, rounds, nothing):
     result = behind_stop(form)[1]
     if rounds > 1 and ends:
         earlier = _scaled_groups(ends, rounds - 1)
-        result = {tag: both_groups(groups, _put_on(earlier, groups)) for tag, groups in result.items()}
+        result = {tag: both_groups(groups, put_groups(earlier, groups)) for tag, groups in result.items()}
     result[END] = both_groups(before[END], _scaled_groups(ends, rounds))
     return chosen(endless, result)

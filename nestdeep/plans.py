@@ -1,5 +1,6 @@
 """Plans: the forms of all beginnings of a body, and of the bodies in it."""
 
+from nestdeep.callbacks import callback_of, callbacks_in
 from nestdeep.codes import END, Codes
 from nestdeep.errors import TooMany
 from nestdeep.formchecks import MOST_CALLBACKS
@@ -11,20 +12,12 @@ from nestdeep.packs import (
 MOST_TERMS = 60
 
 
-def callback_of(statement):
-    """The callback that a statement calls, None if it calls none."""
-    if statement[0] == "do":
-        return statement[1]
-    return statement[1:] if statement[0] == "call" else None
-
-
 def codes_of_statements(rows):
     """Codes for all that stands in these statements."""
-    calls = [callback_of(statement) for statement in rows]
     return Codes(
         [statement[2] for statement in rows if statement[0] == "take"],
         [interrupt for statement in rows if statement[0] == "shut" for interrupt in statement[1]],
-        [callback for callback in calls if callback is not None],
+        callbacks_in(rows),
     )
 
 
@@ -77,9 +70,8 @@ class Plan:
             self.wholes.append(whole)
 
 
-def plan_of(body, rows):
-    """The plan of a body, rows being the list of all statements in it."""
-    codes = codes_of_statements(rows)
+def checked_plan(codes, body):
+    """The plan of a body that has the callbacks of these codes; TooMany(None) if they are too many."""
     if len(codes.called) > MOST_CALLBACKS:
         raise TooMany(None)
     return Plan(codes, body)

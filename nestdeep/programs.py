@@ -18,6 +18,8 @@ class Program:
         self._frames = frames_of(every)
         self._interrupts = interrupts_of(every)
         self._nodes = {}
+        # What nestdeep.reckoner keeps for this program.
+        self.kept = None
 
     @classmethod
     def of(cls, *functions):
@@ -52,6 +54,10 @@ class Program:
     def body(self, name):
         """The body of a function."""
         return self._function(name)[2]
+
+    def statement_rows(self, name):
+        """The statements of a function, in the order of the text; nobody changes the list."""
+        return self._statements_of[name]
 
     def nodes(self, name):
         """The nodes of a function's body and the number of the first one; nobody changes them."""

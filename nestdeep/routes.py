@@ -4,9 +4,9 @@ A goal is a tuple (tag, shut, returned, row) that is in a packed form: some term
 on an end of what comes ahead, is just this goal.
 """
 
+from nestdeep.callbacks import callback_of
 from nestdeep.codes import CALLS, END
 from nestdeep.hulls import minus, scaled
-from nestdeep.plans import callback_of
 
 
 def has_goal(form, goal):
@@ -51,7 +51,7 @@ def _loop_route(statement, plan, goal):
     return ((rounds - 1, route(plan, end)),), route(plan, last)
 
 
-def _room_route(plan, goal):
+def route_in_room(plan, goal):
     """The step or the stop of a room, whose body has this plan, that reaches a goal of its form."""
     if goal[0] != END:
         return route(plan, goal)
@@ -63,7 +63,7 @@ def _room_route(plan, goal):
 def _inner_route(statement, plans, goal):
     """The step or the stop of a statement with bodies that reaches a goal of its form."""
     if statement[0] == "room":
-        return _room_route(plans[0], goal)
+        return route_in_room(plans[0], goal)
     if statement[0] == "loop":
         return _loop_route(statement, plans[0], goal)
     side = 0 if has_goal(plans[0].result, goal) else 1
@@ -133,3 +133,49 @@ def route(plan, goal):
         return _steps(plan, at, (END, shut, returned, row)), "call"
     end = _end_ahead(plan, at, (END, shut, returned, row))
     return (*_steps(plan, at, end), None), "now"
+
+
+def _first_end(form, allowed):
+    """An end of a form whose returned lies within the allowed ones, None if there is none."""
+    for (shut, returned), rows in _ends(form).items():
+        if returned | allowed == allowed:
+            return END, shut, returned, rows[0]
+    return None
+
+
+def _growing_round(plan, allowed):
+    """A way to the end of a plan's body, by what is allowed, that takes something; None if there is none."""
+    for (shut, returned), rows in _ends(plan.result).items():
+        taking = [row for row in rows if row != plan.codes.nothing]
+        if taking and returned | allowed == allowed:
+            return route(plan, (END, shut, returned, taking[0]))
+    return None
+
+
+def _endless_within(statement, plans, allowed):
+    """The stop and the round of a loop within a statement, as in endless_route, or None."""
+    for side, plan in enumerate(plans):
+        found = endless_route(plan, allowed)
+        if found is not None:
+            stops = {"room": found[0], "either": (side, found[0]), "loop": ((), found[0])}
+            return stops[statement[0]], found[1]
+    return None
+
+
+def endless_route(plan, allowed):
+    """A way to a loop without a bound, and a round of it that takes something; None if there is none.
+
+    Only the allowed callbacks, a mask, come back. What stands ahead of the first such loop is not
+    endless by them, so the forms have the ends that are needed.
+    """
+    for at, statement in enumerate(plan.block):
+        end = _first_end(plan.beginnings[at], allowed)
+        if end is None:
+            return None
+        found = _endless_within(statement, plan.inner[at], allowed)
+        if found is None and statement[:2] == ("loop", None):
+            around = _growing_round(plan.inner[at][0], allowed)
+            found = None if around is None else ("now", around)
+        if found is not None:
+            return (_steps(plan, at, end), found[0]), found[1]
+    return None

@@ -5,9 +5,9 @@ lists the callbacks that have returned in the sequence in which they did, and th
 comes next, None behind the last one. Of a value that is no way the walk is None.
 """
 
+from nestdeep.callbacks import callback_of
 from nestdeep.frames import multiplied, summed
 from nestdeep.functions import bodies_of, united
-from nestdeep.plans import callback_of
 from nestdeep.values import is_count, is_tuple_of, is_whole_number
 
 

@@ -1,0 +1,77 @@
+"""What is reckoned for a house, once for each: whether it is endless, its lines and their piles."""
+
+from nestdeep.errors import Endless, TooMany
+from nestdeep.forming import form_of
+from nestdeep.piles import Piles
+from nestdeep.plans import MOST_TERMS
+from nestdeep.reckoner import reckoner_of
+from nestdeep.rings import ring_of
+
+
+def house_forms(house):
+    """A tuple of the form of the task and a dict from the interrupts to the forms of their handlers."""
+    task = form_of(house.program, house.task)
+    return task, {interrupt: form_of(house.program, house.handler(interrupt)[0]) for interrupt in house}
+
+
+def open_interrupts(house):
+    """The sorted list of the interrupts that have handlers and that the house does not shut."""
+    return [interrupt for interrupt in house if interrupt not in house.shut]
+
+
+def endless_parts(house):
+    """The list of tuples (interrupt, function) for which the house is endless; the task's interrupt is None."""
+    task, handlers = house_forms(house)
+    parts = [(None, house.task)] if () in task.endless else []
+    for interrupt in open_interrupts(house):
+        if () in handlers[interrupt].endless:
+            parts.append((interrupt, house.handler(interrupt)[0]))
+    return parts
+
+
+def found_ring(house):
+    """A ring of the house, None if it is not endless."""
+    parts = endless_parts(house)
+    if not parts:
+        return None
+    interrupt, function = parts[0]
+    return interrupt, ring_of(house.program, function, ())
+
+
+def _told_terms(codes, interrupts, form, shut):
+    """The "now" terms of a form as tuples (row, mask, term), shut being shut, too."""
+    found = []
+    for term in form.terms:
+        if term[2] == "now":
+            mask = sum([1 << at for at, name in enumerate(interrupts) if name in term[1] or name in shut])
+            found.append((codes.row_of(term[0]), mask, term))
+    return found
+
+
+def _lines_and_piles(house):
+    """A dict from the lines of a house that is not endless to tuples of piles that have them."""
+    task, handlers = house_forms(house)
+    codes = reckoner_of(house.program, house.task).bodies.codes
+    interrupts = open_interrupts(house)
+    kinds = []
+    for interrupt in interrupts:
+        _, times, shut = house.handler(interrupt)
+        kinds.append((times, _told_terms(codes, interrupts, handlers[interrupt], shut)))
+    heap = Piles(kinds, _told_terms(codes, interrupts, task, ()), codes.nothing).whole()
+    found = {}
+    for row, piles in heap.items():
+        named = [(None if number is None else interrupts[number], count, term) for number, count, term in piles]
+        found[codes.line_of(row)] = tuple(named)
+    return found
+
+
+def piles_of_lines(house):
+    """A dict from the lines of a house to tuples of piles (interrupt, count, term); nobody changes it."""
+    if house.kept is None:
+        ring = found_ring(house)
+        if ring is not None:
+            raise Endless(ring)
+        house.kept = _lines_and_piles(house)
+    if len(house.kept) > MOST_TERMS:
+        raise TooMany(None)
+    return house.kept

@@ -1,0 +1,104 @@
+"""The greatest lines of a house that is not endless, and the piles of segments that have them.
+
+Only interrupts count that have handlers and are not in the house's own shut; they are told by
+numbers, sets of them by masks. A PILE is here a tuple (number, count, term) of so many segments of
+an interrupt's handler, one upon another, each at a place that reaches the term; number is None for
+the task. A HEAP is a dict from rows to tuples of piles that have them. It has the corners only:
+the other rows are covered by them, and so is what comes of the others with more upon them.
+
+Segments that shut nothing new are piled when the last moment for it has come, when their interrupt
+is shut or at the end: then most is shut, so most of the handler's terms can be chosen.
+"""
+
+from nestdeep.hulls import left_over, plus, scaled
+
+
+def _least(heap):
+    """The heap with the corners only."""
+    return {row: heap[row] for row in left_over(list(heap), [])} if len(heap) > 1 else heap
+
+
+def _upon(heap, other):
+    """The heap of each one of a heap with each one of another heap upon it."""
+    return _least({plus(row, more): (*piles, *upper) for row, piles in heap.items() for more, upper in other.items()})
+
+
+def _with_all(heap, other):
+    """The heap of what is in either."""
+    found = {row: piles for row, piles in heap.items()}
+    for row, piles in other.items():
+        found.setdefault(row, piles)
+    return _least(found)
+
+
+class Piles:
+    """kinds has for each number how often the handler may stand and its terms.
+
+    The terms are tuples (row, mask of what is shut then, term), those of the task likewise.
+    """
+
+    def __init__(self, kinds, task_terms, nothing):
+        self._kinds = kinds
+        self._task_terms = task_terms
+        self._nothing = nothing
+        self._above = {}
+        self._flat = {}
+
+    def _flat_heap(self, number, shut):
+        """The heap of single segments of a handler that shut nothing that is not shut already."""
+        if (number, shut) not in self._flat:
+            found = {row: ((number, 1, term),) for row, mask, term in self._kinds[number][1] if mask | shut == shut}
+            self._flat[number, shut] = _least(found)
+        return self._flat[number, shut]
+
+    def _bulk(self, shut, used, numbers):
+        """The heap of all segments left of these interrupts that shut nothing new."""
+        heap = {self._nothing: ()}
+        for number in numbers:
+            rest = self._kinds[number][0] - used[number]
+            flat = self._flat_heap(number, shut)
+            if rest > 0 and flat and list(flat) != [self._nothing]:
+                heap = _upon(heap, {scaled(row, rest): ((number, rest, pile[2]),) for row, (pile,) in flat.items()})
+        return heap
+
+    def _open(self, shut):
+        return [number for number in range(len(self._kinds)) if not shut >> number & 1]
+
+    def _closing(self, number, shut):
+        """A dict from the masks of what is shut then to heaps of single segments that shut something new."""
+        found = {}
+        for row, mask, term in self._kinds[number][1]:
+            if mask | shut != shut:
+                found.setdefault(mask | shut, {}).setdefault(row, ((number, 1, term),))
+        return found
+
+    def above(self, shut, used):
+        """The heap of what can stand above when just this is shut.
+
+        used has for each number how many segments of its handler stand below that shut something new.
+        """
+        if (shut, used) not in self._above:
+            heap = self._bulk(shut, used, self._open(shut))
+            for number in self._open(shut):
+                if used[number] < self._kinds[number][0]:
+                    more = (*used[:number], used[number] + 1, *used[number + 1:])
+                    for closed, heads in self._closing(number, shut).items():
+                        heap = _with_all(heap, self._closed(shut, more, closed, heads))
+            self._above[shut, used] = heap
+        return self._above[shut, used]
+
+    def _closed(self, shut, used, closed, heads):
+        """The heap with one of the heads, by which more is closed, between what is below it and above it."""
+        last = [number for number in self._open(shut) if closed >> number & 1]
+        return _upon(_upon(self._bulk(shut, used, last), heads), self.above(closed, used))
+
+    def whole(self):
+        """The heap of the house; the first pile is the task's."""
+        first = {}
+        for row, mask, term in self._task_terms:
+            first.setdefault(mask, {})[row] = ((None, 1, term),)
+        heap = {}
+        none_used = tuple([0 for _ in self._kinds])
+        for mask, tasks in first.items():
+            heap = _with_all(heap, _upon(_least(tasks), self.above(mask, none_used)))
+        return heap

@@ -1,0 +1,89 @@
+"""The forms of the functions and the instances of a program, each reckoned once for it."""
+
+from nestdeep.callbacks import in_callback_order
+from nestdeep.codes import CALLS, Codes, bits_of
+from nestdeep.errors import TooMany, UnknownFunction
+from nestdeep.forms import Form, form_of_pack
+from nestdeep.instancebodies import InstanceBodies
+from nestdeep.packs import chosen, how_many
+from nestdeep.plans import MOST_TERMS
+from nestdeep.solving import Solver
+
+MOST_INSTANCES = 60
+
+
+class Reckoner:
+    """What was reckoned for a program so far."""
+
+    def __init__(self, program):
+        self.bodies = InstanceBodies(program)
+        self.solver = Solver(self.bodies)
+        self._outcomes = {}
+        self._instance_forms = {}
+        self._body_forms = {}
+
+    def _outcome(self, name):
+        """The list of what a function needs, and the function of which there is too much, or None."""
+        needed = self.bodies.needed_by(name)
+        for function in sorted(set([instance[0] for instance in needed])):
+            if self.bodies.plan_for(function) is None:
+                return needed, function
+        if len(needed) > MOST_INSTANCES:
+            return needed, name
+        self.solver.solve(needed)
+        for instance in needed:
+            if how_many(self.solver.solved[instance]) > MOST_TERMS:
+                return needed, instance[0]
+        return needed, None
+
+    def needed_by(self, name):
+        """The list of the instances that a function needs; nobody changes it. Raises TooMany as form_of."""
+        if name not in self._outcomes:
+            self._outcomes[name] = self._outcome(name)
+        needed, many = self._outcomes[name]
+        if many is not None:
+            raise TooMany(many)
+        return needed
+
+    def form_for(self, name, instance):
+        """The Form of an instance that a function needs, with the function's parameters as callbacks."""
+        callbacks = tuple(sorted(self.bodies.heads[name]))
+        key = (instance, callbacks)
+        if key not in self._instance_forms:
+            endless, table = self.solver.solved[instance]
+            codes = self.bodies.codes
+            self._instance_forms[key] = Form.made(callbacks, codes.sets_of(endless), codes.terms_of(table))
+        return self._instance_forms[key]
+
+    def body_form_for(self, instance):
+        """The body Form of an instance."""
+        if instance not in self._body_forms:
+            self._body_forms[instance] = self._body_form(instance)
+        return self._body_forms[instance]
+
+    def _body_form(self, instance):
+        targets = self.bodies.targets_of(instance)
+        codes = Codes(self.bodies.codes.frame_names, self.bodies.codes.shut_names, in_callback_order(targets))
+        endless, table = self.bodies.pack_for(instance[0])
+        told = {}
+        for tag, groups in table.items():
+            other = tag if tag < CALLS else codes.tag_of[targets[tag - CALLS]]
+            for (shut, returned), rows in groups.items():
+                back = codes.callback_mask(_told(targets, returned))
+                told.setdefault(other, {}).setdefault((shut, back), []).extend(rows)
+        masks = [codes.callback_mask(_told(targets, mask)) for mask in endless]
+        return form_of_pack(codes, chosen(masks, told))
+
+
+def _told(targets, mask):
+    """The different targets of the callbacks of a mask."""
+    return in_callback_order([targets[at] for at in bits_of(mask)])
+
+
+def reckoner_of(program, function):
+    """The reckoner of a program that has this function."""
+    if function not in program:
+        raise UnknownFunction(function)
+    if program.kept is None:
+        program.kept = Reckoner(program)
+    return program.kept
