@@ -37,7 +37,7 @@ class ChainJudge:
         told = tag if tag in ("now", "end") else self.bodies.target(instance, tag)
         return line, shut, told, [self.bodies.target(instance, callback) for callback in passed], following
 
-    def returned(self, passed):
+    def returned_by(self, passed):
         """The sorted tuple of the parameters that have returned when these have; None if one never did."""
         names = []
         for target in passed:
@@ -59,7 +59,7 @@ class ChainJudge:
             found = self.followed(pair[0], pair[1])
             if found is None or found[2] != "end":
                 return False
-            names = self.returned(found[3])
+            names = self.returned_by(found[3])
             if names is None:
                 return False
             self._back[pair[0]] = names
@@ -76,7 +76,7 @@ class ChainJudge:
             if not self._is_link(pair) or pair[0] != tag:
                 return None
             found = self.followed(pair[0], pair[1])
-            back = None if found is None else self.returned(found[3])
+            back = None if found is None else self.returned_by(found[3])
             if back is None:
                 return None
             line, shut, names = summed([line, found[0]]), united(shut, found[1]), united(names, back)
@@ -107,7 +107,7 @@ class ChainJudge:
         turn = walk(found[4][2], around)
         if turn is None or turn[2] != "end" or turn[0] == ():
             return None
-        return self.returned([*found[3], *[self.bodies.target(instance, callback) for callback in turn[3]]])
+        return self.returned_by([*found[3], *[self.bodies.target(instance, callback) for callback in turn[3]]])
 
     def _calls_returned(self, first, ring):
         """What has returned around a ring of calls, None if it is none from the first instance on."""

@@ -4,9 +4,9 @@
 class Grouping:
     """Finds the groups of what can be come to, those that are called by a group ahead of it."""
 
-    def __init__(self, calls_of, done):
-        # A dict from instances to the lists of what they call; what is done is left out.
-        self.calls_of = calls_of
+    def __init__(self, bodies, done):
+        # Tells what an instance calls; what is done, the keys of a dict, is left out.
+        self.bodies = bodies
         self.done = done
         self.found_groups = []
         self._numbers = {}
@@ -14,17 +14,13 @@ class Grouping:
         self._waiting = []
         self._is_waiting = {}
 
-    def was_visited(self, instance):
-        """Whether the group of an instance was found."""
-        return instance in self._numbers
-
     def visit(self, instance):
         """Find the groups of all that can be come to from an instance that was not visited."""
         self._numbers[instance] = len(self._numbers)
         self._lowest[instance] = self._numbers[instance]
         self._waiting.append(instance)
         self._is_waiting[instance] = True
-        for called in self.calls_of[instance]:
+        for called in self.bodies.instances_in(instance):
             if called in self.done:
                 continue
             if called not in self._numbers:

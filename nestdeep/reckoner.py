@@ -30,8 +30,8 @@ class Reckoner:
                 return needed, function
         if len(needed) > MOST_INSTANCES:
             return needed, name
-        self.solver.solve(needed)
         for instance in needed:
+            self.solver.solve(instance)
             if how_many(self.solver.solved[instance]) > MOST_TERMS:
                 return needed, instance[0]
         return needed, None

@@ -52,15 +52,14 @@ class Solver:
         self.ends = {}
         self.solved = {}
 
-    def solve(self, instances):
-        """Reckon the forms of instances, among which are all that they call."""
-        calls_of = {instance: self.bodies.instances_in(instance) for instance in instances}
-        grouping = Grouping(calls_of, self.solved)
-        for instance in instances:
-            if instance not in self.solved and not grouping.was_visited(instance):
-                grouping.visit(instance)
+    def solve(self, instance):
+        """Reckon the form of an instance, and of all that it calls, unless this was done before."""
+        if instance in self.solved:
+            return
+        grouping = Grouping(self.bodies, self.solved)
+        grouping.visit(instance)
         for group in grouping.found_groups:
-            self._solve_group(group, len(group) > 1 or group[0] in calls_of[group[0]])
+            self._solve_group(group, len(group) > 1 or group[0] in self.bodies.instances_in(group[0]))
 
     def replaced(self, instance, mask):
         """The masks of parameters that must come back so that these callbacks of an instance do."""
@@ -99,7 +98,7 @@ class Solver:
                 told.setdefault((shut, mask), []).extend(rows)
         return told
 
-    def _parts(self, instance):
+    def _parts_of(self, instance):
         own, arcs = {}, {}
         targets = self.bodies.targets_of(instance)
         for tag, groups in self.bodies.pack_for(instance[0])[1].items():
@@ -126,7 +125,7 @@ class Solver:
 
     def _solve_group(self, group, is_ring):
         self._find_ends(group)
-        parts = {instance: self._parts(instance) for instance in group}
+        parts = {instance: self._parts_of(instance) for instance in group}
         endless = {instance: self._endless_alone(instance, parts[instance][1]) for instance in group}
         if is_ring:
             endless = self._endless_in_ring(parts, endless)
