@@ -26,9 +26,12 @@ class Chains:
         self.allowed = allowed
         # A dict from the instances that come back to ends of theirs, behind those that this needs.
         self.ready = {}
-        found = True
-        while found:
-            found = [instance for instance in needed if instance not in self.ready and self._get_ready(instance)]
+        grown = True
+        while grown:
+            grown = False
+            for instance in needed:
+                if instance not in self.ready and self._get_ready(instance):
+                    grown = True
 
     def _may_return(self, target):
         """Whether a target of an instance comes back, as far as is known."""
@@ -68,7 +71,7 @@ class Chains:
         found = walk(self.solver.bodies.blocks[instance[0]], way)
         return self._instances(instance, [*found[3], *walk(found[4][2], around)[3]])
 
-    def returns(self, links, ring=()):
+    def returns_for(self, links, ring=()):
         """The returns of a chain with these links, or of a ring with these links ahead of it."""
         waiting = [target for instance, way in links for target in self._passed(instance, way)]
         waiting.extend(self._passed_in_ring(ring) if ring else [])
@@ -89,7 +92,8 @@ class Chains:
     def _own_goal(self, instance, goal):
         """The goal of an instance that leads to a goal in all without a call of an instance, or None."""
         tag, shut, returned, row = goal
-        rows = [(tag, groups) for tag, groups in self.solver.bodies.pack_for(instance[0])[1].items() if tag < CALLS]
+        table = self.solver.bodies.pack_for(instance[0])[1]
+        rows = [(number, groups) for number, groups in table.items() if number < CALLS]
         for target, number, groups in self._groups_of(instance):
             if isinstance(target, str):
                 rows.append((number, groups))

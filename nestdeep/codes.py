@@ -80,12 +80,11 @@ class Codes:
     def _terms_with(self, tag, groups):
         """The list of the terms with one tag, in term order."""
         keyed = []
-        for (shut, returned), rows in groups.items():
-            names, numbers = self.shut_of(shut), bits_of(returned)
+        for (mask, returned), rows in groups.items():
+            names, numbers = self.shut_of(mask), bits_of(returned)
             keyed.extend([(self.line_of(row), names, numbers) for row in rows])
         told = ("now", "end", *self.called)[tag]
-        return [(line, names, told, tuple([self.called[at] for at in numbers]))
-                for line, names, numbers in sorted(keyed)]
+        return [(line, shut, told, tuple([self.called[at] for at in bits])) for line, shut, bits in sorted(keyed)]
 
     def terms_of(self, table):
         """The tuple of the terms of a table, in term order."""

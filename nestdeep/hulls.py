@@ -27,6 +27,14 @@ def is_below(row, other):
     return True
 
 
+def is_below_any(row, others):
+    """Whether one of the others has of each frame at least as many."""
+    for other in others:
+        if is_below(row, other):
+            return True
+    return False
+
+
 def _prices(wanted, rows):
     """Prices from 0 on at which the wanted one is worth more than each one of the rows; None if they cover it."""
     used = [at for at, count in enumerate(wanted) if count > 0]
@@ -45,9 +53,8 @@ def _prices(wanted, rows):
 
 def is_covered_row(wanted, rows):
     """Whether the rows, of which there may be none, cover the wanted one."""
-    for row in rows:
-        if is_below(wanted, row):
-            return True
+    if is_below_any(wanted, rows):
+        return True
     return len(rows) > 1 and len(wanted) > 1 and _prices(wanted, rows) is None
 
 
@@ -55,10 +62,7 @@ def _tops(rows):
     """The rows that lie below no other one, each once, the greatest first."""
     tops = []
     for row in reversed(sorted(set(rows))):
-        for top in tops:
-            if is_below(row, top):
-                break
-        else:
+        if not is_below_any(row, tops):
             tops.append(row)
     return tops
 

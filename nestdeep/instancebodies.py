@@ -75,7 +75,8 @@ class InstanceBodies:
         found = {first: True}
         waiting = [first]
         while waiting:
-            for instance in self.instances_in(waiting.pop()):
+            caller = waiting.pop()
+            for instance in self.instances_in(caller):
                 if instance not in found:
                     found[instance] = True
                     waiting.append(instance)

@@ -3,8 +3,9 @@
 from nestdeep.errors import InvalidChoice
 from nestdeep.frames import check_sizes, size_of
 from nestdeep.functions import united
+from nestdeep.nodes import BODY_END
 from nestdeep.steps import (
-    behind_statement, call_of, entry_behind, events_of, instance_called, is_at_end, moment_of, new_entry,
+    CALL_WORDS, behind_statement, call_of, entry_behind, events_of, instance_called, moment_of, new_entry, next_word,
 )
 
 
@@ -75,10 +76,11 @@ class Machine:
 
     def _go_on(self, event):
         entries = self._segments[-1][1]
-        instance = instance_called(self.house.program, entries[-1])
-        if instance is not None:
+        word = next_word(entries[-1])
+        if word in CALL_WORDS:
+            instance = instance_called(self.house.program, entries[-1])
             entries.append(new_entry(self.house.program, instance, self.line, self.shut))
-        elif not is_at_end(entries[-1]):
+        elif word != BODY_END:
             entries[-1] = entry_behind(entries[-1], event)
         elif len(entries) > 1:
             entries.pop()

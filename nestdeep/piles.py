@@ -61,7 +61,7 @@ class Piles:
                 heap = _upon(heap, {scaled(row, rest): ((number, rest, pile[2]),) for row, (pile,) in flat.items()})
         return heap
 
-    def _open(self, shut):
+    def _open_numbers(self, shut):
         return [number for number in range(len(self._kinds)) if not shut >> number & 1]
 
     def _closing(self, number, shut):
@@ -78,8 +78,8 @@ class Piles:
         used has for each number how many segments of its handler stand below that shut something new.
         """
         if (shut, used) not in self._above:
-            heap = self._bulk(shut, used, self._open(shut))
-            for number in self._open(shut):
+            heap = self._bulk(shut, used, self._open_numbers(shut))
+            for number in self._open_numbers(shut):
                 if used[number] < self._kinds[number][0]:
                     more = (*used[:number], used[number] + 1, *used[number + 1:])
                     for closed, heads in self._closing(number, shut).items():
@@ -89,7 +89,7 @@ class Piles:
 
     def _closed(self, shut, used, closed, heads):
         """The heap with one of the heads, by which more is closed, between what is below it and above it."""
-        last = [number for number in self._open(shut) if closed >> number & 1]
+        last = [number for number in self._open_numbers(shut) if closed >> number & 1]
         return _upon(_upon(self._bulk(shut, used, last), heads), self.above(closed, used))
 
     def whole(self):

@@ -48,7 +48,8 @@ class Plan:
     """beginnings has the packed forms of the first k statements, for k from 0 on.
 
     For each statement inner has the plans of its bodies, and wholes its packed form, None if it has
-    no bodies or is never come to. Raises TooMany(None) if a beginning, of the body or of one in it, has too many terms.
+    no bodies or is never come to. Raises TooMany(None) if a beginning, of the body or of one in it,
+    has too many terms.
     """
 
     def __init__(self, codes, body):

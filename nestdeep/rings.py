@@ -18,7 +18,7 @@ def chain_of(program, function, term):
     goal = reckoner.bodies.codes.packed_term(term)
     chains = Chains(reckoner.solver, reckoner.needed_by(function), goal[2])
     links = chains.links_to(reckoner.bodies.own_instance(function), goal)
-    return links, chains.returns(links)
+    return links, chains.returns_for(links)
 
 
 def ring_of(program, function, returned):
@@ -30,7 +30,7 @@ def ring_of(program, function, returned):
     allowed = reckoner.bodies.codes.callback_mask(returned)
     chains = Chains(reckoner.solver, reckoner.needed_by(function), allowed)
     links, ring = chains.ring_from(reckoner.bodies.own_instance(function))
-    return links, ring, chains.returns(links, ring)
+    return links, ring, chains.returns_for(links, ring)
 
 
 def chain_term(program, function, paper):

@@ -37,7 +37,8 @@ def _all_from(first, next_of):
     found = {one: True for one in first}
     waiting = list(first)
     while waiting:
-        for one in next_of[waiting.pop()]:
+        last = waiting.pop()
+        for one in next_of[last]:
             if one not in found:
                 found[one] = True
                 waiting.append(one)

@@ -10,8 +10,8 @@ statement is a loop that has begun rounds, their number is one more mark.
 
 from nestdeep.frames import with_more
 from nestdeep.functions import united
-from nestdeep.nodes import BODY_END
 
+CALL_WORDS = ("call", "do")
 GO = ("go",)
 LEFT = ("left",)
 RIGHT = ("right",)
@@ -36,19 +36,17 @@ def call_of(entry):
     return instance, nodes[at][1], taken[0], taken[1]
 
 
-def is_at_end(entry):
-    """Whether a call is at the end of its function's body."""
-    return entry[1][entry[2]][0] == BODY_END
+def next_word(entry):
+    """The word of the next node of a call."""
+    return entry[1][entry[2]][0]
 
 
 def instance_called(program, entry):
-    """The instance that the next statement calls, None if this is no call."""
+    """The instance that the next statement, a call, calls."""
     (function, args), nodes, at, _, _ = entry
-    word, _, statement, _, _ = nodes[at]
-    if word not in ("call", "do"):
-        return None
+    statement = nodes[at][2]
     passed = {param: arg for param, arg in zip(program.params(function), args)}
-    if word == "do":
+    if statement[0] == "do":
         return passed[statement[1]], ()
     return statement[1], tuple([passed.get(arg, arg) for arg in statement[2]])
 

@@ -54,6 +54,13 @@ class Small(Case):
             ((), (), "now", ()), ((("a", 1),), (), "now", ("c",)), ((("a", 1),), (), "end", ("c",)), ((), (), "c", ()),
         ))
 
+    def test_returns(self):
+        for body, returns in (
+            ((), ((),)), ((STOP,), ()), ((C,), (("c",),)), ((A, C, D), (("c", "d"),)), ((("either", (C,), (D, A)),), (("c",), ("d",))),
+            ((("either", (C,), (C, D, B)),), (("c",),)), ((("either", (), (C, B)),), ((),)), ((("loop", None, (A,)),), ()), ((D, ("either", (C, STOP), ())), (("d",),)),
+        ):
+            self.gives(returns, lambda: body_form(body).returns)
+
     def test_empty_bodies_and_blocks(self):
         empty = "form\nnow 0\nend 0\n"
         for body in ((), (("room", ()),), (("either", (), ()),), (("loop", 5, ()),), (("loop", None, ()),), (("loop", 1, ()),)):

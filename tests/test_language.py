@@ -134,6 +134,28 @@ class Language(unittest.TestCase):
         self.assertEqual(methods & attributes, set())
         self.assertEqual((methods | attributes) & set(dir(str) + dir(list) + dir(dict) + dir(set) + dir(int)) - DUNDERS, set())
 
+    def test_properties(self):
+        properties, others, attributes = set(), set(), set()
+        for _, node in walk(ast.ClassDef):
+            for part in node.body:
+                if isinstance(part, ast.FunctionDef):
+                    is_property = any(isinstance(one, ast.Name) and one.id == "property" for one in part.decorator_list)
+                    (properties if is_property else others).add(part.name)
+            attributes |= {one.attr for one in ast.walk(node) if isinstance(one, ast.Attribute) and isinstance(one.ctx, ast.Store)}
+        self.assertEqual(properties & (others | attributes), set())
+        self.assertEqual(properties, {"callbacks", "endless", "terms", "returns"})
+
+    def test_what_a_loop_goes_over_is_not_changed_in_it(self):
+        changing = {"append", "extend", "insert", "pop", "remove", "reverse", "clear", "update", "setdefault"}
+        for name, node in walk(ast.For):
+            over = {ast.dump(one) for one in ast.walk(node.iter) if isinstance(one, (ast.Name, ast.Attribute))}
+            for part in node.body + node.orelse:
+                for one in ast.walk(part):
+                    if isinstance(one, ast.Call) and isinstance(one.func, ast.Attribute) and one.func.attr in changing:
+                        self.assertNotIn(ast.dump(one.func.value), over, f"{name}:{one.lineno}")
+                    if isinstance(one, ast.Subscript) and isinstance(one.ctx, (ast.Store, ast.Del)):
+                        self.assertNotIn(ast.dump(one.value), over, f"{name}:{one.lineno}")
+
     def test_statements_and_expressions_that_are_not_used(self):
         self.none(walk((ast.Global, ast.AsyncFunctionDef, ast.Await, ast.GeneratorExp, ast.Set, ast.SetComp, ast.AnnAssign,
                         ast.Div, ast.MatMult, ast.With, ast.Match)))

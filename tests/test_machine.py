@@ -272,6 +272,15 @@ class Calls(MachineCase):
         self.stands(machine, call_at((0,)))
         self.is_same(machine.possible(), [ROUND, LEAVE])
 
+    def test_rounds_are_counted_around_blocks(self):
+        for inner, events in ((("either", (), ()), (LEFT, GO)), (("either", (), ()), (RIGHT, GO)), (("room", ()), (GO, GO)), (("loop", 3, ()), (ROUND, GO, LEAVE))):
+            machine = machine_of([("loop", 2, (("room", (inner,)), inner))])
+            for rounds in range(2):
+                self.is_same(machine.possible(), [ROUND, LEAVE])
+                for event in (ROUND, GO, *events, GO, *events, GO):
+                    machine.do(event)
+            self.is_same(machine.possible(), [LEAVE])
+
     def test_parameters(self):
         f = ("f", ("x", "y"), (("do", "y"), ("call", "g", ("x",)), ("call", "f", ("y", "x")), ("call", "f", ("a", "y"))))
         g = ("g", ("z",), (("do", "z"),))

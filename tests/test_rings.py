@@ -235,6 +235,18 @@ class Rings(Case):
             self.holds(False, program, ("d",), ((), ring, returns))
         self.holds(True, program, ("c",), ring_of(program, "f", ("c",)))
 
+    def test_loops_within_statements(self):
+        inner = ("loop", None, (("either", (), (DO_C, A)),))
+        for body in ((inner,), (("room", (B, inner)),), (("either", (inner,), (DO_D,)),), (("either", (DO_D,), (U, inner)),), (("loop", 7, (B, inner)),),
+                     (("loop", None, (inner,)),), (DO_D, ("room", (("loop", 2, (B, inner)),))), (("either", (STOP,), (DO_D,)), inner, inner),
+                     (("loop", 2, (DO_D, STOP)), ("room", ()), inner), (DO_C, inner, STOP), (("room", (("either", (inner,), (inner,)),)),)):
+            program = Program([("f", ("c", "d"), body)])
+            for returned in form_of(program, "f").endless:
+                paper = ring_of(program, "f", returned)
+                self.holds(True, program, returned, paper)
+                self.assertLessEqual(judged_ring(program, "f", paper), set(returned))
+            self.assertIn("c", form_of(program, "f").endless[0])
+
     def test_unknown_sets(self):
         program = Program([("f", ("c", "d"), (DO_C, ("loop", None, (A,)), DO_D))])
         for returned in (*ODD_VALUES, (), ("d",), ("c", "d"), ["c"], "c", ("x",)):

@@ -117,7 +117,7 @@ class Reach(Case):
             ((A,), ((None, None), "end")), ((A,), ((), "end")), ((A,), ((None, None), "now")), ((A,), ((True,), "end")), ((A,), (((),), "end")),
             ((A,), ((), "call")), ((A,), ((None,), "call")), ((C,), ((None,), "call")), ((A,), ([None], "end")), ((A,), [(None,), "end"]),
             ((A,), ((None,), "End")), ((A,), ((None,), "now", ())), ((A,), ((None,),)), ((), ((), "call")), ((), ((), EMPTY)), ((A,), ((), EMPTY)),
-            ((C,), ((("c",),), "end")), ((U,), (("u",), "end")),
+            ((C,), ((("c",),), "end")), ((U,), (("u",), "end")), ((C,), ((), "later")), ((C,), ((), "")), ((C,), ((), "end")), ((C,), ((), "c")),
             ((room,), ((None,), "end")), ((room,), ((EMPTY,), "end")), ((room,), ((((None,), "now"),), "end")), ((room,), ((), through)),
             ((room,), ((), EMPTY)), ((room,), (([(None,), "end"],), "end")), ((room,), ((through,), ((None,), "now"))), ((room,), ((), "call")),
             ((room,), ((), (0, ((), "now")))),
@@ -144,6 +144,19 @@ class WayTo(Case):
             for term in body_form(body).terms:
                 self.is_same(reach(body, way_to(body, term)), term, body)
 
+    def test_choices_in_turn(self):
+        """Many ends, which differ in what is taken, what is shut and what has returned."""
+        chance = random.Random(9)
+        for _ in range(300):
+            parts = [A, B, ("take", 2, "a"), U, ("shut", ("v",)), C, D, ("loop", 2, (A, U)), ("loop", 2, (("either", (B, C), (U, A)),)), ("room", (U, A, C))]
+            body = tuple(("either", tuple(chance.sample(parts, 2)), tuple(chance.sample(parts, chance.randint(1, 3)))) for _ in range(3))
+            try:
+                terms = body_form(body).terms
+            except TooMany:
+                continue
+            for term in terms:
+                self.is_same(reach(body, way_to(body, term)), term, body)
+
     def test_big_forms(self):
         bodies = [curve(30), (("loop", 9, curve(30)),), (("room", curve(30)), C, *curve(12)), (*curve(5), ("loop", 3, (*curve(3), C))),
                   (("loop", 2, (("loop", MOST, (A, U, C, B)), ("either", (D,), (STOP,)))), C, ("room", (D, A)))]
@@ -163,7 +176,7 @@ class WayTo(Case):
         body = (("loop", 5, (A, U)), C)
         for term in (
             *ODD_VALUES, ((), (), "now", ()), ((("a", 4),), ("u",), "now", ()), ((("a", 5),), ("u",), "end", ()), ((("z", 1),), (), "now", ()),
-            ((("a", 5),), ("u", "v"), "now", ()), ((), (), "d", ()), ((), (), "end", ("d",)), [(), (), "end", ("c",)], ((), (), ("g", ()), ()),
+            ((("a", 5),), ("u", "v"), "now", ()), ((("a", 5), ("z", 1)), ("u",), "now", ()), ((), (), "d", ()), ((), (), "end", ("d",)), [(), (), "end", ("c",)], ((), (), ("g", ()), ()),
         ):
             with self.assertRaises(UnknownTerm) as caught:
                 way_to(body, term)
