@@ -85,7 +85,7 @@ class ChainJudge:
 
     def chain_term(self, paper):
         """The term that a chain reaches, None if this is no chain."""
-        if not is_tuple_of(paper, 2) or not isinstance(paper[0], tuple) or not paper[0]:
+        if not is_tuple_of(paper, 2) or not isinstance(paper[0], tuple):
             return None
         links, returns = paper
         found = self.run(self.own, links) if self.takes_returns(returns) else None
@@ -97,9 +97,12 @@ class ChainJudge:
         return line, shut, tag, names
 
     def _loop_returned(self, first, ring):
-        """What has returned around a ring that is a loop, None if it is none from the first instance on."""
+        """What has returned around a ring that is a loop, None if it is none from the first instance on.
+
+        first may also be "now", "end" or a parameter, where no ring begins.
+        """
         _, instance, way, around = ring
-        if not self._is_instance(instance) or instance != first:
+        if instance != first:
             return None
         found = self.followed(instance, way)
         if found is None or found[2] != "now" or found[4] is None or found[4][:2] != ("loop", None):
@@ -122,7 +125,7 @@ class ChainJudge:
         if not isinstance(ring, tuple) or not ring or not self.takes_returns(returns):
             return None
         ahead = self.run(self.own, links)
-        if ahead is None or isinstance(ahead[2], str):
+        if ahead is None:
             return None
         if isinstance(ring[0], str):
             around = self._loop_returned(ahead[2], ring) if ring[0] == "loop" and len(ring) == 4 else None

@@ -69,6 +69,8 @@ def _check_order(terms):
 
 def _check_least(callbacks, terms):
     """Check terms that are different."""
+    if len(terms) < 2:
+        return
     codes = Codes(
         [frame for term in terms for frame, _ in term[0]], [name for term in terms for name in term[1]], callbacks)
     table = codes.table_of(terms)

@@ -36,6 +36,8 @@ def helping_rows(groups, shut, returned):
 
 def least_groups(groups):
     """The groups, all with one tag, of the terms that the other ones do not cover."""
+    if len(groups) == 1:
+        return {key: left_over(rows, []) for key, rows in groups.items()}
     least = {}
     # Within a shut and a returned lie only such as come ahead of them.
     for key in sorted(groups):

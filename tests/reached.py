@@ -87,3 +87,11 @@ def some_body(random, depth=0, most=5, loops=(1, 2, 3, None), frames="ab", inter
         else:
             body.append(("stop",))
     return tuple(body)
+
+
+def choices_in_turn(random, frames="ab", many=3):
+    """A body with many ends, which differ in what is taken, what is shut and what has returned."""
+    parts = [("take", count, frame) for frame in frames for count in (1, 2)] + [("shut", ("u",)), ("shut", ("v",)), ("do", "c"), ("do", "d")]
+    parts.append(("loop", 2, (("take", 1, "a"), random.choice(parts))))
+    parts.append(("room", (random.choice(parts), ("shut", ("v",)), random.choice(parts))))
+    return tuple(("either", tuple(random.sample(parts, 2)), tuple(random.sample(parts, random.randint(1, 3)))) for _ in range(many))

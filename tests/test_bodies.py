@@ -8,7 +8,7 @@ from nestdeep.formtexts import form_text, read_form
 from nestdeep.loops import loop
 from nestdeep.terms import least_sets, least_terms
 from tests.helpers import BIG, ODD_VALUES, Case
-from tests.reached import reached, some_body
+from tests.reached import choices_in_turn, reached, some_body
 
 A, B, U, C, D, STOP = ("take", 1, "a"), ("take", 1, "b"), ("shut", ("u",)), ("do", "c"), ("do", "d"), ("stop",)
 MOST = 10 ** 12
@@ -327,6 +327,16 @@ class Performed(Case):
             self.is_same(form.endless, (), body)
             if len(found) < 300:
                 self.is_same(form.terms, least_terms(found), body)
+
+    def test_many_ends(self):
+        chance = random.Random(8)
+        tried = 0
+        while tried < 150:
+            body = choices_in_turn(chance, chance.choice(("a", "ab", "abx")), chance.choice((2, 2, 3)))
+            found = reached(body)
+            if len(found) <= 80:
+                tried += 1
+                self.is_same(body_form(body).terms, least_terms(found), body)
 
     def test_loops_without_a_bound(self):
         chance = random.Random(6)

@@ -156,6 +156,14 @@ class Faults(Case):
         claim = {("f", ()): read_form("form\nnow 0\nend 0\n"), ("g", ()): read_form("form\nnow 2 a\nnow 3 a shut u\nend 0\n")}
         self.gives(("term", ("f", ()), ((("a", 2),), (), "now", ())), claim_fault, program, "f", claim)
 
+    def test_mixes_of_what_is_claimed(self):
+        program = Program([("f", (), (call("g"),)), ("g", (), (A, B))])
+        claim = {("f", ()): read_form("form\nnow 2 a\nnow 2 b\nend 0\n"), ("g", ()): read_form("form\nnow 1 a + 1 b\nend 0\n")}
+        self.gives(None, claim_fault, program, "f", claim)
+        for text in ("form\nnow 2 a\nnow 1 b\nend 0\n", "form\nnow 2 a\nnow 2 b shut u\nend 0\n", "form\nnow 1 a\nend 0\n", "form\nnow 9 a\nend 0\n", "form\nnow 0\nend 0\n"):
+            claim[("f", ())] = read_form(text)
+            self.gives(("term", ("f", ()), ((("a", 1), ("b", 1)), (), "now", ())), claim_fault, program, "f", claim)
+
     def test_of_some_programs(self):
         chance = random.Random(32)
         kinds = {}

@@ -6,6 +6,7 @@ from nestdeep.forming import form_of
 from nestdeep.programs import Program
 from nestdeep.rings import chain_of, chain_term, is_ring, ring_of
 from tests.helpers import ODD_VALUES, Case
+from tests.reached import choices_in_turn
 from tests.programs import judged_chain, judged_ring, some_functions
 
 A, B, U, STOP = ("take", 1, "a"), ("take", 1, "b"), ("shut", ("u",)), ("stop",)
@@ -140,7 +141,8 @@ class Small(Case):
             self.gives(term, chain_term, self.PROGRAM, "f", paper)
             self.gives(paper, chain_of, program=self.PROGRAM, function="f", term=term)
             self.gives(term, chain_term, program=self.PROGRAM, function="f", paper=paper)
-        for term in (*ODD_VALUES, ((), (), "now", ("c",)), ((("a", 1),), (), "now", ()), ((("zz", 1),), (), "now", ()), ((), (), ("t", ()), ()), list(form.terms[0])):
+        for term in (*ODD_VALUES, ((), (), "now", ("c",)), ((("a", 1),), (), "now", ()), ((("zz", 1),), (), "now", ()), (form.terms[0][0], *form.terms[0][1:3], list(form.terms[0][3])),
+                     (tuple((frame, True if count == 1 else count) for frame, count in form.terms[-1][0]), *form.terms[-1][1:]), ((), (), ("t", ()), ()), list(form.terms[0])):
             with self.assertRaises(UnknownTerm) as caught:
                 chain_of(self.PROGRAM, "f", term)
             self.assertIs(caught.exception.value, term)
@@ -292,6 +294,27 @@ class Some(Case):
         self.assertGreater(terms, 1500)
         self.assertGreater(rings, 100)
 
+    def test_many_shuts(self):
+        """Terms with the same lines whose shuts and whose returned differ, along several calls."""
+        chance = random.Random(23)
+        count = 0
+        for _ in range(120):
+            rows = [("f", ("c", "d"), (*choices_in_turn(chance, "ab", 1), ("either", (call("g", "c"),), (call("h", "d", "c"),)))),
+                    ("g", ("x",), tuple(rename(one, {"c": "x", "d": "x"}) for one in choices_in_turn(chance, "ab", chance.randint(1, 2)))),
+                    ("h", ("x", "y"), (*rename(choices_in_turn(chance, "ab", 1), {"c": "x", "d": "y"}), call("g", chance.choice("xy")), U, ("do", "y")))]
+            program = Program(rows)
+            for name in "fgh":
+                try:
+                    terms = form_of(program, name).terms
+                except TooMany:
+                    continue
+                for term in terms:
+                    paper = chain_of(program, name, term)
+                    self.is_same(chain_term(program, name, paper), term, rows)
+                    self.is_same(judged_chain(program, name, paper), term, rows)
+                    count += 1
+        self.assertGreater(count, 1000)
+
     def test_spoilt_papers(self):
         chance = random.Random(22)
         counts = {True: 0, False: 0}
@@ -330,6 +353,12 @@ class Some(Case):
             wanted = False
         self.is_same(is_ring(program, name, returned, paper), wanted, (program, name, returned, paper))
         return wanted
+
+
+def rename(value, names):
+    if isinstance(value, tuple):
+        return tuple(rename(item, names) for item in value)
+    return names.get(value, value) if isinstance(value, str) else value
 
 
 def is_shaped(paper, size):

@@ -5,7 +5,7 @@ from nestdeep.bodies import body_form
 from nestdeep.errors import InvalidBody, InvalidWay, TooMany, UnknownTerm
 from nestdeep.ways import reach, way_to
 from tests.helpers import BIG, ODD_VALUES, Case
-from tests.reached import some_body
+from tests.reached import choices_in_turn, some_body
 from tests.test_bodies import curve
 
 A, B, U, C, D, STOP = ("take", 1, "a"), ("take", 1, "b"), ("shut", ("u",)), ("do", "c"), ("do", "d"), ("stop",)
@@ -147,9 +147,8 @@ class WayTo(Case):
     def test_choices_in_turn(self):
         """Many ends, which differ in what is taken, what is shut and what has returned."""
         chance = random.Random(9)
-        for _ in range(300):
-            parts = [A, B, ("take", 2, "a"), U, ("shut", ("v",)), C, D, ("loop", 2, (A, U)), ("loop", 2, (("either", (B, C), (U, A)),)), ("room", (U, A, C))]
-            body = tuple(("either", tuple(chance.sample(parts, 2)), tuple(chance.sample(parts, chance.randint(1, 3)))) for _ in range(3))
+        for _ in range(100):
+            body = choices_in_turn(chance)
             try:
                 terms = body_form(body).terms
             except TooMany:
