@@ -2,8 +2,8 @@
 
 from nestdeep.errors import Endless, TooMany
 from nestdeep.forming import form_of
-from nestdeep.piles import Piles
-from nestdeep.plans import MOST_TERMS
+from nestdeep.packs import least_groups
+from nestdeep.piles import MOST_LINES, Piles
 from nestdeep.reckoner import reckoner_of
 from nestdeep.rings import ring_of
 
@@ -39,13 +39,20 @@ def found_ring(house):
 
 
 def _told_terms(codes, interrupts, form, shut):
-    """The "now" terms of a form as tuples (row, mask, term), shut being shut, too."""
-    found = []
+    """The "now" terms of a form as tuples (row, mask, term), shut being shut, too.
+
+    Only these interrupts count, so that some terms can be covered by others now.
+    """
+    groups = {}
+    terms = {}
     for term in form.terms:
         if term[2] == "now":
             mask = sum([1 << at for at, name in enumerate(interrupts) if name in term[1] or name in shut])
-            found.append((codes.row_of(term[0]), mask, term))
-    return found
+            row = codes.row_of(term[0])
+            groups.setdefault((mask, 0), []).append(row)
+            terms.setdefault((mask, row), term)
+    least = least_groups(groups)
+    return [(row, mask, terms[mask, row]) for (mask, _), rows in least.items() for row in rows]
 
 
 def _lines_and_piles(house):
@@ -65,13 +72,23 @@ def _lines_and_piles(house):
     return found
 
 
+def _lines_if_few(house):
+    """The lines with their piles, an empty dict if there are too many."""
+    try:
+        found = _lines_and_piles(house)
+    except TooMany:
+        return {}
+    return found if len(found) <= MOST_LINES else {}
+
+
 def piles_of_lines(house):
     """A dict from the lines of a house to tuples of piles (interrupt, count, term); nobody changes it."""
     if house.kept is None:
         ring = found_ring(house)
         if ring is not None:
             raise Endless(ring)
-        house.kept = _lines_and_piles(house)
-    if len(house.kept) > MOST_TERMS:
+        house.kept = _lines_if_few(house)
+    # Each house that is not endless has a line.
+    if not house.kept:
         raise TooMany(None)
     return house.kept

@@ -35,7 +35,7 @@ def is_below_any(row, others):
     return False
 
 
-def _prices(wanted, rows):
+def prices_apart(wanted, rows):
     """Prices from 0 on at which the wanted one is worth more than each one of the rows; None if they cover it."""
     used = [at for at, count in enumerate(wanted) if count > 0]
     for at in used:
@@ -55,7 +55,7 @@ def is_covered_row(wanted, rows):
     """Whether the rows, of which there may be none, cover the wanted one."""
     if is_below_any(wanted, rows):
         return True
-    return len(rows) > 1 and len(wanted) > 1 and _prices(wanted, rows) is None
+    return len(rows) > 1 and len(wanted) > 1 and prices_apart(wanted, rows) is None
 
 
 def _tops(rows):
@@ -83,7 +83,7 @@ def _corners_of_two(tops):
     return chain
 
 
-def _dearest(tops, prices):
+def dearest(tops, prices):
     """The top that is worth the most; of several the greatest one, which is a corner then."""
     return max([(sum([top[at] * price for at, price in prices.items()]), top) for top in tops])[1]
 
@@ -94,13 +94,13 @@ def _corners(tops):
     Each top that the corners known so far do not cover is parted from them by prices, and what is
     worth the most at these prices is a new corner.
     """
-    known = [_dearest(tops, {at: 1 for at in range(len(tops[0]))})]
+    known = [dearest(tops, {at: 1 for at in range(len(tops[0]))})]
     for top in tops:
         while top not in known:
-            prices = _prices(top, known)
+            prices = prices_apart(top, known)
             if prices is None:
                 break
-            known.append(_dearest(tops, prices))
+            known.append(dearest(tops, prices))
     return known
 
 

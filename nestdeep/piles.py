@@ -10,45 +10,75 @@ Segments that shut nothing new are piled when the last moment for it has come, w
 is shut or at the end: then most is shut, so most of the handler's terms can be chosen.
 """
 
-from nestdeep.hulls import left_over, plus, scaled
+from nestdeep.errors import TooMany
+from nestdeep.hulls import dearest, left_over, plus, prices_apart, scaled
+
+MOST_LINES = 60
+# From so many rows on it is asked first whether the house has too many lines; so many rows tell where to look.
+MANY_ROWS = 400
+SOME_ROWS = 200
 
 
-def _least(heap):
-    """The heap with the corners only."""
-    return {row: heap[row] for row in left_over(list(heap), [])} if len(heap) > 1 else heap
-
-
-def _upon(heap, other):
-    """The heap of each one of a heap with each one of another heap upon it."""
-    return _least({plus(row, more): (*piles, *upper) for row, piles in heap.items() for more, upper in other.items()})
-
-
-def _with_all(heap, other):
-    """The heap of what is in either."""
-    found = {row: piles for row, piles in heap.items()}
-    for row, piles in other.items():
+def _add_all(found, heap):
+    """Add to a dict what is in a heap."""
+    for row, piles in heap.items():
         found.setdefault(row, piles)
-    return _least(found)
 
 
 class Piles:
     """kinds has for each number how often the handler may stand and its terms.
 
-    The terms are tuples (row, mask of what is shut then, term), those of the task likewise.
+    The terms are tuples (row, mask of what is shut then, term), those of the task likewise. With
+    prices, a dict from the numbers of frames to their prices, a heap has only the one row that is
+    worth the most, of several the greatest: a corner.
     """
 
-    def __init__(self, kinds, task_terms, nothing):
+    def __init__(self, kinds, task_terms, nothing, prices=None):
         self._kinds = kinds
+        self._prices = prices
+        self._was_asked = prices is not None
         self._task_terms = task_terms
         self._nothing = nothing
         self._above = {}
         self._flat = {}
 
+    def _least(self, heap):
+        """The heap with the corners only."""
+        if len(heap) < 2:
+            return heap
+        if self._prices is not None:
+            row = dearest(list(heap), self._prices)
+            return {row: heap[row]}
+        if len(heap) > MANY_ROWS and not self._was_asked:
+            self._was_asked = True
+            self._ask(list(heap))
+        return {row: heap[row] for row in left_over(list(heap), [])}
+
+    def _ask(self, rows):
+        """Raise TooMany(None) if the house is seen to have too many lines, at prices that part some rows."""
+        some = left_over(rows[::len(rows) // SOME_ROWS], [])
+        found = {}
+        for row in some:
+            others = [other for other in some if other != row]
+            prices = prices_apart(row, others) if others else {0: 1}
+            for line in Piles(self._kinds, self._task_terms, self._nothing, prices).whole():
+                found[line] = True
+            if len(found) > MOST_LINES:
+                raise TooMany(None)
+
+    def _upon(self, heap, other):
+        """The heap of each one of a heap with each one of another heap upon it."""
+        found = {}
+        for row, piles in heap.items():
+            for more, upper in other.items():
+                found[plus(row, more)] = (*piles, *upper)
+        return self._least(found)
+
     def _flat_heap(self, number, shut):
         """The heap of single segments of a handler that shut nothing that is not shut already."""
         if (number, shut) not in self._flat:
             found = {row: ((number, 1, term),) for row, mask, term in self._kinds[number][1] if mask | shut == shut}
-            self._flat[number, shut] = _least(found)
+            self._flat[number, shut] = self._least(found)
         return self._flat[number, shut]
 
     def _bulk(self, shut, used, numbers):
@@ -58,7 +88,7 @@ class Piles:
             rest = self._kinds[number][0] - used[number]
             flat = self._flat_heap(number, shut)
             if rest > 0 and flat and list(flat) != [self._nothing]:
-                heap = _upon(heap, {scaled(row, rest): ((number, rest, pile[2]),) for row, (pile,) in flat.items()})
+                heap = self._upon(heap, {scaled(row, rest): ((number, rest, pile[2]),) for row, (pile,) in flat.items()})
         return heap
 
     def _open_numbers(self, shut):
@@ -75,30 +105,33 @@ class Piles:
     def above(self, shut, used):
         """The heap of what can stand above when just this is shut.
 
-        used has for each number how many segments of its handler stand below that shut something new.
+        used has for each number that can come how many segments of its handler stand below that shut
+        something new, 0 for each that is shut.
         """
         if (shut, used) not in self._above:
-            heap = self._bulk(shut, used, self._open_numbers(shut))
+            found = {}
+            _add_all(found, self._bulk(shut, used, self._open_numbers(shut)))
             for number in self._open_numbers(shut):
                 if used[number] < self._kinds[number][0]:
                     more = (*used[:number], used[number] + 1, *used[number + 1:])
                     for closed, heads in self._closing(number, shut).items():
-                        heap = _with_all(heap, self._closed(shut, more, closed, heads))
-            self._above[shut, used] = heap
+                        _add_all(found, self._closed(shut, more, closed, heads))
+            self._above[shut, used] = self._least(found)
         return self._above[shut, used]
 
     def _closed(self, shut, used, closed, heads):
         """The heap with one of the heads, by which more is closed, between what is below it and above it."""
         last = [number for number in self._open_numbers(shut) if closed >> number & 1]
-        return _upon(_upon(self._bulk(shut, used, last), heads), self.above(closed, used))
+        later = tuple([0 if closed >> number & 1 else many for number, many in enumerate(used)])
+        return self._upon(self._upon(self._bulk(shut, used, last), heads), self.above(closed, later))
 
     def whole(self):
         """The heap of the house; the first pile is the task's."""
         first = {}
         for row, mask, term in self._task_terms:
             first.setdefault(mask, {})[row] = ((None, 1, term),)
-        heap = {}
+        found = {}
         none_used = tuple([0 for _ in self._kinds])
         for mask, tasks in first.items():
-            heap = _with_all(heap, _upon(_least(tasks), self.above(mask, none_used)))
-        return heap
+            _add_all(found, self._upon(self._least(tasks), self.above(mask, none_used)))
+        return self._least(found)
