@@ -1,6 +1,6 @@
 """Whether a claim holds: it is put into the body forms, and what results must be in it already."""
 
-from nestdeep.codes import Codes
+from nestdeep.codes import codes_of_terms
 from nestdeep.hulls import is_covered_row, plus
 from nestdeep.packs import has_any_within, helping_rows
 
@@ -11,8 +11,7 @@ class ClaimCheck:
     def __init__(self, claim, body_forms, params):
         every = [*claim.values(), *body_forms.values()]
         terms = [term for form in every for term in form.terms]
-        self.codes = Codes(
-            [frame for term in terms for frame, _ in term[0]], [name for term in terms for name in term[1]], params)
+        self.codes = codes_of_terms(terms, params)
         self._body_forms = body_forms
         self._claimed = {instance: self.codes.packed(form) for instance, form in claim.items()}
         self._backs = {}

@@ -99,11 +99,13 @@ class Codes:
         return tuple([tuple([self.called[at] for at in numbers]) for _, numbers in sorted(keyed)])
 
 
+def codes_of_terms(terms, callbacks):
+    """Codes for all that stands in some terms, and for these callbacks."""
+    frames = [frame for term in terms for frame, _ in term[0]]
+    return Codes(frames, [name for term in terms for name in term[1]], callbacks)
+
+
 def codes_of_forms(forms):
     """Codes for all that stands in several Forms."""
-    terms = [term for form in forms for term in form.terms]
-    return Codes(
-        [frame for term in terms for frame, _ in term[0]],
-        [interrupt for term in terms for interrupt in term[1]],
-        [callback for form in forms for callback in form.callbacks],
-    )
+    callbacks = [callback for form in forms for callback in form.callbacks]
+    return codes_of_terms([term for form in forms for term in form.terms], callbacks)

@@ -1,14 +1,13 @@
 """What makes callbacks, endless sets and terms a form: the checks, in the order of the document."""
 
 from nestdeep.callbacks import callback_key, is_callback, is_callback_set, is_part, sets_in_order
-from nestdeep.codes import Codes
+from nestdeep.codes import CALLS, NOW, codes_of_terms
 from nestdeep.covering import PLAIN_TAGS, is_term_mixed, term_key
 from nestdeep.errors import InvalidForm
-from nestdeep.packs import how_many, least_groups
+from nestdeep.packs import covers, how_many, least_groups
 from nestdeep.terms import is_term
 
 MOST_CALLBACKS = 8
-START = ((), (), "now", ())
 
 
 def first_wrong_callback(callbacks):
@@ -67,13 +66,8 @@ def _check_order(terms):
             raise InvalidForm("order", terms[at])
 
 
-def _check_least(callbacks, terms):
-    """Check terms that are different."""
-    if len(terms) < 2:
-        return
-    codes = Codes(
-        [frame for term in terms for frame, _ in term[0]], [name for term in terms for name in term[1]], callbacks)
-    table = codes.table_of(terms)
+def _check_least(terms, table):
+    """Check terms that are different, and have this table."""
     if how_many(([], {tag: least_groups(groups) for tag, groups in table.items()})) == len(terms):
         return
     for term in terms:
@@ -92,29 +86,45 @@ def _check_under(endless, terms):
             raise InvalidForm("under", term)
 
 
-def _check_calls(terms):
+def _check_calls(terms, codes, table):
     for term in terms:
-        line, shut, tag, returned = term
-        if tag not in PLAIN_TAGS and not is_term_mixed((line, shut, "now", returned), terms):
+        tag, shut, returned, row = codes.packed_term(term)
+        if tag >= CALLS and not covers(table, NOW, shut, returned, row):
             raise InvalidForm("call", term)
 
 
-def _is_closed(callbacks, terms):
-    """Whether the callbacks can have come back: each one was called when only others had."""
-    ahead = []
+def _is_closed(mask, calls):
+    """Whether these callbacks can have come back: each one was called when only others of them had."""
+    ahead = 0
     grown = True
     while grown:
-        found = [term[2] for term in terms if term[2] in callbacks and is_part(term[3], ahead)]
-        more = [callback for callback in found if callback not in ahead]
-        grown = len(more) > 0
-        ahead.extend(more)
-    return is_part(callbacks, ahead)
+        grown = False
+        for bit, returned in calls:
+            if bit & mask and not bit & ahead and returned | ahead == ahead:
+                ahead |= bit
+                grown = True
+    return ahead == mask
 
 
-def _check_closed(endless, terms):
+def _check_closed(endless, terms, codes, table):
+    calls = [(1 << (tag - CALLS), returned) for tag, groups in table.items() if tag >= CALLS for _, returned in groups]
+    known = {}
     for callbacks in [*endless, *[term[3] for term in terms]]:
-        if not _is_closed(callbacks, terms):
+        if callbacks not in known and not _is_closed(codes.callback_mask(callbacks), calls):
             raise InvalidForm("closed", callbacks)
+        known[callbacks] = True
+
+
+def _check_together(callbacks, endless, terms):
+    """Check what the terms cover, and what they must cover."""
+    codes = codes_of_terms(terms, callbacks)
+    table = codes.table_of(terms)
+    _check_least(terms, table)
+    _check_under(endless, terms)
+    _check_calls(terms, codes, table)
+    if () not in endless and not covers(table, NOW, 0, 0, codes.nothing):
+        raise InvalidForm("start", None)
+    _check_closed(endless, terms, codes, table)
 
 
 def check_form(callbacks, endless, terms):
@@ -122,10 +132,8 @@ def check_form(callbacks, endless, terms):
     _check_callbacks(callbacks)
     _check_endless(callbacks, endless)
     _check_terms(callbacks, terms)
-    _check_order(terms)
-    _check_least(callbacks, terms)
-    _check_under(endless, terms)
-    _check_calls(terms)
-    if () not in endless and not is_term_mixed(START, terms):
+    if terms:
+        _check_order(terms)
+        _check_together(callbacks, endless, terms)
+    elif () not in endless:
         raise InvalidForm("start", None)
-    _check_closed(endless, terms)

@@ -1,10 +1,12 @@
 """Forms: all that any program around a body can ever notice of its use of the stack."""
 
 from nestdeep.callbacks import is_part, sets_in_order
+from nestdeep.codes import codes_of_forms
 from nestdeep.covering import is_term_mixed
 from nestdeep.errors import InvalidForm
 from nestdeep.formchecks import check_form, contains_any, is_term_of
 from nestdeep.mixing import corner_lines
+from nestdeep.packs import is_table_at_most
 
 
 class Form:
@@ -59,7 +61,8 @@ class Form:
             raise InvalidForm("callbacks", other)
         if [one for one in self.endless if not contains_any(other.endless, one)]:
             return False
-        return not [term for term in self.terms if not other._has(term)]
+        codes = codes_of_forms([self, other])
+        return is_table_at_most(codes.packed(self)[1], codes.packed(other))
 
     def _has(self, term):
         """Whether the terms cover a term, or an endless set lies within its returned."""

@@ -4,7 +4,7 @@ Nothing here changes a packed form that it is passed; what is made may share par
 """
 
 from nestdeep.codes import CALLS, END, NOW
-from nestdeep.hulls import left_over, plus, scaled
+from nestdeep.hulls import is_covered_row, left_over, plus, scaled
 
 
 def least_masks(masks):
@@ -32,6 +32,11 @@ def helping_rows(groups, shut, returned):
         if less | shut == shut and fewer | returned == returned:
             rows.extend(others)
     return rows
+
+
+def covers(table, tag, shut, returned, row):
+    """Whether the terms of a table cover a term."""
+    return is_covered_row(row, helping_rows(table.get(tag, {}), shut, returned))
 
 
 def least_groups(groups):
@@ -81,6 +86,16 @@ def chosen(endless, table):
     least = least_masks(endless)
     left = _table_without(least, table)
     return least, {tag: least_groups(groups) for tag, groups in left.items()}
+
+
+def is_table_at_most(table, form):
+    """Whether a packed form covers each term of a table, or has an endless set within its returned."""
+    for tag, groups in table.items():
+        for (shut, returned), rows in groups.items():
+            helping = helping_rows(form[1].get(tag, {}), shut, returned)
+            if [row for row in rows if not is_covered_row(row, helping)] and not has_any_within(form[0], returned):
+                return False
+    return True
 
 
 def how_many(form):

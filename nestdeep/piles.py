@@ -88,7 +88,8 @@ class Piles:
             rest = self._kinds[number][0] - used[number]
             flat = self._flat_heap(number, shut)
             if rest > 0 and flat and list(flat) != [self._nothing]:
-                heap = self._upon(heap, {scaled(row, rest): ((number, rest, pile[2]),) for row, (pile,) in flat.items()})
+                full = {scaled(row, rest): ((number, rest, pile[2]),) for row, (pile,) in flat.items()}
+                heap = self._upon(heap, full)
         return heap
 
     def _open_numbers(self, shut):
