@@ -128,10 +128,8 @@ def _merged_ends(form, shut, returned):
 
 
 def behind_take(form, row):
-    """The form of a body and of a take behind it."""
+    """The form of a body that has an end, and of a take behind it."""
     endless, table = form
-    if END not in table:
-        return form
     ends = {key: [plus(other, row) for other in rows] for key, rows in table[END].items()}
     # That all ends have the same more changes nothing in what covers them.
     now = least_groups(both_groups(table[NOW], ends))
@@ -139,15 +137,13 @@ def behind_take(form, row):
 
 
 def behind_shut(form, shut):
-    """The form of a body and of a shut behind it."""
-    return _merged_ends(form, shut, 0) if END in form[1] else form
+    """The form of a body that has an end, and of a shut behind it."""
+    return _merged_ends(form, shut, 0)
 
 
 def behind_call(form, tag):
-    """The form of a body and of a call of a callback behind it."""
+    """The form of a body that has an end, and of a call of a callback behind it."""
     endless, table = form
-    if END not in table:
-        return form
     calls = least_groups(both_groups(table.get(tag, {}), table[END]))
     return _merged_ends((endless, _replaced(table, tag, calls)), 0, 1 << (tag - CALLS))
 
@@ -198,13 +194,13 @@ def looped(form, rounds, nothing):
     """The form of a loop; nothing is the row of the line ()."""
     endless, table = form
     ends = table.get(END, {})
-    before = {END: {(0, 0): [nothing]}}
+    result = behind_stop(form)[1]
     if rounds is None:
         more = [returned for (_, returned), rows in ends.items() if [row for row in rows if row != nothing]]
-        return chosen([*endless, *more], {**behind_stop(form)[1], **before})
-    result = behind_stop(form)[1]
+        result[END] = {(0, 0): [nothing]}
+        return chosen([*endless, *more], result)
     if rounds > 1 and ends:
         earlier = _scaled_groups(ends, rounds - 1)
         result = {tag: both_groups(groups, put_groups(earlier, groups)) for tag, groups in result.items()}
-    result[END] = both_groups(before[END], _scaled_groups(ends, rounds))
+    result[END] = both_groups({(0, 0): [nothing]}, _scaled_groups(ends, rounds))
     return chosen(endless, result)

@@ -33,11 +33,13 @@ def _whole(codes, statement, plans):
 def _behind(codes, form, statement, whole):
     """The packed form of a body and of a statement behind it."""
     word = statement[0]
+    if END not in form[1]:
+        return form
     if word == "take":
         return behind_take(form, codes.row_of(((statement[2], statement[1]),)))
     if word == "shut":
         return behind_shut(form, codes.shut_mask(statement[1]))
-    if word == "stop" or END not in form[1]:
+    if word == "stop":
         return behind_stop(form)
     if whole is None:
         return behind_call(form, codes.tag_of[callback_of(statement)])

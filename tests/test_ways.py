@@ -156,6 +156,13 @@ class WayTo(Case):
             for term in terms:
                 self.is_same(reach(body, way_to(body, term)), term, body)
 
+    def test_ends_that_differ_only_in_what_is_shut(self):
+        body = (("either", (A, U), (("either", (A, ("shut", ("v",))), (A, ("shut", ("x",)))),)), ("shut", ("w",)), C)
+        terms = body_form(body).terms
+        self.is_same(len(terms), 7)
+        for term in terms:
+            self.is_same(reach(body, way_to(body, term)), term)
+
     def test_big_forms(self):
         bodies = [curve(30), (("loop", 9, curve(30)),), (("room", curve(30)), C, *curve(12)), (*curve(5), ("loop", 3, (*curve(3), C))),
                   (("loop", 2, (("loop", MOST, (A, U, C, B)), ("either", (D,), (STOP,)))), C, ("room", (D, A)))]
