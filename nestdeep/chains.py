@@ -117,7 +117,7 @@ class Chains:
         for target, number, groups in self._groups_of(instance):
             if isinstance(target, str):
                 continue
-            others = self.solver.solved[target][1].get(tag, {})
+            others = self.solver.tables[target].get(tag, {})
             for (names, back), rows in groups.items():
                 for mask in self.solver.replaced(instance, back):
                     for (more, came), ends in others.items():

@@ -88,8 +88,8 @@ def dearest(tops, prices):
     return max([(sum([top[at] * price for at, price in prices.items()]), top) for top in tops])[1]
 
 
-def _corners(tops):
-    """The tops that the other ones do not cover.
+def _corners(tops, most):
+    """The tops that the other ones do not cover; if these are more than most, only some of them.
 
     Each top that the corners known so far do not cover is parted from them by prices, and what is
     worth the most at these prices is a new corner.
@@ -101,11 +101,16 @@ def _corners(tops):
             if prices is None:
                 break
             known.append(dearest(tops, prices))
+        if most is not None and len(known) > most:
+            break
     return known
 
 
-def left_over(rows, helpers):
-    """The list of those of one row or more that the others and the helpers do not cover, each once."""
+def left_over(rows, helpers, most=None):
+    """The list of those of one row or more that the others and the helpers do not cover, each once.
+
+    If these are more than most, some of them are left out, but not so many that they are not more.
+    """
     if len(rows[0]) < 2:
         best = max(rows)
         return [] if helpers and max(helpers) >= best else [best]
@@ -113,7 +118,8 @@ def left_over(rows, helpers):
         return list(rows)
     tops = _tops([*rows, *helpers])
     if len(tops) > 2:
-        tops = _corners_of_two(tops) if len(rows[0]) == 2 else _corners(tops)
+        enough = None if most is None else most + len(helpers)
+        tops = _corners_of_two(tops) if len(rows[0]) == 2 else _corners(tops, enough)
     if not helpers:
         return tops
     known = set(helpers)

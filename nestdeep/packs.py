@@ -39,16 +39,23 @@ def covers(table, tag, shut, returned, row):
     return is_covered_row(row, helping_rows(table.get(tag, {}), shut, returned))
 
 
-def least_groups(groups):
-    """The groups, all with one tag, of the terms that the other ones do not cover."""
+def least_groups(groups, most=None):
+    """The groups, all with one tag, of the terms that the other ones do not cover.
+
+    If these are more than most, some of them are left out, but not so many that they are not more.
+    """
     if len(groups) == 1:
-        return {key: left_over(rows, []) for key, rows in groups.items()}
+        return {key: left_over(rows, [], most) for key, rows in groups.items()}
     least = {}
+    count = 0
     # Within a shut and a returned lie only such as come ahead of them.
     for key in sorted(groups):
-        left = left_over(groups[key], helping_rows(least, key[0], key[1]))
+        left = left_over(groups[key], helping_rows(least, key[0], key[1]), most)
         if left:
             least[key] = left
+            count += len(left)
+        if most is not None and count > most:
+            break
     return least
 
 
@@ -81,11 +88,14 @@ def _table_without(endless, table):
     return {tag: groups for tag, groups in left.items() if groups}
 
 
-def chosen(endless, table):
-    """The packed form with the least of these endless sets and the least terms without them."""
+def chosen(endless, table, most=None):
+    """The packed form with the least of these endless sets and the least terms without them.
+
+    If these terms are more than most, some of them are left out, but not so many that they are not more.
+    """
     least = least_masks(endless)
     left = _table_without(least, table)
-    return least, {tag: least_groups(groups) for tag, groups in left.items()}
+    return least, {tag: least_groups(groups, most) for tag, groups in left.items()}
 
 
 def is_table_at_most(table, form):
@@ -153,8 +163,8 @@ def behind_stop(form):
     return form[0], {tag: groups for tag, groups in form[1].items() if tag != END}
 
 
-def turned(first, second):
-    """The form of two bodies in turn."""
+def turned(first, second, most=None):
+    """The form of two bodies in turn; most is that of chosen."""
     endless, table = first
     if END not in table:
         return first
@@ -164,9 +174,9 @@ def turned(first, second):
     for tag, groups in second[1].items():
         result[tag] = both_groups(result.get(tag, {}), put_groups(ends, groups))
     if endless or more:
-        return chosen([*endless, *more], result)
+        return chosen([*endless, *more], result, most)
     # With the other tags there are only the terms of the first body, which are the least ones.
-    return [], {tag: least_groups(groups) if tag in second[1] else groups for tag, groups in result.items()}
+    return [], {tag: least_groups(groups, most) if tag in second[1] else groups for tag, groups in result.items()}
 
 
 def eithered(first, second):

@@ -43,7 +43,7 @@ def _behind(codes, form, statement, whole):
         return behind_stop(form)
     if whole is None:
         return behind_call(form, codes.tag_of[callback_of(statement)])
-    return turned(form, whole)
+    return turned(form, whole, MOST_TERMS)
 
 
 class Plan:

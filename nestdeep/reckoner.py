@@ -5,8 +5,7 @@ from nestdeep.codes import CALLS, Codes, bits_of
 from nestdeep.errors import TooMany, UnknownFunction
 from nestdeep.forms import Form, form_of_pack
 from nestdeep.instancebodies import InstanceBodies
-from nestdeep.packs import chosen, how_many
-from nestdeep.plans import MOST_TERMS
+from nestdeep.packs import chosen
 from nestdeep.solving import Solver
 
 MOST_INSTANCES = 60
@@ -32,7 +31,7 @@ class Reckoner:
             return needed, name
         for instance in needed:
             self.solver.solve(instance)
-            if how_many(self.solver.solved[instance]) > MOST_TERMS:
+            if self.solver.has_too_many(instance):
                 return needed, instance[0]
         return needed, None
 
@@ -50,7 +49,7 @@ class Reckoner:
         callbacks = tuple(sorted(self.bodies.heads[name]))
         key = (instance, callbacks)
         if key not in self._instance_forms:
-            endless, table = self.solver.solved[instance]
+            endless, table = self.solver.packed_form(instance)
             codes = self.bodies.codes
             self._instance_forms[key] = Form.made(callbacks, codes.sets_of(endless), codes.terms_of(table))
         return self._instance_forms[key]

@@ -4,11 +4,16 @@ The ends of an instance are the masks of the parameters that must come back so t
 PARTS are a tuple (own, arcs) of what its body form has when the sets of what has returned are
 replaced by parameters: own is the table of what no call of an instance is needed for, arcs has for
 each instance that is called the groups of the terms at which it is.
+
+An instance is BIG if it has more terms than a form can have: then its table is only made if one is
+needed that rests on it, and cannot be seen to be too big without it.
 """
 
+from nestdeep.bigness import Bigness, masks_within
 from nestdeep.codes import CALLS, END, NOW, bits_of
 from nestdeep.grouping import Grouping
-from nestdeep.packs import both_groups, chosen, has_any_within, least_masks, put_groups
+from nestdeep.packs import both_groups, chosen, has_any_within, how_many, least_masks, put_groups
+from nestdeep.plans import MOST_TERMS
 
 
 def _added(table, tag, groups):
@@ -51,13 +56,24 @@ class Solver:
     def __init__(self, bodies):
         self.bodies = bodies
         self.ends = {}
-        self.solved = {}
+        self.endless_of = {}
+        self.tables = {}
+        # A dict from the big instances to their parts.
+        self.big = {}
+
+    def packed_form(self, instance):
+        """The packed form of an instance that was solved and is not big."""
+        return self.endless_of[instance], self.tables[instance]
+
+    def has_too_many(self, instance):
+        """Whether an instance that was solved has more terms than a form can have."""
+        return instance in self.big or how_many(self.packed_form(instance)) > MOST_TERMS
 
     def solve(self, instance):
         """Reckon the form of an instance, and of all that it calls, unless this was done before."""
-        if instance in self.solved:
+        if instance in self.endless_of:
             return
-        grouping = Grouping(self.bodies, self.solved)
+        grouping = Grouping(self.bodies, self.endless_of)
         grouping.visit(instance)
         for group in grouping.found_groups:
             self._solve_group(group, len(group) > 1 or group[0] in self.bodies.instances_in(group[0]))
@@ -120,8 +136,8 @@ class Solver:
         for mask in self.bodies.pack_for(instance[0])[0]:
             found.extend(self.replaced(instance, mask))
         for target, groups in arcs.items():
-            if target in self.solved:
-                found.extend([mask | more for _, mask in groups for more in self.solved[target][0]])
+            if target in self.endless_of:
+                found.extend([mask | more for _, mask in groups for more in self.endless_of[target]])
         return least_masks(found)
 
     def _solve_group(self, group, is_ring):
@@ -130,29 +146,54 @@ class Solver:
         endless = {instance: self._endless_alone(instance, parts[instance][1]) for instance in group}
         if is_ring:
             endless = self._endless_in_ring(parts, endless)
-        tables = {}
-        for instance, (own, arcs) in parts.items():
-            table = {tag: groups for tag, groups in own.items()}
-            for target, groups in arcs.items():
-                if target in self.solved:
-                    _add_arc(table, groups, self.solved[target][1])
-            tables[instance] = chosen(endless[instance], table)[1]
-        if is_ring:
-            self._grow(parts, endless, tables)
         for instance in group:
-            self.solved[instance] = endless[instance], tables[instance]
+            self.endless_of[instance] = endless[instance]
+        if is_ring:
+            self._solve_ring(parts)
+        else:
+            self._solve_alone(group[0], parts[group[0]])
+
+    def _solve_alone(self, instance, parts):
+        """Make the table of an instance that does not call itself, or see that it is big."""
+        if [target for target in parts[1] if target in self.big]:
+            self.big[instance] = parts
+            if Bigness(self).is_proved(instance):
+                return
+            del self.big[instance]
+        table = self._table_alone(instance, parts, MOST_TERMS)
+        if how_many(([], table)) > MOST_TERMS:
+            self.big[instance] = parts
+        else:
+            self.tables[instance] = table
+
+    def _settle(self, instance):
+        """Make the table of a big instance."""
+        self.tables[instance] = self._table_alone(instance, self.big[instance], None)
+        del self.big[instance]
+
+    def _table_alone(self, instance, parts, most):
+        """The table of an instance, by its own body and by what was solved before; most is that of chosen."""
+        own, arcs = parts
+        table = {tag: groups for tag, groups in own.items()}
+        for target, groups in arcs.items():
+            if target in self.big:
+                self._settle(target)
+            if target in self.tables:
+                _add_arc(table, groups, self.tables[target])
+        return chosen(self.endless_of[instance], table, most)[1]
+
+    def _solve_ring(self, parts):
+        first = {instance: self._table_alone(instance, parts[instance], None) for instance in parts}
+        tables = {instance: first[instance] for instance in parts}
+        self._grow(parts, first, tables)
+        for instance in parts:
+            self.tables[instance] = tables[instance]
 
     def _submasks(self, args):
         """All masks of the parameters among the arguments, parts ahead of what they are parts of."""
         params = [arg for arg in args if arg in self.bodies.codes.tag_of]
         most = self.bodies.codes.callback_mask(sorted(set(params)))
-        return [mask for mask in self._masks_within(bits_of(most))]
-
-    def _masks_within(self, bits):
-        masks = [0]
-        for at in bits:
-            masks = masks + [mask | (1 << at) for mask in masks]
-        return masks
+        return masks_within(most)
 
     def _endless_in_ring(self, parts, alone):
         """The masks that make the instances of a group endless, which call one another."""
@@ -179,9 +220,8 @@ class Solver:
         sure.extend([instance for instance, target in taking if target in _all_from([instance], callers)])
         return _all_from(sure, callers)
 
-    def _grow(self, parts, endless, tables):
+    def _grow(self, parts, first, tables):
         """Let the tables of a group grow until they have all that is reached around its rings."""
-        first = {instance: tables[instance] for instance in parts}
         changed = True
         while changed:
             changed = False
@@ -190,7 +230,7 @@ class Solver:
                 for target, groups in arcs.items():
                     if target in parts:
                         _add_arc(table, groups, tables[target])
-                table = chosen(endless[instance], table)[1]
+                table = chosen(self.endless_of[instance], table)[1]
                 if _has_new(table, tables[instance]):
                     tables[instance] = table
                     changed = True
