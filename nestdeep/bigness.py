@@ -11,8 +11,10 @@ from nestdeep.packs import has_any_within, helping_rows
 from nestdeep.plans import MOST_TERMS
 
 # So many prices and so many limits of what is shut and returned are tried.
-MOST_PRICES = 150
+MOST_PRICES = 300
 MOST_TRIES = 1500
+# So many rows of one kind tell which prices are tried.
+SOME_ROWS = 40
 
 
 def masks_within(most):
@@ -24,11 +26,31 @@ def masks_within(most):
 
 
 def _parting_prices(rows):
-    """The list of prices at each of which another corner of some rows is worth the most."""
-    corners = left_over(rows, []) if rows else []
+    """The list of prices at each of which another corner of some of the rows is worth the most."""
+    some = rows[::len(rows) // SOME_ROWS + 1]
+    corners = left_over(some, []) if some else []
     if len(corners) < 2:
         return []
     return [prices_apart(row, [other for other in corners if other != row]) for row in corners]
+
+
+def _between(prices, others):
+    """Prices between two prices, of both as much."""
+    most, other_most = max(list(prices.values())), max(list(others.values()))
+    found = {at: price * other_most for at, price in prices.items()}
+    for at, price in others.items():
+        found[at] = found.get(at, 0) + price * most
+    return found
+
+
+def _with_more(prices):
+    """Prices and such as are between two of them, as many as are tried."""
+    found = prices[:MOST_PRICES]
+    for apart in range(1, len(prices)):
+        if len(found) >= MOST_PRICES:
+            break
+        found.extend([_between(prices[at], prices[at + apart]) for at in range(len(prices) - apart)])
+    return found[:MOST_PRICES]
 
 
 class Bigness:
@@ -54,7 +76,7 @@ class Bigness:
                 if target not in known:
                     known[target] = True
                     waiting.append(target)
-        return found[:MOST_PRICES]
+        return _with_more(found)
 
     def is_proved(self, instance):
         """Whether more different lines are found than a form can have terms."""

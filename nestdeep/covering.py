@@ -1,4 +1,4 @@
-"""Terms that are known to be terms: their order, what covers them, the least ones."""
+"""Terms that are known to be terms: their order, and what covers them."""
 
 from nestdeep.callbacks import callback_key, is_part, set_key
 from nestdeep.mixing import is_mixed
@@ -34,13 +34,3 @@ def helpers(term, terms):
 def is_term_mixed(term, terms):
     """Whether the terms cover the term."""
     return is_mixed(term[0], [other[0] for other in terms if helps(other, term)])
-
-
-def terms_left(terms):
-    """The tuple of the terms that the others do not cover, in term order."""
-    rest = different_in_order(terms)
-    for term in list(rest):
-        others = [other for other in rest if other != term]
-        if is_term_mixed(term, others):
-            rest = others
-    return tuple(rest)

@@ -1,12 +1,14 @@
 """Terms: what is reached on the ways through a body."""
 
 from nestdeep.callbacks import in_callback_order, is_callback, is_callback_set, sets_in_order
-from nestdeep.covering import PLAIN_TAGS, helpers, is_term_mixed, term_key, terms_left
+from nestdeep.codes import codes_of_terms
+from nestdeep.covering import PLAIN_TAGS, helpers, is_term_mixed, term_key
 from nestdeep.errors import InvalidTerm
 from nestdeep.frames import summed
 from nestdeep.functions import is_name_set, united
 from nestdeep.lines import is_line
 from nestdeep.mixing import mix_weights, parting_prices
+from nestdeep.packs import least_groups
 from nestdeep.values import is_list, is_tuple_of
 
 
@@ -45,7 +47,9 @@ def in_order(terms):
 def least_terms(terms):
     """The tuple of the terms that the other ones do not cover, each once, in term order."""
     check_terms(terms)
-    return terms_left(terms)
+    tags = [term[2] for term in terms if term[2] not in PLAIN_TAGS]
+    codes = codes_of_terms(terms, [*tags, *[callback for term in terms for callback in term[3]]])
+    return codes.terms_of({tag: least_groups(groups) for tag, groups in codes.table_of(terms).items()})
 
 
 def least_sets(sets):

@@ -329,6 +329,48 @@ class Numbers(Case):
         self.too_many("f", "a", big, ("a", (), (STOP, call("f"))), many("f"))
         self.too_many("g", "a", big, ("a", (), (STOP, call("g", "e"))), ("g", ("x",), (frames, ("do", "x"))), ("e", (), (call("big"),)))
 
+    def test_terms_that_multiply(self):
+        """The number of the terms decides, as the terms that are reached tell it."""
+        chance = random.Random(6)
+        outcomes = {True: 0, False: 0}
+        for _ in range(60):
+            def choice(many, frames, after):
+                ways = [tuple(("take", chance.randint(1, 9), frame) for frame in chance.sample(frames, 2)) for _ in range(many)]
+                ways = [(*way, ("shut", ("u",))) if chance.random() < .3 else way for way in ways]
+                while len(ways) > 1:
+                    ways = [(("either", ways[at], ways[at + 1]),) if at + 1 < len(ways) else ways[at] for at in range(0, len(ways), 2)]
+                return (*ways[0], *after)
+
+            frames = "abcdef"[:chance.randint(4, 6)]
+            rows = [("a", (), choice(chance.randint(3, 8), frames, (call("b"),))), ("b", (), choice(chance.randint(3, 7), frames, (call("c"),))),
+                    ("c", (), choice(chance.randint(3, 6), frames, ()))]
+            program = Program(rows)
+            counts = {name: len(least_terms(reached(inlined(rows, name, 5)))) for name in "abc"}
+            many = [name for name in "abc" if counts[name] > 60]
+            outcomes[bool(many)] += 1
+            if many:
+                self.too_many(many[0], "a", *rows)
+            else:
+                self.is_same(len(form_of(program, "a")), counts["a"], rows)
+        self.assertGreater(min(outcomes.values()), 5, outcomes)
+
+    def test_a_long_chain_of_calls(self):
+        frames = "abcdef"
+        names = [f"c{letter}" for letter in "abcdefghijkl"]
+        rows = []
+        for at, name in enumerate(names):
+            ways = [(("take", 1 + (at * 7 + 3 * side) % 11, frames[(at + side) % 6]), ("take", 1 + (at * 5 + side) % 7, frames[(at * side + 2) % 6])) for side in range(4)]
+            after = (call(names[at + 1]),) if at + 1 < len(names) else ()
+            rows.append((name, (), (("either", ways[0], ways[1]), ("either", ways[2], ways[3]), *after)))
+        self.too_many("ca", "ca", *rows)
+        self.too_many("cd", "cd", *rows)
+        # What is called first covers all that is called behind it.
+        covering = ("either", (*[("take", 10 ** 6, frame) for frame in frames], STOP), ())
+        last = rows[-4:]
+        self.too_many("ci", "ci", *last)
+        self.too_many("ci", "a", ("a", (), (covering, call("ci"))), *last)
+        self.too_many("ci", "a", ("a", (), (covering, call("ci"), call("a"))), *last)
+
     def test_forms_of_the_first_function(self):
         plain = [(letter, (), ()) for letter in "ab"]
         rows = [("d", (), (call("y"),)), ("c", (), (call("x"),)), ("x", (), BIG), ("y", (), BIG), *plain]
