@@ -6,9 +6,10 @@ found in this way, at several prices, are lines of different least terms.
 """
 
 from nestdeep.codes import NOW, bits_of
-from nestdeep.hulls import dearest, left_over, plus, prices_apart
+from nestdeep.hulls import dearest, plus
 from nestdeep.packs import has_any_within, helping_rows
 from nestdeep.plans import MOST_TERMS
+from nestdeep.pricing import parting_prices, with_more_prices
 
 # So many prices and so many limits of what is shut and returned are tried.
 MOST_PRICES = 300
@@ -25,32 +26,9 @@ def masks_within(most):
     return masks
 
 
-def _parting_prices(rows):
-    """The list of prices at each of which another corner of some of the rows is worth the most."""
-    some = rows[::len(rows) // SOME_ROWS + 1]
-    corners = left_over(some, []) if some else []
-    if len(corners) < 2:
-        return []
-    return [prices_apart(row, [other for other in corners if other != row]) for row in corners]
-
-
-def _between(prices, others):
-    """Prices between two prices, of both as much."""
-    most, other_most = max(list(prices.values())), max(list(others.values()))
-    found = {at: price * other_most for at, price in prices.items()}
-    for at, price in others.items():
-        found[at] = found.get(at, 0) + price * most
-    return found
-
-
-def _with_more(prices):
-    """Prices and such as are between two of them, as many as are tried."""
-    found = prices[:MOST_PRICES]
-    for apart in range(1, len(prices)):
-        if len(found) >= MOST_PRICES:
-            break
-        found.extend([_between(prices[at], prices[at + apart]) for at in range(len(prices) - apart)])
-    return found[:MOST_PRICES]
+def _prices_in(groups):
+    """Prices at which some of the rows of these groups are told from one another."""
+    return parting_prices([row for rows in groups.values() for row in rows], SOME_ROWS)
 
 
 class Bigness:
@@ -67,16 +45,16 @@ class Bigness:
         while waiting and len(found) < MOST_PRICES:
             last = waiting.pop()
             if last not in self.solver.big:
-                found.extend(_parting_prices(helping_rows(self.solver.tables[last].get(NOW, {}), -1, -1)))
+                found.extend(_prices_in(self.solver.tables[last].get(NOW, {})))
                 continue
             own, arcs = self.solver.big[last]
-            found.extend(_parting_prices(helping_rows(own.get(NOW, {}), -1, -1)))
+            found.extend(_prices_in(own.get(NOW, {})))
             for target, groups in arcs.items():
-                found.extend(_parting_prices(helping_rows(groups, -1, -1)))
+                found.extend(_prices_in(groups))
                 if target not in known:
                     known[target] = True
                     waiting.append(target)
-        return _with_more(found)
+        return with_more_prices(found, MOST_PRICES)
 
     def is_proved(self, instance):
         """Whether more different lines are found than a form can have terms."""

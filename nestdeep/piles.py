@@ -11,12 +11,14 @@ is shut or at the end: then most is shut, so most of the handler's terms can be 
 """
 
 from nestdeep.errors import TooMany
-from nestdeep.hulls import dearest, left_over, plus, prices_apart, scaled
+from nestdeep.hulls import dearest, left_over, plus, scaled
+from nestdeep.pricing import parting_prices, with_more_prices
 
 MOST_LINES = 60
 # From so many rows on it is asked first whether the house has too many lines; so many rows tell where to look.
-MANY_ROWS = 400
-SOME_ROWS = 200
+MANY_ROWS = 150
+SOME_ROWS = 80
+MOST_PRICES = 150
 
 
 def _add_all(found, heap):
@@ -56,11 +58,8 @@ class Piles:
 
     def _ask(self, rows):
         """Raise TooMany(None) if the house is seen to have too many lines, at prices that part some rows."""
-        some = left_over(rows[::len(rows) // SOME_ROWS], [])
         found = {}
-        for row in some:
-            others = [other for other in some if other != row]
-            prices = prices_apart(row, others) if others else {0: 1}
+        for prices in with_more_prices(parting_prices(rows, SOME_ROWS), MOST_PRICES):
             for line in Piles(self._kinds, self._task_terms, self._nothing, prices).whole():
                 found[line] = True
             if len(found) > MOST_LINES:

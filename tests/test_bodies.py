@@ -18,23 +18,27 @@ def text(*body):
     return form_text(body_form(body))
 
 
-def takes(*counts):
-    return tuple(("take", count, frame) for count, frame in zip(counts, "ab") if count)
+def takes(frames, *counts):
+    return tuple(("take", count, frame) for count, frame in zip(counts, frames) if count)
 
 
-def curve(many):
+def curve(many, frames="ab"):
     """A body with so many "now" terms and so many "end" terms: points of a curve, none of which the others cover."""
-    points = [((many - at) * (many + at), 2 * many * at) for at in range(many)]
+    points = points_of_curve(many)
     runs = [points[at:at + 11] for at in range(0, many, 11)]
     bodies = []
     for run in runs:
         steps = [(one[0] - other[0], other[1] - one[1]) for one, other in zip(run, run[1:])]
-        choices = [("either", takes(down, 0), takes(0, up)) for down, up in steps]
-        bodies.append((*takes(run[-1][0], run[0][1]), *choices))
+        choices = [("either", takes(frames, down, 0), takes(frames, 0, up)) for down, up in steps]
+        bodies.append((*takes(frames, run[-1][0], run[0][1]), *choices))
     body = bodies[0]
     for other in bodies[1:]:
         body = (("either", body, other),)
     return body
+
+
+def points_of_curve(many):
+    return [((many - at) * (many + at), 2 * many * at) for at in range(many)]
 
 
 def more_now(frame):

@@ -156,6 +156,13 @@ class Performed(Case):
         for name in "fgh":
             self.is_same(text(name, *ring), "form\nendless\n")
 
+    def test_a_long_ring_that_comes_back(self):
+        names = "fghkm"
+        rows = [(name, ("c",), (call(names[at + 1], "c"), A)) for at, name in enumerate(names[:-1])]
+        rows.append(("m", ("c",), (("either", (call("f", "c"),), (DO_C,)), ("take", 2, "b"))))
+        for name in names:
+            self.is_same(text(name, *rows), "form c\nnow 0\nnow 1 a returns c\nnow 2 b returns c\nend 0 returns c\nc 0\n")
+
     def test_rings_under_what_comes_back(self):
         self.is_same(text("f", ("f", ("c",), (DO_C, A, call("f", "c")))), "form c\nendless c\nnow 0\nc 0\n")
         self.is_same(text("f", ("f", ("c", "d"), (DO_C, A, call("f", "d", "c")))), "form c d\nendless c d\nnow 0\nnow 1 a returns c\nc 0\nd 1 a returns c\n")
@@ -328,6 +335,16 @@ class Numbers(Case):
         self.too_many("f", "a", *rows)
         self.too_many("f", "a", big, ("a", (), (STOP, call("f"))), many("f"))
         self.too_many("g", "a", big, ("a", (), (STOP, call("g", "e"))), ("g", ("x",), (frames, ("do", "x"))), ("e", (), (call("big"),)))
+
+    def test_terms_behind_what_is_endless(self):
+        big = [("m", (), (call("n"), ("either", (("take", 5, "w"),), (("either", (("take", 5, "x"),), (("take", 5, "y"),)),)), call("o"))),
+               ("n", (), ()), ("o", (), (call("p"),)), ("p", (), curve(20))]
+        self.too_many("m", "m", *big)
+        self.too_many("l", "l", ("l", ("c",), (DO_C, call("m"))), *big)
+        self.too_many("m", "l", ("l", ("c",), (DO_C, call("m"), ("loop", None, (A,)))), *big)
+        self.too_many("m", "l", ("l", ("c", "d"), (DO_D, ("either", (DO_C, call("m"), ("loop", None, (A,))), ()))), *big)
+        self.too_many("l", "l", ("l", ("c", "d"), (DO_D, ("either", (DO_C, ("loop", None, (A,))), (call("m"),)))), *big)
+        self.too_many("m", "l", ("l", (), (call("k", "n"),)), ("k", ("c",), (DO_C, STOP, call("m"))), *big)
 
     def test_terms_that_multiply(self):
         """The number of the terms decides, as the terms that are reached tell it."""

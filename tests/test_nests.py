@@ -11,7 +11,7 @@ from nestdeep.programs import Program
 from nestdeep.rings import is_ring
 from tests.helpers import BIG, ODD_VALUES, Case
 from tests.programs import judged_house_chain, moments_of, some_functions
-from tests.test_bodies import curve
+from tests.test_bodies import curve, points_of_curve
 
 A, B, STOP = ("take", 1, "a"), ("take", 1, "b"), ("stop",)
 MOST = 10 ** 12
@@ -212,6 +212,26 @@ class Numbers(Case):
             self.fails(TooMany, {"name": None}, action, more)
         self.gives(False, is_endless, more)
         self.gives(None, house_ring, more)
+
+
+    def test_many_sums_and_few_lines(self):
+        house = house_of({"u": ("hu", 1, ()), "v": ("hv", 7, ())}, main=curve(20), hu=curve(19), hv=curve(18))
+        lines = lines_of(house)
+        self.is_same(len(lines), 55)
+        for a in range(1, 40, 3):
+            wanted = [max(a * one + 20 * other for one, other in points_of_curve(many)) for many in (20, 19, 18)]
+            self.is_same(greatest_depth(house, {"a": a, "b": 20})[0], wanted[0] + wanted[1] + 7 * wanted[2])
+        for one in lines[::9]:
+            self.is_same(judged_house_chain(house, chain_to(house, one))[0], one)
+
+    def test_lines_that_multiply(self):
+        for times in (1, 10 ** 6):
+            house = house_of({"u": ("hu", 1, ()), "v": ("hv", times, ("u",))}, main=curve(15), hu=curve(15, "wx"), hv=curve(15, "yz"))
+            for _ in range(2):
+                self.fails(TooMany, {"name": None}, lines_of, house)
+                self.fails(TooMany, {"name": None}, chain_to, house, ())
+        house = house_of({"u": ("hu", 1, ()), "v": ("hv", 1, ())}, shut=("v",), main=curve(9), hu=curve(6, "wx"), hv=curve(15, "yz"))
+        self.is_same(len(lines_of(house)), 54)
 
 
 class Performed(Case):
