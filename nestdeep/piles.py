@@ -15,8 +15,8 @@ from nestdeep.hulls import dearest, left_over, plus, scaled
 from nestdeep.pricing import parting_prices, with_more_prices
 
 MOST_LINES = 60
-# From so many rows on it is asked first whether the house has too many lines; so many rows tell where to look.
 MANY_ROWS = 150
+# So many rows tell at which prices is looked for lines, and so many prices are tried.
 SOME_ROWS = 80
 MOST_PRICES = 150
 
@@ -38,7 +38,9 @@ class Piles:
     def __init__(self, kinds, task_terms, nothing, prices=None):
         self._kinds = kinds
         self._prices = prices
-        self._was_asked = prices is not None
+        # From so many rows in a heap on it is asked, again, whether the house has too many lines.
+        self._many = MANY_ROWS
+        self._known = {}
         self._task_terms = task_terms
         self._nothing = nothing
         self._above = {}
@@ -51,18 +53,17 @@ class Piles:
         if self._prices is not None:
             row = dearest(list(heap), self._prices)
             return {row: heap[row]}
-        if len(heap) > MANY_ROWS and not self._was_asked:
-            self._was_asked = True
+        if len(heap) > self._many:
+            self._many = 2 * len(heap)
             self._ask(list(heap))
         return {row: heap[row] for row in left_over(list(heap), [])}
 
     def _ask(self, rows):
         """Raise TooMany(None) if the house is seen to have too many lines, at prices that part some rows."""
-        found = {}
         for prices in with_more_prices(parting_prices(rows, SOME_ROWS), MOST_PRICES):
             for line in Piles(self._kinds, self._task_terms, self._nothing, prices).whole():
-                found[line] = True
-            if len(found) > MOST_LINES:
+                self._known[line] = True
+            if len(self._known) > MOST_LINES:
                 raise TooMany(None)
 
     def _upon(self, heap, other):
