@@ -50,10 +50,6 @@ class Codes:
         """The mask of a set of callbacks."""
         return sum([1 << (self.tag_of[callback] - CALLS) for callback in callbacks])
 
-    def callbacks_of(self, mask):
-        """The tuple of the callbacks of a mask, in callback order."""
-        return tuple([self.called[at] for at in bits_of(mask)])
-
     def tag_number(self, tag):
         """The number of a tag."""
         if tag == "now":

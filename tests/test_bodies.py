@@ -262,7 +262,7 @@ class Numbers(Case):
     def test_rooms_of_big_forms(self):
         terms = []
         for at in range(61):
-            terms.append((((f"a{'abcdefgh'[at // 8]}{'abcdefgh'[at % 8]}".replace("a1", "a"), 1),), (), "now", ()))
+            terms.append((((f"a{'abcdefgh'[at // 8]}{'abcdefgh'[at % 8]}", 1),), (), "now", ()))
         big = Form((), (), tuple(sorted(terms)))
         self.is_same(len(big), 61)
         self.fails(TooMany, {"name": None}, room, big)
