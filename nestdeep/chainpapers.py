@@ -102,7 +102,8 @@ class ChainJudge:
         first may also be "now", "end" or a parameter, where no ring begins.
         """
         _, instance, way, around = ring
-        if instance != first:
+        # What is no instance must not be compared with one.
+        if not self._is_instance(instance) or instance != first:
             return None
         found = self.followed(instance, way)
         if found is None or found[2] != "now" or found[4] is None or found[4][:2] != ("loop", None):

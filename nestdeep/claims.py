@@ -1,5 +1,6 @@
 """Claims: forms of all instances that a function needs, which are checked one by one."""
 
+from nestdeep.callbacks import is_instance
 from nestdeep.claimcheck import ClaimCheck
 from nestdeep.forms import Form
 from nestdeep.reckoner import reckoner_of
@@ -15,8 +16,9 @@ def _shape_fault(needed, params, claim):
     """The fault of a value that does not have just one such Form for each instance, or None."""
     if not isinstance(claim, dict):
         return "claim", None
-    for instance in claim:
-        if instance not in needed:
+    for key in claim:
+        # What is no instance must not be compared with one.
+        if not is_instance(key) or key not in needed:
             return "claim", None
     for instance in needed:
         if instance not in claim:

@@ -6,6 +6,7 @@ from nestdeep.forming import form_of
 from nestdeep.programs import Program
 from nestdeep.rings import chain_of, chain_term, is_ring, ring_of
 from tests.helpers import ODD_VALUES, Case
+from tests.odd import at, parts, put
 from tests.reached import choices_in_turn
 from tests.programs import judged_chain, judged_ring, some_functions
 
@@ -16,28 +17,6 @@ END = ((), "end")
 
 def call(name, *args):
     return ("call", name, args)
-
-
-def parts(value):
-    """The places of all parts of a value of tuples, as paths of positions."""
-    found = [()]
-    if isinstance(value, tuple):
-        for at, item in enumerate(value):
-            found.extend((at, *path) for path in parts(item))
-    return found
-
-
-def put(value, path, new):
-    """The value with something else at a place."""
-    if not path:
-        return new
-    return (*value[:path[0]], put(value[path[0]], path[1:], new), *value[path[0] + 1:])
-
-
-def at(value, path):
-    for position in path:
-        value = value[position]
-    return value
 
 
 def spoilt(random, paper):
