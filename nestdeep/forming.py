@@ -5,9 +5,7 @@ from nestdeep.reckoner import reckoner_of
 
 def form_of(program, function):
     """The form of a function."""
-    reckoner = reckoner_of(program, function)
-    reckoner.needed_by(function)
-    return reckoner.form_for(function, reckoner.bodies.own_instance(function))
+    return reckoner_of(program, function).own_form(function)
 
 
 def forms(program):

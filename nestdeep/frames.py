@@ -1,6 +1,6 @@
-"""Lines that are known to be lines: sums, products, sizes, and the check of sizes."""
+"""Lines that are known to be lines: sums, products, sizes, and the checks of sizes and limits."""
 
-from nestdeep.errors import InvalidSizes
+from nestdeep.errors import InvalidCount, InvalidSizes
 from nestdeep.values import is_count
 
 
@@ -53,3 +53,9 @@ def check_sizes(frames, sizes):
     for frame in frames:
         if not is_count(sizes.get(frame), 1):
             raise InvalidSizes(frame)
+
+
+def check_limit(limit):
+    """Raise InvalidCount for what is no integer from 0 on."""
+    if not is_count(limit, 0):
+        raise InvalidCount(limit)

@@ -7,7 +7,7 @@ from nestdeep.values import is_count, is_list, is_tuple_of
 MOST_HANDLERS = 5
 
 
-def _is_plain_function(program, name):
+def is_plain_function(program, name):
     """Whether the program has a function of this name, without parameters."""
     return name in program and program.params(name) == ()
 
@@ -20,13 +20,13 @@ def _is_handler(program, value, interrupts):
     if not is_tuple_of(value, 3):
         return False
     function, times, shut = value
-    if not _is_plain_function(program, function) or not is_count(times, 1) or times > MOST_ROUNDS:
+    if not is_plain_function(program, function) or not is_count(times, 1) or times > MOST_ROUNDS:
         return False
     return _is_shut(shut, interrupts)
 
 
 def _check_house(program, task, handlers, shut):
-    if not _is_plain_function(program, task):
+    if not is_plain_function(program, task):
         raise InvalidHouse("task", None)
     if not isinstance(handlers, dict) or len(handlers) > MOST_HANDLERS:
         raise InvalidHouse("handlers", None)

@@ -1,17 +1,16 @@
 """What is reckoned for a house, once for each: whether it is endless, its lines and their piles."""
 
 from nestdeep.errors import Endless, TooMany
-from nestdeep.forming import form_of
 from nestdeep.packs import least_groups
 from nestdeep.piles import MOST_LINES, Piles
 from nestdeep.reckoner import reckoner_of
 from nestdeep.rings import ring_of
 
 
-def house_forms(house):
+def house_forms(house, reckoner):
     """A tuple of the form of the task and a dict from the interrupts to the forms of their handlers."""
-    task = form_of(house.program, house.task)
-    return task, {interrupt: form_of(house.program, house.handler(interrupt)[0]) for interrupt in house}
+    task = reckoner.own_form(house.task)
+    return task, {interrupt: reckoner.own_form(house.handler(interrupt)[0]) for interrupt in house}
 
 
 def open_interrupts(house):
@@ -19,9 +18,9 @@ def open_interrupts(house):
     return [interrupt for interrupt in house if interrupt not in house.shut]
 
 
-def endless_parts(house):
+def endless_parts(house, forms):
     """The list of tuples (interrupt, function) for which the house is endless; the task's interrupt is None."""
-    task, handlers = house_forms(house)
+    task, handlers = forms
     parts = [(None, house.task)] if () in task.endless else []
     for interrupt in open_interrupts(house):
         if () in handlers[interrupt].endless:
@@ -29,9 +28,14 @@ def endless_parts(house):
     return parts
 
 
+def own_forms(house):
+    """The forms of a house by its program. Raises TooMany as form_of for the task, then for the handlers."""
+    return house_forms(house, reckoner_of(house.program, house.task))
+
+
 def found_ring(house):
     """A ring of the house, None if it is not endless."""
-    parts = endless_parts(house)
+    parts = endless_parts(house, own_forms(house))
     if not parts:
         return None
     interrupt, function = parts[0]
@@ -55,16 +59,20 @@ def _told_terms(codes, interrupts, form, shut):
     return [(row, mask, terms[mask, row]) for (mask, _), rows in least.items() for row in rows]
 
 
-def _lines_and_piles(house):
-    """A dict from the lines of a house that is not endless to tuples of piles that have them."""
-    task, handlers = house_forms(house)
-    codes = reckoner_of(house.program, house.task).bodies.codes
+def lines_with_piles(house, forms, codes):
+    """A dict from the lines of a house that is not endless, by these forms, to tuples of piles that have them.
+
+    Raises TooMany(None) if there are too many.
+    """
+    task, handlers = forms
     interrupts = open_interrupts(house)
     kinds = []
     for interrupt in interrupts:
         _, times, shut = house.handler(interrupt)
         kinds.append((times, _told_terms(codes, interrupts, handlers[interrupt], shut)))
     heap = Piles(kinds, _told_terms(codes, interrupts, task, ()), codes.nothing).whole()
+    if len(heap) > MOST_LINES:
+        raise TooMany(None)
     found = {}
     for row, piles in heap.items():
         named = [(None if number is None else interrupts[number], count, term) for number, count, term in piles]
@@ -74,11 +82,11 @@ def _lines_and_piles(house):
 
 def _lines_if_few(house):
     """The lines with their piles, an empty dict if there are too many."""
+    reckoner = reckoner_of(house.program, house.task)
     try:
-        found = _lines_and_piles(house)
+        return lines_with_piles(house, house_forms(house, reckoner), reckoner.bodies.codes)
     except TooMany:
         return {}
-    return found if len(found) <= MOST_LINES else {}
 
 
 def piles_of_lines(house):

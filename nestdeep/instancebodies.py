@@ -6,25 +6,40 @@ them, in callback order, what it is with the arguments in place: a NAME, a param
 function that is asked about, or an instance.
 """
 
-from nestdeep.callbacks import callback_key, callbacks_in
+from nestdeep.callbacks import callback_key, callbacks_in, in_callback_order
 from nestdeep.codes import Codes
+from nestdeep.covering import PLAIN_TAGS
 from nestdeep.errors import TooMany
 from nestdeep.packs import roomed
 from nestdeep.plans import checked_plan
 
 
 class InstanceBodies:
-    """What is known of the functions of a program, each thing reckoned once."""
+    """What is known of the functions of a program, each thing reckoned once.
 
-    def __init__(self, program):
+    Further frames and interrupts can be told, too.
+    """
+
+    def __init__(self, program, frames=(), interrupts=()):
+        self._program = program
         self.heads = {name: params for name, params, _ in program}
         self.blocks = {name: body for name, _, body in program}
         self._calls = {name: callbacks_in(program.statement_rows(name)) for name in self.heads}
         every = [param for params in self.heads.values() for param in params]
-        self.codes = Codes(program.frames(), program.interrupts(), every)
+        self.codes = Codes([*program.frames(), *frames], [*program.interrupts(), *interrupts], every)
         self._plans = {}
         self._packs = {}
         self._targets = {}
+
+    def with_form(self, name, form):
+        """The same, but that a function without statements has a form, by which it calls its parameters."""
+        twin = InstanceBodies(self._program, self.codes.frame_names, self.codes.shut_names)
+        # The plans of the others stay what they are, so all twins share them.
+        twin._plans = self._plans
+        twin._calls[name] = in_callback_order([term[2] for term in form.terms if term[2] not in PLAIN_TAGS])
+        codes = Codes(self.codes.frame_names, self.codes.shut_names, twin._calls[name])
+        twin._packs[name] = codes.packed(form)
+        return twin
 
     def own_instance(self, name):
         """A function with its parameters."""
@@ -39,6 +54,10 @@ class InstanceBodies:
             except TooMany:
                 self._plans[name] = None
         return self._plans[name]
+
+    def has_too_many(self, name):
+        """Whether a function has too many callbacks or terms."""
+        return name not in self._packs and self.plan_for(name) is None
 
     def pack_for(self, name):
         """The packed body form of a function that has a plan."""

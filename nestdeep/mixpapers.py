@@ -8,7 +8,7 @@ from nestdeep.terms import check_term, check_terms, is_term
 from nestdeep.values import fraction_sum, is_count, is_fraction
 
 
-def _is_mix_above(line, lines, weights):
+def is_mix_above(line, lines, weights):
     """Whether fractions, one for each of the lines, are the weights of a mix that covers the line."""
     if fraction_sum(weights) != (1, 1):
         return False
@@ -40,7 +40,7 @@ def is_weights(line, lines, paper):
         return False
     if not all([is_fraction(weight) and weight[0] >= 0 for weight in paper]):
         return False
-    return _is_mix_above(line, lines, paper)
+    return is_mix_above(line, lines, paper)
 
 
 def is_parting(line, lines, paper):
@@ -62,7 +62,7 @@ def is_cover(term, terms, paper):
             return False
         if not is_fraction(paper[other]) or paper[other][0] < 1:
             return False
-    return _is_mix_above(term[0], [other[0] for other in paper], [paper[other] for other in paper])
+    return is_mix_above(term[0], [other[0] for other in paper], [paper[other] for other in paper])
 
 
 def is_parting_of(term, terms, paper):

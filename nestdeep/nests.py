@@ -1,13 +1,13 @@
 """How deep the stack of a house can ever be."""
 
 from nestdeep.frames import check_sizes
-from nestdeep.houselines import endless_parts, found_ring, piles_of_lines
+from nestdeep.houselines import endless_parts, found_ring, own_forms, piles_of_lines
 from nestdeep.mixes import greatest
 
 
 def is_endless(house):
     """Whether no number bounds the lines of the house's moments."""
-    return len(endless_parts(house)) > 0
+    return len(endless_parts(house, own_forms(house))) > 0
 
 
 def house_ring(house):

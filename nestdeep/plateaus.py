@@ -13,9 +13,14 @@ def _chain_of_pile(house, pile):
     return interrupt, count, chain_of(house.program, function, term)
 
 
+def chain_of_piles(house, piles):
+    """A chain of the house with these piles (interrupt, count, term)."""
+    return tuple([_chain_of_pile(house, pile) for pile in piles])
+
+
 def chain_to(house, line):
     """A chain of the house that has this line."""
     piles = piles_of_lines(house)
     if not is_line(line) or line not in piles:
         raise UnknownLine(line)
-    return tuple([_chain_of_pile(house, pile) for pile in piles[line]])
+    return chain_of_piles(house, piles[line])

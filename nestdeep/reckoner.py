@@ -12,20 +12,22 @@ MOST_INSTANCES = 60
 
 
 class Reckoner:
-    """What was reckoned for a program so far."""
+    """What was reckoned for the functions of a program so far."""
 
-    def __init__(self, program):
-        self.bodies = InstanceBodies(program)
+    def __init__(self, bodies):
+        self.bodies = bodies
         self.solver = Solver(self.bodies)
         self._outcomes = {}
         self._instance_forms = {}
         self._body_forms = {}
+        # The chains and rings that were found, by functions and terms or endless sets.
+        self.papers = {}
 
     def _outcome(self, name):
         """The list of what a function needs, and the function of which there is too much, or None."""
         needed = self.bodies.needed_by(name)
         for function in sorted(set([instance[0] for instance in needed])):
-            if self.bodies.plan_for(function) is None:
+            if self.bodies.has_too_many(function):
                 return needed, function
         if len(needed) > MOST_INSTANCES:
             return needed, name
@@ -43,6 +45,11 @@ class Reckoner:
         if many is not None:
             raise TooMany(many)
         return needed
+
+    def own_form(self, name):
+        """The Form of a function. Raises TooMany as form_of."""
+        self.needed_by(name)
+        return self.form_for(name, self.bodies.own_instance(name))
 
     def form_for(self, name, instance):
         """The Form of an instance that a function needs, with the function's parameters as callbacks."""
@@ -84,5 +91,5 @@ def reckoner_of(program, function):
     if function not in program:
         raise UnknownFunction(function)
     if program.kept is None:
-        program.kept = Reckoner(program)
+        program.kept = Reckoner(InstanceBodies(program))
     return program.kept

@@ -9,16 +9,29 @@ from nestdeep.functions import is_name_set
 from nestdeep.reckoner import reckoner_of
 
 
+def _found_chain(reckoner, function, term):
+    goal = reckoner.bodies.codes.packed_term(term)
+    chains = Chains(reckoner.solver, reckoner.needed_by(function), goal[2])
+    links = chains.links_to(reckoner.bodies.own_instance(function), goal)
+    return links, chains.returns_for(links)
+
+
+def _found_ring(reckoner, function, returned):
+    allowed = reckoner.bodies.codes.callback_mask(returned)
+    chains = Chains(reckoner.solver, reckoner.needed_by(function), allowed)
+    links, ring = chains.ring_from(reckoner.bodies.own_instance(function))
+    return links, ring, chains.returns_for(links, ring)
+
+
 def chain_of(program, function, term):
     """A chain that reaches a term of the function's form."""
     form = form_of(program, function)
     if not is_term_of(form.callbacks, term) or term not in form.terms:
         raise UnknownTerm(term)
     reckoner = reckoner_of(program, function)
-    goal = reckoner.bodies.codes.packed_term(term)
-    chains = Chains(reckoner.solver, reckoner.needed_by(function), goal[2])
-    links = chains.links_to(reckoner.bodies.own_instance(function), goal)
-    return links, chains.returns_for(links)
+    if (function, term) not in reckoner.papers:
+        reckoner.papers[function, term] = _found_chain(reckoner, function, term)
+    return reckoner.papers[function, term]
 
 
 def ring_of(program, function, returned):
@@ -27,10 +40,9 @@ def ring_of(program, function, returned):
     if not is_set_of(form.callbacks, returned) or returned not in form.endless:
         raise UnknownTerm(returned)
     reckoner = reckoner_of(program, function)
-    allowed = reckoner.bodies.codes.callback_mask(returned)
-    chains = Chains(reckoner.solver, reckoner.needed_by(function), allowed)
-    links, ring = chains.ring_from(reckoner.bodies.own_instance(function))
-    return links, ring, chains.returns_for(links, ring)
+    if (function, returned) not in reckoner.papers:
+        reckoner.papers[function, returned] = _found_ring(reckoner, function, returned)
+    return reckoner.papers[function, returned]
 
 
 def chain_term(program, function, paper):

@@ -143,7 +143,7 @@ class Language(unittest.TestCase):
                     (properties if is_property else others).add(part.name)
             attributes |= {one.attr for one in ast.walk(node) if isinstance(one, ast.Attribute) and isinstance(one.ctx, ast.Store)}
         self.assertEqual(properties & (others | attributes), set())
-        self.assertEqual(properties, {"callbacks", "endless", "terms", "returns"})
+        self.assertEqual(properties, {"callbacks", "endless", "terms", "returns", "kinds"})
 
     def test_what_a_loop_goes_over_is_not_changed_in_it(self):
         changing = {"append", "extend", "insert", "pop", "remove", "reverse", "clear", "update", "setdefault"}
