@@ -26,7 +26,7 @@ class Bench:
         self._past.append(self._now)
         self._now = state
 
-    def _rows(self):
+    def _present_rows(self):
         """A dict from the names of the functions to these."""
         program = self._now.program
         return {} if program is None else {row[0]: row for row in program.functions()}
@@ -34,7 +34,7 @@ class Bench:
     def put(self, functions):
         """Put functions, in place of those with the same names; the news."""
         check_heads(functions, Program.MOST)
-        rows = {**self._rows(), **{row[0]: row for row in functions}}
+        rows = {**self._present_rows(), **{row[0]: row for row in functions}}
         program = Program([rows[name] for name in sorted(rows)])
         before = self._now
         self._go_on(state_with_program(before, program))
@@ -42,7 +42,7 @@ class Bench:
 
     def drop(self, names):
         """Drop functions; the news."""
-        rows = self._rows()
+        rows = self._present_rows()
         if not is_list(names):
             raise UnknownFunction(names)
         for name in names:

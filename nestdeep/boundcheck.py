@@ -110,7 +110,7 @@ class BoundCheck:
         return None
 
     def _wrong_term(self, state, interrupt, counts):
-        """The first claimed term of an interrupt's handler that shuts something new, and that the bound does not allow."""
+        """The first term claimed of an interrupt that shuts something new, and that the bound does not allow."""
         shut, _ = state
         used = tuple(sorted(counts.items()))
         for term, size, closed in self._places[interrupt]:

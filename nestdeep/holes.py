@@ -62,23 +62,23 @@ class Hole:
         _check_hole(name, params, returns, endless, kinds)
         self.name = name
         self.parameters = params
-        self._rest = (tuple(returns), tuple(endless), tuple(kinds))
+        self._more = (tuple(returns), tuple(endless), tuple(kinds))
         self._made = {}
 
     @property
     def returns(self):
         """The tuple of the least sets of parameters that must return so that the hole does."""
-        return self._rest[0]
+        return self._more[0]
 
     @property
     def endless(self):
         """The tuple of the least sets of parameters that make the hole endless."""
-        return self._rest[1]
+        return self._more[1]
 
     @property
     def kinds(self):
         """The tuple of the kinds (name, shut, tag, returned)."""
-        return self._rest[2]
+        return self._more[2]
 
     def form_of(self, filling):
         """The form of a filling."""
@@ -92,10 +92,10 @@ class Hole:
     def __eq__(self, other):
         if not isinstance(other, Hole):
             return False
-        return self.name == other.name and self.parameters == other.parameters and self._rest == other._rest
+        return self.name == other.name and self.parameters == other.parameters and self._more == other._more
 
     def __repr__(self):
-        returns, endless, kinds = self._rest
+        returns, endless, kinds = self._more
         told = f"returns={returns!r}, endless={endless!r}, kinds={kinds!r}"
         return f"Hole({self.name!r}, {self.parameters!r}, {told})"
 

@@ -12,19 +12,19 @@ class SizedForms:
     def __init__(self, program, sizes):
         self.program = program
         self.sizes = sizes
-        self._best = {}
+        self._sized_terms = {}
 
     def best_of(self, function):
         """A dict from what is shut to the greatest (size, term) of the terms of a function that shut this."""
-        if function not in self._best:
+        if function not in self._sized_terms:
             best = {}
             for term in form_of(self.program, function).terms:
                 if term[2] == "now":
                     size = size_of(term[0], self.sizes)
                     if term[1] not in best or size > best[term[1]][0]:
                         best[term[1]] = (size, term)
-            self._best[function] = best
-        return self._best[function]
+            self._sized_terms[function] = best
+        return self._sized_terms[function]
 
 
 class HouseTower:

@@ -32,7 +32,7 @@ class Tower:
         return [number for number in range(len(self._kinds)) if not shut >> number & 1]
 
     def _bulk(self, number, shut):
-        """The greatest size of a segment that shuts nothing that is not shut, and its term; 0 and None if there is none."""
+        """The greatest size of a segment that shuts nothing new, and its term; (0, None) if there is none."""
         if (number, shut) not in self._bulks:
             best = (0, None)
             for mask, place in self._kinds[number][1].items():
@@ -41,19 +41,19 @@ class Tower:
             self._bulks[number, shut] = best
         return self._bulks[number, shut]
 
-    def _rest(self, number, used):
+    def _left(self, number, used):
         return self._kinds[number][0] - used[number]
 
     def _piled(self, numbers, shut, used):
         """The size of all segments left of these interrupts that shut nothing new."""
-        return sum([self._rest(number, used) * self._bulk(number, shut)[0] for number in numbers])
+        return sum([self._left(number, used) * self._bulk(number, shut)[0] for number in numbers])
 
     def _steps(self, state):
         """The list of tuples (number, size, term, next state) of the segments that can shut something new."""
         shut, used = state
         steps = []
         for number in self._open_numbers(shut):
-            if self._rest(number, used) > 0:
+            if self._left(number, used) > 0:
                 more = (*used[:number], used[number] + 1, *used[number + 1:])
                 for mask, (size, term) in self._kinds[number][1].items():
                     if mask | shut != shut:
@@ -99,8 +99,8 @@ class Tower:
         piles = []
         for number in numbers:
             size, term = self._bulk(number, shut)
-            if size > 0 and self._rest(number, used) > 0:
-                piles.append((number, self._rest(number, used), term))
+            if size > 0 and self._left(number, used) > 0:
+                piles.append((number, self._left(number, used), term))
         return piles
 
     def piles(self, shut):
