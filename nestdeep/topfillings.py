@@ -1,8 +1,8 @@
 """For each kind of a hole a filling that fits and has the most of its cells.
 
-A present kind more and a cell more never make a house less deep, and the kinds of several closed
-fillings together are closed. So for each kind the other ones are tried with 0 cells, and only as
-many of them as are needed to be closed.
+A present kind more and a cell more never make a house less deep, and where it is asked that
+something was called, fewer cells ask for less. So for each kind the other ones are tried with 0
+cells, and only as many of them as are needed.
 """
 
 from nestdeep.callbacks import is_part
@@ -27,19 +27,16 @@ def _parts_of(names):
     return sorted(found, key=lambda one: (len(one), one))
 
 
-def _lines_at_least(hole_house, present):
-    """The lines when these kinds are present with 0 cells, None if it is endless then, () if this is not closed."""
+def _lines_if_closed(hole_house, filling):
+    """The lines with a filling, None if it is endless then, () if the filling is not closed."""
     try:
-        return hole_house.lines({name: 0 for name in present})
+        return hole_house.lines(filling)
     except NotClosed:
         return ()
 
 
-def _most_with(hole_house, sizes, limit, present, name):
-    """The most cells of a kind when these kinds fit, with 0 cells of all others; limit + 1 if there is no most."""
-    lines = hole_house.lines({other: 1 if other == name else 0 for other in present})
-    if lines is None:
-        return 0
+def _most_in(lines, sizes, limit, name):
+    """The most cells of a kind in these lines; limit + 1 if there is no most."""
     most = limit + 1
     for line in lines:
         count = dict(line).get(name, 0)
@@ -49,24 +46,36 @@ def _most_with(hole_house, sizes, limit, present, name):
     return most
 
 
+def _is_kept(lines, sizes, limit):
+    """Whether these are lines, and none is greater than the limit."""
+    return lines is not None and max([size_of(line, sizes) for line in lines]) <= limit
+
+
+def _filled(present, name, cells):
+    """The filling with so many cells of a kind and none of the other ones that are present."""
+    return {other: cells if other == name else 0 for other in present}
+
+
 def _best_filling(hole_house, sizes, limit, name):
     """A filling that fits with the most cells of a kind, limit + 1 if there is no most; None if it is in none."""
     others = [kind[0] for kind in hole_house.hole.kinds if kind[0] != name]
-    closed = []
+    enough = []
     best = None
     for part in _parts_of(others):
-        # What is closed already is less deep without more kinds.
-        if [one for one in closed if is_part(one, part)]:
-            continue
         present = (*part, name)
-        lines = _lines_at_least(hole_house, present)
-        if lines == ():
+        lines = _lines_if_closed(hole_house, _filled(present, name, 0))
+        # With more kinds than are enough it is deeper; no house has no lines.
+        if lines == () or [one for one in enough if is_part(one, part)]:
             continue
-        closed.append(part)
-        if lines is not None and max([size_of(line, sizes) for line in lines]) <= limit:
-            most = _most_with(hole_house, sizes, limit, present, name)
-            if best is None or most > best[name]:
-                best = {other: most if other == name else 0 for other in present}
+        if not _is_kept(lines, sizes, limit):
+            enough.append(part)
+            continue
+        best = best if best is not None else _filled(present, name, 0)
+        lines = _lines_if_closed(hole_house, _filled(present, name, 1))
+        if lines != ():
+            enough.append(part)
+            most = 0 if lines is None else _most_in(lines, sizes, limit, name)
+            best = _filled(present, name, most) if most > best[name] else best
     return best
 
 
