@@ -95,6 +95,12 @@ def _taking(cells, frame):
     return (("take", cells, frame),) if cells > 0 else ()
 
 
+def _passed_body(pair, frame):
+    """The body of a function that is passed, and of which this tells whether it returns, and what it takes."""
+    returns, cells = pair
+    return _taking(cells, frame) if returns else (*_taking(cells, frame), ("stop",))
+
+
 def _check_numbers(program, many, has_frame):
     """Raise TooMany if there is no program with so many functions more, and perhaps one frame more."""
     if len(program) + many > program.MOST:
@@ -118,16 +124,13 @@ def house_in(program, function, context):
     if not is_context(sorted(params), context) or not has_sizes(context, program.frames()):
         raise InvalidContext(context)
     passed, handlers, pairs, behind = context
+    taken = [*[cells for _, cells in passed], *[cells for _, cells in handlers], behind]
     many = len(params) + len(handlers) + 1
-    cells = [*[cells for _, cells in passed], *[cells for _, cells in handlers], behind]
-    _check_numbers(program, many, max(cells) > 0)
+    _check_numbers(program, many, max(taken) > 0)
     frame, task, *names = new_names(_taken_names(program, context), many + 1)
-    told = dict(zip(sorted(params), names))
-    rows = []
-    for param, (returns, cells) in zip(sorted(params), passed):
-        ending = () if returns else (("stop",),)
-        rows.append((told[param], (), (*_taking(cells, frame), *ending)))
+    told = {param: name for param, name in zip(sorted(params), names)}
     comers = names[len(params):]
+    rows = [(told[param], (), _passed_body(pair, frame)) for param, pair in zip(sorted(params), passed)]
     rows.extend([(name, (), _taking(cells, frame)) for name, (_, cells) in zip(comers, handlers)])
     rows.append((task, (), (("call", function, tuple([told[param] for param in params])), *_taking(behind, frame))))
     table = {interrupt: (name, 1, ()) for name, (interrupt, _) in zip(comers, handlers)}

@@ -94,10 +94,11 @@ class Hole:
             return False
         return self.name == other.name and self.parameters == other.parameters and self._more == other._more
 
+    def _more_text(self):
+        return f"returns={self._more[0]!r}, endless={self._more[1]!r}, kinds={self._more[2]!r}"
+
     def __repr__(self):
-        returns, endless, kinds = self._more
-        told = f"returns={returns!r}, endless={endless!r}, kinds={kinds!r}"
-        return f"Hole({self.name!r}, {self.parameters!r}, {told})"
+        return f"Hole({self.name!r}, {self.parameters!r}, {self._more_text()})"
 
 
 class HoleHouse:

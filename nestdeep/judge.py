@@ -91,8 +91,20 @@ def is_claimed(value):
     return check(*parts)
 
 
+def _is_mix(line, lines, value):
+    return is_weights(line, lines, value)
+
+
+def _are_sizes_apart(line, lines, value):
+    return is_parting(line, lines, value)
+
+
 def _is_chain_to(program, function, term, value):
     return ChainJudge(reckoner_of(program, function).bodies, function).chain_term(value) == term
+
+
+def _is_ring_within(program, function, returned, value):
+    return is_ring(program, function, returned, value)
 
 
 def _is_claim_below(program, function, form, value):
@@ -118,10 +130,14 @@ def _is_excess(house, sizes, limit, value):
     return is_house_ring(house, value) if told is None else size_of(told[0], sizes) > limit
 
 
+def _is_tree(house, sizes, limit, depth, value):
+    return is_no_tree(house, sizes, limit, depth, value)
+
+
 JUDGES = {
-    "covered": is_weights, "not covered": is_parting, "reached": _is_chain_to, "endless": is_ring,
+    "covered": _is_mix, "not covered": _are_sizes_apart, "reached": _is_chain_to, "endless": _is_ring_within,
     "bounded": _is_claim_below, "never deeper": _is_paper_of_holding, "deeper": _is_context_of_deeper,
-    "keeps": _is_claim_of_house, "exceeds": _is_excess, "no mends": is_no_tree,
+    "keeps": _is_claim_of_house, "exceeds": _is_excess, "no mends": _is_tree,
 }
 
 
@@ -136,6 +152,18 @@ def is_paper(claimed, value):
     word, *parts = claimed
     judge = JUDGES[word]
     return judge(*parts, value)
+
+
+def _mix(line, lines):
+    return weights(line, lines)
+
+
+def _sizes_apart(line, lines):
+    return parting_sizes(line, lines)
+
+
+def _chain_to(program, function, term):
+    return chain_of(program, function, term)
 
 
 def _ring_within(program, function, returned):
@@ -169,10 +197,14 @@ def _excess(house, sizes, limit):
     return None if holds else paper
 
 
+def _tree(house, sizes, limit, depth):
+    return no_tree(house, sizes, limit, depth)
+
+
 FINDERS = {
-    "covered": weights, "not covered": parting_sizes, "reached": chain_of, "endless": _ring_within,
+    "covered": _mix, "not covered": _sizes_apart, "reached": _chain_to, "endless": _ring_within,
     "bounded": _claim_below, "never deeper": _paper_of_holding, "deeper": _context_of_deeper,
-    "keeps": _claim_of_house, "exceeds": _excess, "no mends": no_tree,
+    "keeps": _claim_of_house, "exceeds": _excess, "no mends": _tree,
 }
 
 

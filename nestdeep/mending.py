@@ -1,8 +1,4 @@
-"""Mends, tried one after another; each set of mends is looked at once.
-
-A mend that does not stop a moment that is too deep leaves the house too deep. So just those mends
-are tried that stop the deepest one.
-"""
+"""Mends, tried one after another; each set of mends is looked at once."""
 
 from nestdeep.houselines import endless_parts, found_ring, own_forms
 from nestdeep.housetowers import HouseTower, SizedForms
@@ -69,26 +65,18 @@ class Mender:
         piles = tower.piles()
         return house, piles, mends_above([(interrupt, count) for interrupt, count, _ in piles])
 
-    def _all_mends(self):
-        return [(segment, interrupt) for segment in [None, *self._house] for interrupt in self._house]
+    def least(self, most):
+        """The first of the smallest sets of at most so many mends, up to two, that are enough; None if none is.
 
-    def least(self):
-        """The first of the smallest sets of at most two mends that are enough, None if none is."""
-        outcome = self._outcome(())
-        if outcome is None:
-            return ()
-        for mend in list(outcome[2]):
-            if self._outcome((mend,)) is None:
-                return (mend,)
-        return self._least_pair(outcome[2])
-
-    def _least_pair(self, own):
-        """The first pair of mends that is enough, when no single one is; None if there is none."""
-        for first in self._all_mends():
-            for second in list(self._outcome((first,))[2]):
-                if mend_key(first) < mend_key(second) and (first in own or second in own):
-                    if self._outcome((first, second)) is None:
-                        return first, second
+        What the task shuts never comes. So in the place of any other mend the task's mend of the
+        same interrupt is enough, too, and it comes first: only mends of the task are tried.
+        """
+        mends = [(None, interrupt) for interrupt in self._house]
+        singles = [(mend,) for mend in mends] if most > 0 else []
+        pairs = [(mends[at], mend) for at in range(len(mends)) for mend in mends[at + 1:]] if most > 1 else []
+        for tried in [(), *singles, *pairs]:
+            if self._outcome(tried) is None:
+                return tried
         return None
 
     def _value(self, mends, outcome):
@@ -98,15 +86,13 @@ class Mender:
             self._values[mends] = found_ring(house) if piles is None else chain_of_piles(house, piles)
         return self._values[mends]
 
-    def no_tree(self, mends, depth):
-        """A no-tree of this depth for the house with these mends, None if there is none."""
+    def _tree(self, mends, depth):
+        """The no-tree of this depth for the house with these mends; there is one."""
         outcome = self._outcome(mends)
-        if outcome is None:
-            return None
-        branches = []
-        for mend in list(outcome[2]) if depth > 0 else []:
-            tree = self.no_tree(in_mend_order([*mends, mend]), depth - 1)
-            if tree is None:
-                return None
-            branches.append((mend, tree))
+        own = outcome[2] if depth > 0 else ()
+        branches = [(mend, self._tree(in_mend_order([*mends, mend]), depth - 1)) for mend in own]
         return self._value(mends, outcome), tuple(branches)
+
+    def no_tree(self, depth):
+        """A no-tree of this depth, None if so many mends are enough."""
+        return self._tree((), depth) if self.least(depth) is None else None

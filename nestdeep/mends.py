@@ -54,7 +54,7 @@ def least_mends(house, sizes, limit):
     _check(house, sizes, limit)
     # The forms are asked for, as there may be too many terms.
     own_forms(house)
-    return Mender(house, sizes, limit).least()
+    return Mender(house, sizes, limit).least(MOST_MENDS)
 
 
 def no_tree(house, sizes, limit, depth):
@@ -62,7 +62,7 @@ def no_tree(house, sizes, limit, depth):
     _check(house, sizes, limit)
     _check_depth(depth)
     own_forms(house)
-    return Mender(house, sizes, limit).no_tree((), depth)
+    return Mender(house, sizes, limit).no_tree(depth)
 
 
 def _wanted_mends(house, sizes, limit, value):
