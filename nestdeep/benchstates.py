@@ -1,10 +1,13 @@
 """What a bench has at one time, and what it has behind a deed; no state is ever changed."""
 
+from nestdeep.benchnews import all_used
 from nestdeep.errors import InvalidHouse
 from nestdeep.forming import forms
 from nestdeep.frames import check_sizes
 from nestdeep.house import House
+from nestdeep.instancebodies import InstanceBodies
 from nestdeep.nests import is_endless, lines_of
+from nestdeep.reckoner import Reckoner
 
 
 class BenchState:
@@ -46,9 +49,22 @@ def _has_same_forms(house, forms_before, forms_behind):
     return all([forms_before[name] == forms_behind[name] for name in functions])
 
 
+def _keep_what_holds(before, program):
+    """Let a program keep what was reckoned for the one before it and holds for both."""
+    rows_before = {row[0]: row for row in before.functions()}
+    rows = {row[0]: row for row in program.functions()}
+    changed = [name for name in sorted({**rows_before, **rows}) if rows.get(name) != rows_before.get(name)]
+    used = all_used(program)
+    stale = [name for name in rows if [other for other in changed if other in used[name]]]
+    program.kept = Reckoner(InstanceBodies(program))
+    program.kept.take_over(before.kept, changed, [*changed, *stale])
+
+
 def state_with_program(state, program):
     """The state with another program, None if it is without functions. Raises what a deed raises last."""
     entries = {name: entry_with(program, state.entry_of_name[name]) for name in sorted(state.entry_of_name)}
+    if program is not None and state.program is not None:
+        _keep_what_holds(state.program, program)
     found = {} if program is None else forms(program)
     lines = {}
     for name, entry in entries.items():

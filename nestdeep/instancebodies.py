@@ -41,6 +41,16 @@ class InstanceBodies:
         twin._packs[name] = codes.packed(form)
         return twin
 
+    def has_codes_of(self, other):
+        """Whether frames, interrupts and parameters are told by the same numbers as in other bodies."""
+        mine, its = self.codes, other.codes
+        return (mine.frame_names, mine.shut_names, mine.called) == (its.frame_names, its.shut_names, its.called)
+
+    def take_plans(self, earlier, changed):
+        """Keep what is known in earlier bodies, with the same codes, of the functions that are not changed."""
+        self._plans = {name: plan for name, plan in earlier._plans.items() if name not in changed}
+        self._packs = {name: pack for name, pack in earlier._packs.items() if name not in changed}
+
     def own_instance(self, name):
         """A function with its parameters."""
         return name, self.heads[name]

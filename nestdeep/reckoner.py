@@ -6,7 +6,7 @@ from nestdeep.errors import TooMany, UnknownFunction
 from nestdeep.forms import Form, form_of_pack
 from nestdeep.instancebodies import InstanceBodies
 from nestdeep.packs import chosen
-from nestdeep.solving import Solver
+from nestdeep.solving import Solver, is_held
 
 MOST_INSTANCES = 60
 
@@ -22,6 +22,20 @@ class Reckoner:
         self._body_forms = {}
         # The chains and rings that were found, by functions and terms or endless sets.
         self.papers = {}
+
+    def take_over(self, earlier, changed, stale):
+        """Keep what an earlier reckoner found, of another program.
+
+        Changed are the names of the functions that are others, or are in one program only; stale are
+        these and all that use them.
+        """
+        if not self.bodies.has_codes_of(earlier.bodies):
+            return
+        self.bodies.take_plans(earlier.bodies, changed)
+        self.solver.take_over(earlier.solver, stale)
+        self._outcomes = {name: told for name, told in earlier._outcomes.items() if name not in stale}
+        forms = earlier._instance_forms
+        self._instance_forms = {key: forms[key] for key in forms if is_held(key[0], stale)}
 
     def _outcome(self, name):
         """The list of what a function needs, and the function of which there is too much, or None."""

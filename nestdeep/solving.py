@@ -50,6 +50,11 @@ def _all_from(first, next_of):
     return found
 
 
+def is_held(instance, stale):
+    """Whether neither the function of an instance nor what is passed to it is among the stale names."""
+    return instance[0] not in stale and not [arg for arg in instance[1] if arg in stale]
+
+
 class Solver:
     """The packed forms of instances, each one reckoned once, with all parameters as callbacks."""
 
@@ -60,6 +65,14 @@ class Solver:
         self.tables = {}
         # A dict from the big instances to their parts.
         self.big = {}
+
+    def take_over(self, earlier, stale):
+        """Keep what an earlier solver, with the same codes, knows of instances without stale functions."""
+        held = {instance: True for instance in earlier.endless_of if is_held(instance, stale)}
+        self.ends = {instance: earlier.ends[instance] for instance in held}
+        self.endless_of = {instance: earlier.endless_of[instance] for instance in held}
+        self.tables = {instance: table for instance, table in earlier.tables.items() if instance in held}
+        self.big = {instance: parts for instance, parts in earlier.big.items() if instance in held}
 
     def packed_form(self, instance):
         """The packed form of an instance that was solved and is not big."""
