@@ -1,21 +1,12 @@
 """What a deed of a bench changes, and how far it reaches."""
 
+from nestdeep.grouping import all_from
+
 
 def all_used(program):
     """A dict from the functions to dicts of all that each one uses, directly or through others, and of itself."""
     uses = {name: program.uses(name) for name in program.names()}
-    found = {}
-    for name in uses:
-        known = {name: True}
-        waiting = [name]
-        while waiting:
-            last = waiting.pop()
-            for used in uses[last]:
-                if used not in known:
-                    known[used] = True
-                    waiting.append(used)
-        found[name] = known
-    return found
+    return {name: all_from([name], uses) for name in uses}
 
 
 def reach_in(program, function):

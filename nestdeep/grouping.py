@@ -1,6 +1,19 @@
 """Groups of instances that call one another, directly or through others."""
 
 
+def all_from(first, next_of):
+    """A dict of all that can be come to from the first ones, these included."""
+    found = {one: True for one in first}
+    waiting = list(first)
+    while waiting:
+        last = waiting.pop()
+        for one in next_of[last]:
+            if one not in found:
+                found[one] = True
+                waiting.append(one)
+    return found
+
+
 class Grouping:
     """Finds the groups of what can be come to, those that are called by a group ahead of it."""
 

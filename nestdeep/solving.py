@@ -11,7 +11,7 @@ needed that rests on it, and cannot be seen to be too big without it.
 
 from nestdeep.bigness import Bigness, masks_within
 from nestdeep.codes import CALLS, END, NOW, bits_of
-from nestdeep.grouping import Grouping
+from nestdeep.grouping import Grouping, all_from
 from nestdeep.packs import both_groups, chosen, has_any_within, how_many, least_masks, put_groups
 from nestdeep.plans import MOST_TERMS
 
@@ -35,19 +35,6 @@ def _has_new(table, known):
             if [row for row in rows if row not in others]:
                 return True
     return False
-
-
-def _all_from(first, next_of):
-    """A dict of all that can be come to from the first ones, these included."""
-    found = {one: True for one in first}
-    waiting = list(first)
-    while waiting:
-        last = waiting.pop()
-        for one in next_of[last]:
-            if one not in found:
-                found[one] = True
-                waiting.append(one)
-    return found
 
 
 def is_held(instance, stale):
@@ -230,8 +217,8 @@ class Solver:
                         taking.append((instance, target))
         sure = [instance for instance in parts if has_any_within(alone[instance], allowed)]
         # A call that takes something is on a ring if what it calls can come back to it.
-        sure.extend([instance for instance, target in taking if target in _all_from([instance], callers)])
-        return _all_from(sure, callers)
+        sure.extend([instance for instance, target in taking if target in all_from([instance], callers)])
+        return all_from(sure, callers)
 
     def _grow(self, parts, first, tables):
         """Let the tables of a group grow until they have all that is reached around its rings."""

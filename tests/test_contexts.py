@@ -11,7 +11,6 @@ from nestdeep.nests import greatest_depth, is_endless
 from nestdeep.programs import Program
 from tests.contexts import modelled_depth, some_context
 from tests.helpers import BIG, NO_NAMES, ODD_VALUES, Case
-from tests.houses import call
 from tests.odd import odd_values, oddly_spoilt
 from tests.programs import some_functions
 

@@ -7,7 +7,6 @@ from nestdeep.errors import (
     InvalidForm, InvalidHouse, InvalidProgram, InvalidRow, InvalidSizes, InvalidText, NothingToUndo, TooMany, UnknownFunction, UnknownName,
 )
 from nestdeep.formtexts import form_text, read_form
-from nestdeep.house import House
 from nestdeep.housetexts import entry_text
 from nestdeep.lines import line_text
 from nestdeep.orders import never_deeper

@@ -7,7 +7,6 @@ from nestdeep.contexts import depth_in
 from nestdeep.errors import InvalidClaim, TooMany
 from nestdeep.forming import form_of
 from nestdeep.forms import Form
-from nestdeep.house import House
 from nestdeep.judge import is_claimed, is_paper, paper_of
 from nestdeep.mends import is_no_tree, least_mends
 from nestdeep.mixes import is_covered

@@ -4,7 +4,6 @@ import unittest
 from nestdeep.bodies import either
 from nestdeep.claims import claim_of
 from nestdeep.errors import InvalidChain, InvalidCount, InvalidSizes, TooMany
-from nestdeep.forming import form_of
 from nestdeep.forms import Form
 from nestdeep.house import House
 from nestdeep.lines import line_size
@@ -13,7 +12,7 @@ from nestdeep.nestpapers import chain_moment, house_fault, is_house_chain, is_ho
 from nestdeep.nests import greatest_depth, house_ring, is_endless, lines_of
 from nestdeep.plateaus import chain_to
 from nestdeep.programs import Program
-from nestdeep.rings import chain_of, ring_of
+from nestdeep.rings import ring_of
 from tests.helpers import BIG, ODD_VALUES, Case
 from tests.houses import bound_fault, call, house_of, some_house, some_sizes
 from tests.odd import odd_keys, odd_values, oddly_spoilt
