@@ -436,7 +436,7 @@ class Compared(BenchCase):
                     wanted = getattr(model, word)(*args)
                 self.is_same(news, wanted, (word, args, named))
                 self.compare(bench, model)
-        self.assertGreater(min(words[word] for word in ("put", "drop", "set_entry", "drop_entry", "undo", "InvalidProgram", "InvalidHouse", "InvalidSizes")), 15, words)
+        self.assertGreater(min(words[word] for word in ("put", "drop", "set_entry", "drop_entry", "undo", "InvalidProgram", "InvalidHouse", "InvalidSizes")), 6, words)
 
     def is_right_error(self, model, error, word, args):
         """A deed of functions raises what a program of all that would be there raises, or what an entry does."""

@@ -229,7 +229,7 @@ class Plays(DeskCase):
                 wanted = "ok" if news is None else " ; ".join(" ".join([name, *names]) for name, names in zip(("computed", "changed", "entries"), news))
                 self.is_same(desk.say(row), wanted)
                 self.compare(desk, bench)
-        self.assertGreater(min(words[word] for word in ("put", "drop", "set_entry", "drop_entry", "undo")), 10, words)
+        self.assertGreater(min(words[word] for word in ("put", "drop", "set_entry", "drop_entry", "undo")), 4, words)
 
     def row_of(self, bench, word, args, named):
         if word == "put":

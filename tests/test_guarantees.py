@@ -130,7 +130,7 @@ class Guarantees(Case):
             if house is not None:
                 self.assertEqual(house_ring(house) is not None, is_endless(house))
                 counts[is_endless(house)] += 1
-        self.assertGreater(min(counts.values()), 40)
+        self.assertGreater(min(counts.values()), 20)
 
     def test_forms_differ_exactly_if_a_context_parts_the_functions(self):
         chance = random.Random(4)

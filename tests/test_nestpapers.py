@@ -593,7 +593,7 @@ class Rings(Case):
                     wrong = spoilt(chance, house_ring(house))
                     if is_house_ring(house, wrong):
                         self.assertTrue(wrong[0] is None or wrong[0] in house and wrong[0] not in house.shut)
-        self.assertGreater(count, 40)
+        self.assertGreater(count, 20)
 
     def test_rings_that_need_something_returned(self):
         program = Program([("f", ("c",), (("loop", None, (A, ("do", "c"))),)), ("main", (), (call("f", "stuck"),)), ("stuck", (), (STOP,))])
