@@ -70,7 +70,7 @@ def _put(bench, row):
         functions = functions_in(text)
     except InvalidText as error:
         # The functions begin in the second line of the row.
-        raise InvalidText(error.line + 1 if error.line > 0 else 0) from error
+        raise InvalidText(error.line + 1) from error
     names = [function[0] for function in functions]
     if names != sorted(names):
         raise InvalidText(0)

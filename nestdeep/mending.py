@@ -21,9 +21,10 @@ def mends_above(piles):
     found = []
     below = []
     for interrupt, count in piles:
-        below = [*below, interrupt] if count > 1 else below
-        found.extend([(segment, interrupt) for segment in below])
-        below = below if count > 1 else [*below, interrupt]
+        # Of several segments one stands upon another.
+        under = [*below, interrupt] if count > 1 else below
+        found.extend([(segment, interrupt) for segment in under])
+        below = [*below, interrupt]
     return in_mend_order(found)
 
 

@@ -3,7 +3,6 @@
 from nestdeep.errors import InvalidChain, InvalidCount, InvalidMends
 from nestdeep.frames import check_limit, check_sizes, size_of
 from nestdeep.housechains import told_chain
-from nestdeep.houselines import own_forms
 from nestdeep.mending import Mender, mends_above, with_mends
 from nestdeep.nestpapers import is_house_ring
 from nestdeep.values import is_count, is_list, is_tuple_of
@@ -52,8 +51,6 @@ def _check_depth(depth):
 def least_mends(house, sizes, limit):
     """The first of the smallest sets of at most two mends with which the house keeps the limit, or None."""
     _check(house, sizes, limit)
-    # The forms are asked for, as there may be too many terms.
-    own_forms(house)
     return Mender(house, sizes, limit).least(MOST_MENDS)
 
 
@@ -61,7 +58,6 @@ def no_tree(house, sizes, limit, depth):
     """A no-tree of this depth, None if there is none."""
     _check(house, sizes, limit)
     _check_depth(depth)
-    own_forms(house)
     return Mender(house, sizes, limit).no_tree(depth)
 
 

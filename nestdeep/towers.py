@@ -7,15 +7,6 @@ interrupt is shut or at the end: then most is shut, so most of the handler's pla
 """
 
 
-def best_places(places):
-    """A dict from the masks of some places (size, mask, term) to the greatest (size, term) with them."""
-    best = {}
-    for size, mask, term in places:
-        if mask not in best or size > best[mask][0]:
-            best[mask] = (size, term)
-    return best
-
-
 class Tower:
     """kinds has for each number how often the handler may stand, and a dict from masks to the best (size, term).
 

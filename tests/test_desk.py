@@ -201,6 +201,15 @@ class Plays(DeskCase):
         self.assertRaises(NothingToUndo, desk.play, [*self.ROWS, "undo", "undo", "undo", "undo", "undo"])
         self.assertRaises(NothingToUndo, desk.say, "undo")
 
+    def test_rows_that_are_no_list(self):
+        desk = desk_with(HOUSE)
+        for value in (*ODD_VALUES, *odd_values(), "undo"):
+            if not isinstance(value, (list, tuple)):
+                with self.assertRaises(InvalidRow) as caught:
+                    desk.play(value)
+                self.assertIs(caught.exception.value, value)
+        self.is_same(desk.say("state h"), "kept")
+
     def test_desks_share_nothing(self):
         one, other = Desk(), Desk()
         one.play(self.ROWS[:2])

@@ -237,6 +237,8 @@ class Faults(Case):
             self.has(("claim", None), {other: claims[other] for other in claims if other != name}, bounds)
         self.has(("claim", None), {**claims, "hw": claims["hu"]}, bounds)
         self.has(("claim", None), {}, bounds)
+        for name in claims:
+            self.has(("claim", None), {other if other != name else "hw": claims[other] for other in claims}, bounds)
         for key in (None, 1, ("main",), b"main", *odd_keys()):
             self.is_same(house_fault(self.HOUSE, self.SIZES, 9, ({**claims, key: claims["hu"]}, bounds)), ("claim", None))
             others = {name: claims[name] for name in claims if name != "hv"}

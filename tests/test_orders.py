@@ -207,13 +207,40 @@ class Papers(Case):
             (((0, (1, 2)), (1, (1, 2))), True), (((1, (1, 2)), (0, (1, 2))), False), (((0, (2, 4)), (1, (1, 2))), False), (((0, (1, 1)),), False), (((0, (1, 2)), (1, (1, 3))), False),
             (((0, (1, 2)), (1, (2, 3))), False), (((0, (1, 3)), (1, (2, 3))), False), (((0, (1, 2)), (1, (1, 2)), (2, (0, 1))), False), (((0, (1, 2)), (0, (1, 2))), False),
             (((0, (1, 2)), (1, (1, 2)), (1, (0, 1))), False), (((0, (1, 2)), (3, (1, 2))), False), (((False, (1, 2)), (True, (1, 2))), False), (((0, [1, 2]), (1, (1, 2))), False),
-            ([(0, (1, 2)), (1, (1, 2))], False), (((0, (3, 2)), (1, (-1, 2))), False), ((), False), (((0, (1, 2)), (2, (1, 2))), False), (((0, (1, 2), 0), (1, (1, 2))), False),
+            (((0, (1, 2)), (1, (1, 4)), (1, (1, 4))), False), (((0, (1, 4)), (0, (1, 4)), (1, (1, 2))), False), ([(0, (1, 2)), (1, (1, 2))], False), (((0, (3, 2)), (1, (-1, 2))), False), ((), False), (((0, (1, 2)), (2, (1, 2))), False), (((0, (1, 2), 0), (1, (1, 2))), False),
         ):
             self.gives(wanted, is_order_paper, each, both, True, ((), (("end", 2),), (("mix", mix),)))
         for ends in ((("end", 0),), (("end", 1),), (("end", 3),), (("end", True),), (("endless", 0),), ("end", 2), (), (("end", 2), ("end", 2)), [("end", 2)], (["end", 2],), (("mix", 2),)):
             self.gives(False, is_order_paper, each, both, True, ((), ends, (("mix", ((0, (1, 2)), (1, (1, 2)))),)))
         for terms in ((("end", 2),), (), (("endless", 0),), (("mix", 0),), ("mix", ((0, (1, 2)), (1, (1, 2))))):
             self.gives(False, is_order_paper, each, both, True, ((), (("end", 2),), terms))
+
+    def test_weights_of_nothing(self):
+        # A term that has no part in the mix is not told.
+        lines = [(("a", 2),), (("b", 2),), (("c", 2),)]
+        three = Form((), (), (*((line, (), "now", ()) for line in lines), END))
+        for line, mix in (((("a", 1), ("b", 1)), ((0, (1, 2)), (1, (1, 2)))), ((("a", 1), ("c", 1)), ((0, (1, 2)), (2, (1, 2)))), ((("b", 2),), ((1, (1, 1)),))):
+            one = Form((), (), ((line, (), "now", ()), END))
+            self.is_same(order_paper(one, three), (True, ((), (("end", 3),), (("mix", mix),))))
+            self.gives(True, is_order_paper, one, three, True, order_paper(one, three)[1])
+            for number in range(3):
+                wrong = tuple(sorted({**{at: (0, 1) for at in (number,)}, **dict(mix)}.items()))
+                self.gives(wrong == mix, is_order_paper, one, three, True, ((), (("end", 3),), (("mix", wrong),)))
+        one = Form((), (), (((("a", 1), ("b", 1), ("c", 0 + 1)), (), "now", ()), END))
+        self.is_same(order_paper(one, three)[0], False)
+        for mix, wanted in ((((0, (1, 2)), (1, (1, 4)), (2, (1, 4))), True), (((0, (1, 2)), (2, (1, 4)), (1, (1, 4))), False), (((1, (1, 4)), (0, (1, 2)), (2, (1, 4))), False)):
+            less = Form((), (), (((("a", 1),), (), "now", ()), END))
+            self.gives(wanted, is_order_paper, less, three, True, ((), (("end", 3),), (("mix", mix),)))
+
+    def test_numbers_of_ends(self):
+        one, other = form(("either", (DO_C,), (DO_D,))), form(("either", (DO_D,), (DO_C,)))
+        holds, paper = order_paper(one, other)
+        ends = [number for number, term in enumerate(other.terms) if term[2] == "end"]
+        self.is_same((holds, paper[1]), (True, (("end", ends[0]), ("end", ends[1]))))
+        for first in range(len(other.terms)):
+            for second in range(len(other.terms)):
+                told = (paper[0], (("end", first), ("end", second)), paper[2])
+                self.gives([first, second] == ends, is_order_paper, one, other, True, told)
 
     def test_helpers_must_help(self):
         one = form(("either", (shut("u"), A, DO_C), ()), params=("c",))
