@@ -52,6 +52,10 @@ class BoundCheck:
                 places.append((term, size_of(term[0], self._sizes), shut))
         return places
 
+    def _handler_places(self, interrupt):
+        function, _, closed = self._house.handler(interrupt)
+        return self._places_of(function, closed)
+
     def _is_pair(self, value):
         if not is_tuple_of(value, 2) or not isinstance(value[0], str) or value[0] not in self._times:
             return False
@@ -74,9 +78,7 @@ class BoundCheck:
             bound = self._bounds.get((tuple(shut), ()))
             if bound is None or bound + size > limit:
                 return "limit", term
-        for interrupt in self._interrupts:
-            function, _, closed = self._house.handler(interrupt)
-            self._places[interrupt] = self._places_of(function, closed)
+        self._places = {interrupt: self._handler_places(interrupt) for interrupt in self._interrupts}
         for state in sorted(self._bounds):
             found = self._fault_at(state)
             if found is not None:

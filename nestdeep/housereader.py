@@ -57,9 +57,8 @@ class EntryReader:
 
     def _takes_shut(self, shut, last):
         """Take what a line shuts; False if a handler can be missing for good behind that of the last interrupt."""
-        for interrupt in shut:
-            if interrupt not in self._handlers:
-                self._missing[interrupt] = True
+        lacking = {interrupt: True for interrupt in shut if interrupt not in self._handlers}
+        self._missing = {**self._missing, **lacking}
         if len(self._handlers) + len(self._missing) > MOST_HANDLERS:
             return False
         return not [interrupt for interrupt in self._missing if interrupt < last]

@@ -90,7 +90,7 @@ class Mender:
     def _tree(self, mends, depth):
         """The no-tree of this depth for the house with these mends; there is one."""
         outcome = self._outcome(mends)
-        own = outcome[2] if depth > 0 else ()
+        own = list(outcome[2]) if depth > 0 else []
         branches = [(mend, self._tree(in_mend_order([*mends, mend]), depth - 1)) for mend in own]
         return self._value(mends, outcome), tuple(branches)
 
