@@ -61,9 +61,8 @@ class Piles:
     def _ask(self, rows):
         """Raise TooMany(None) if the house is seen to have too many lines, at prices that part some rows."""
         for prices in with_more_prices(parting_prices(rows, SOME_ROWS), MOST_PRICES):
-            lines = list(Piles(self._kinds, self._task_terms, self._nothing, prices).whole())
-            for line in lines:
-                self._known[line] = True
+            (line,) = list(Piles(self._kinds, self._task_terms, self._nothing, prices).whole())
+            self._known[line] = True
             if len(self._known) > MOST_LINES:
                 raise TooMany(None)
 

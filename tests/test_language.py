@@ -156,6 +156,23 @@ class Language(unittest.TestCase):
                     if isinstance(one, ast.Subscript) and isinstance(one.ctx, (ast.Store, ast.Del)):
                         self.assertNotIn(ast.dump(one.value), over, f"{name}:{one.lineno}")
 
+    def test_no_field_is_changed_in_a_loop_over_what_a_call_gave(self):
+        changing = {"append", "extend", "insert", "pop", "remove", "reverse", "clear", "update", "setdefault"}
+        for name, function in walk(ast.FunctionDef):
+            given = {target.id for node in ast.walk(function) if isinstance(node, ast.Assign)
+                     and any(isinstance(one, ast.Call) for one in ast.walk(node.value))
+                     for target in node.targets if isinstance(target, ast.Name)}
+            for loop in ast.walk(function):
+                if not (isinstance(loop, ast.For) and isinstance(loop.iter, ast.Name) and loop.iter.id in given):
+                    continue
+                for node in [one for part in loop.body + loop.orelse for one in ast.walk(part)]:
+                    changed = node if isinstance(node, (ast.Attribute, ast.Subscript)) and not isinstance(node.ctx, ast.Load) else None
+                    if isinstance(node, ast.Call) and isinstance(node.func, ast.Attribute) and node.func.attr in changing:
+                        changed = node.func.value
+                    while isinstance(changed, ast.Subscript):
+                        changed = changed.value
+                    self.assertNotIsInstance(changed, ast.Attribute, f"{name}:{node.lineno}" if changed else "")
+
     def test_statements_and_expressions_that_are_not_used(self):
         self.none(walk((ast.Global, ast.AsyncFunctionDef, ast.Await, ast.GeneratorExp, ast.Set, ast.SetComp, ast.AnnAssign,
                         ast.Div, ast.MatMult, ast.With, ast.Match)))
