@@ -106,16 +106,38 @@ def _corners(tops, most):
     return known
 
 
+def _telling(rows):
+    """The list of the numbers of the frames of which the rows have different counts."""
+    return [at for at, counts in enumerate(zip(*rows)) if max(counts) > min(counts)]
+
+
+def _only(row, frames):
+    """The counts of some frames only."""
+    return tuple([row[at] for at in frames])
+
+
 def left_over(rows, helpers, most=None):
     """The list of those of one row or more that the others and the helpers do not cover, each once.
 
     If these are more than most, some of them are left out, but not so many that they are not more.
     """
+    if len(rows) == 1 and not helpers:
+        return list(rows)
+    if len(rows[0]) < 3:
+        return _left_over(rows, helpers, most)
+    # Of a frame of which all rows have as much, each mix has as much, too.
+    frames = _telling([*rows, *helpers])
+    if not frames:
+        return [] if helpers else rows[:1]
+    whole = {_only(row, frames): row for row in rows}
+    return [whole[row] for row in _left_over(list(whole), [_only(row, frames) for row in helpers], most)]
+
+
+def _left_over(rows, helpers, most):
+    """What left_over tells, with all frames looked at."""
     if len(rows[0]) < 2:
         best = max(rows)
         return [] if helpers and max(helpers) >= best else [best]
-    if len(rows) == 1 and not helpers:
-        return list(rows)
     tops = _tops([*rows, *helpers])
     if len(tops) > 2:
         enough = None if most is None else most + len(helpers)
@@ -124,3 +146,33 @@ def left_over(rows, helpers, most=None):
         return tops
     known = set(helpers)
     return [row for row in tops if row not in known]
+
+
+def are_apart(rows, others):
+    """Whether in no frame both the rows differ and the others do: then no sum is covered by the other sums.
+
+    The rows do not cover one another, nor do the others.
+    """
+    frames = _telling(others)
+    return not [at for at in _telling(rows) if at in frames]
+
+
+def corner_sums(rows, others):
+    """The list of the sums of one of the rows and one of the others that the other sums do not cover.
+
+    Prices at which a sum is worth more than the sums that have one of its parts make both of its
+    parts worth more than the like, and so it is worth more than all other sums: those that have
+    one of its parts are all that is to be compared.
+    """
+    table = [[plus(row, other) for other in others] for row in rows]
+    sums = [row for line in table for row in line]
+    if len(_telling(sums)) < 3:
+        return left_over(sums, [])
+    columns = list(zip(*table))
+    found = []
+    for at, line in enumerate(table):
+        for to, row in enumerate(line):
+            like = [*line[:to], *line[to + 1:], *columns[to][:at], *columns[to][at + 1:]]
+            if not is_covered_row(row, like):
+                found.append(row)
+    return found

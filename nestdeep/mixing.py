@@ -19,7 +19,7 @@ def _scarce_frame(line, lines):
 
 def _weights_in(tableau, prices):
     """The weights of the lines when the goal cannot grow; what is missing to 1 has the first line."""
-    tops = [0] * len(tableau.rows)
+    tops = [0] * len(tableau.basis)
     tops[0] = tableau.bottom - tableau.goal[0]
     for at, variable in enumerate(tableau.columns):
         if variable >= prices:

@@ -11,20 +11,16 @@ is shut or at the end: then most is shut, so most of the handler's terms can be 
 """
 
 from nestdeep.errors import TooMany
-from nestdeep.hulls import dearest, left_over, plus, scaled
+from nestdeep.hulls import are_apart, corner_sums, dearest, is_below_any, left_over, plus, scaled
 from nestdeep.pricing import parting_prices, with_more_prices
 
 MOST_LINES = 60
+# Ahead of a search among more rows, or behind more sums that need none, it is asked whether the lines are too many.
 MANY_ROWS = 150
+MANY_SUMS = 1500
 # So many rows tell at which prices is looked for lines, and so many prices are tried.
 SOME_ROWS = 80
 MOST_PRICES = 150
-
-
-def _add_all(found, heap):
-    """Add to a dict what is in a heap."""
-    for row, piles in heap.items():
-        found.setdefault(row, piles)
 
 
 class Piles:
@@ -38,7 +34,7 @@ class Piles:
     def __init__(self, kinds, task_terms, nothing, prices=None):
         self._kinds = kinds
         self._prices = prices
-        # From so many rows in a heap on it is asked, again, whether the house has too many lines.
+        # The present number in place of MANY_ROWS: it grows each time, as asking takes long, too.
         self._many = MANY_ROWS
         self._known = {}
         self._task_terms = task_terms
@@ -46,17 +42,21 @@ class Piles:
         self._above = {}
         self._flat = {}
 
-    def _least(self, heap):
-        """The heap with the corners only."""
-        if len(heap) < 2:
-            return heap
+    def _least(self, found):
+        """The heap of the corners of a dict from rows to piles."""
+        if len(found) < 2:
+            return found
         if self._prices is not None:
-            row = dearest(list(heap), self._prices)
-            return {row: heap[row]}
-        if len(heap) > self._many:
-            self._many = 2 * len(heap)
-            self._ask(list(heap))
-        return {row: heap[row] for row in left_over(list(heap), [])}
+            row = dearest(list(found), self._prices)
+            return {row: found[row]}
+        self._ask_if_many(list(found))
+        return {row: found[row] for row in left_over(list(found), [])}
+
+    def _ask_if_many(self, rows):
+        """Ask for too many lines ahead of a search for the corners of many rows."""
+        if len(rows) > self._many:
+            self._many = 2 * len(rows)
+            self._ask(rows)
 
     def _ask(self, rows):
         """Raise TooMany(None) if the house is seen to have too many lines, at prices that part some rows."""
@@ -66,13 +66,29 @@ class Piles:
             if len(self._known) > MOST_LINES:
                 raise TooMany(None)
 
+    def _joined(self, heaps):
+        """The heap of what is in one heap or more."""
+        found = {}
+        for heap in heaps:
+            found.update({row: piles for row, piles in heap.items() if row not in found})
+        most = max(heaps, key=len)
+        if [row for row in found if row not in most and not is_below_any(row, most)]:
+            return self._least(found)
+        # The corners of one heap do not cover one another.
+        return {row: found[row] for row in most}
+
     def _upon(self, heap, other):
         """The heap of each one of a heap with each one of another heap upon it."""
         found = {}
         for row, piles in heap.items():
             for more, upper in other.items():
                 found[plus(row, more)] = (*piles, *upper)
-        return self._least(found)
+        if are_apart(list(heap), list(other)):
+            if len(found) > MANY_SUMS:
+                self._ask(list(found))
+            return found
+        self._ask_if_many(list(found))
+        return {row: found[row] for row in corner_sums(list(heap), list(other))}
 
     def _flat_heap(self, number, shut):
         """The heap of single segments of a handler that shut nothing that is not shut already."""
@@ -110,14 +126,13 @@ class Piles:
         something new, 0 for each that is shut.
         """
         if (shut, used) not in self._above:
-            found = {}
-            _add_all(found, self._bulk(shut, used, self._open_numbers(shut)))
+            heaps = [self._bulk(shut, used, self._open_numbers(shut))]
             for number in self._open_numbers(shut):
                 if used[number] < self._kinds[number][0]:
                     more = (*used[:number], used[number] + 1, *used[number + 1:])
                     for closed, heads in self._closing(number, shut).items():
-                        _add_all(found, self._closed(shut, more, closed, heads))
-            self._above[shut, used] = self._least(found)
+                        heaps.append(self._closed(shut, more, closed, self._least(heads)))
+            self._above[shut, used] = self._joined(heaps)
         return self._above[shut, used]
 
     def _closed(self, shut, used, closed, heads):
@@ -131,8 +146,6 @@ class Piles:
         first = {}
         for row, mask, term in self._task_terms:
             first.setdefault(mask, {})[row] = ((None, 1, term),)
-        found = {}
         none_used = tuple([0 for _ in self._kinds])
-        for mask, tasks in first.items():
-            _add_all(found, self._upon(self._least(tasks), self.above(mask, none_used)))
-        return self._least(found)
+        heaps = [self._upon(self._least(tasks), self.above(mask, none_used)) for mask, tasks in first.items()]
+        return self._joined(heaps)
