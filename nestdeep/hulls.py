@@ -127,8 +127,6 @@ def left_over(rows, helpers, most=None):
         return _left_over(rows, helpers, most)
     # Of a frame of which all rows have as much, each mix has as much, too.
     frames = _telling([*rows, *helpers])
-    if not frames:
-        return [] if helpers else rows[:1]
     whole = {_only(row, frames): row for row in rows}
     return [whole[row] for row in _left_over(list(whole), [_only(row, frames) for row in helpers], most)]
 
@@ -155,24 +153,3 @@ def are_apart(rows, others):
     """
     frames = _telling(others)
     return not [at for at in _telling(rows) if at in frames]
-
-
-def corner_sums(rows, others):
-    """The list of the sums of one of the rows and one of the others that the other sums do not cover.
-
-    Prices at which a sum is worth more than the sums that have one of its parts make both of its
-    parts worth more than the like, and so it is worth more than all other sums: those that have
-    one of its parts are all that is to be compared.
-    """
-    table = [[plus(row, other) for other in others] for row in rows]
-    sums = [row for line in table for row in line]
-    if len(_telling(sums)) < 3:
-        return left_over(sums, [])
-    columns = list(zip(*table))
-    found = []
-    for at, line in enumerate(table):
-        for to, row in enumerate(line):
-            like = [*line[:to], *line[to + 1:], *columns[to][:at], *columns[to][at + 1:]]
-            if not is_covered_row(row, like):
-                found.append(row)
-    return found

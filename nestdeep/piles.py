@@ -11,16 +11,19 @@ is shut or at the end: then most is shut, so most of the handler's terms can be 
 """
 
 from nestdeep.errors import TooMany
-from nestdeep.hulls import are_apart, corner_sums, dearest, is_below_any, left_over, plus, scaled
+from nestdeep.hulls import are_apart, dearest, is_below_any, left_over, plus, scaled
 from nestdeep.pricing import parting_prices, with_more_prices
 
 MOST_LINES = 60
-# Ahead of a search among more rows, or behind more sums that need none, it is asked whether the lines are too many.
+# From so many rows in a heap on it is asked whether the lines are too many; so many sums that no
+# search is needed for are as much work as one row.
 MANY_ROWS = 150
-MANY_SUMS = 1500
-# So many rows tell at which prices is looked for lines, and so many prices are tried.
+SUMS_FOR_A_ROW = 30
+# So many rows tell at which prices is looked for lines. At most so many prices are tried, and from
+# some prices on only as long as about each third one shows a line that was not known.
 SOME_ROWS = 80
-MOST_PRICES = 150
+MOST_PRICES = 250
+SOME_PRICES = 20
 
 
 class Piles:
@@ -34,7 +37,7 @@ class Piles:
     def __init__(self, kinds, task_terms, nothing, prices=None):
         self._kinds = kinds
         self._prices = prices
-        # The present number in place of MANY_ROWS: it grows each time, as asking takes long, too.
+        # How many rows are many now: it grows each time, as asking takes long, too.
         self._many = MANY_ROWS
         self._known = {}
         self._task_terms = task_terms
@@ -49,46 +52,55 @@ class Piles:
         if self._prices is not None:
             row = dearest(list(found), self._prices)
             return {row: found[row]}
-        self._ask_if_many(list(found))
+        self._ask_if_many(list(found), len(found))
         return {row: found[row] for row in left_over(list(found), [])}
 
-    def _ask_if_many(self, rows):
-        """Ask for too many lines ahead of a search for the corners of many rows."""
-        if len(rows) > self._many:
-            self._many = 2 * len(rows)
+    def _ask_if_many(self, rows, work):
+        """Ask ahead of what is as much work as a search among so many rows; with prices nothing is searched."""
+        if self._prices is None and work > self._many:
+            self._many = 2 * work
             self._ask(rows)
 
     def _ask(self, rows):
         """Raise TooMany(None) if the house is seen to have too many lines, at prices that part some rows."""
+        known = {line: True for line in self._known}
+        tries = 0
         for prices in with_more_prices(parting_prices(rows, SOME_ROWS), MOST_PRICES):
             (line,) = list(Piles(self._kinds, self._task_terms, self._nothing, prices).whole())
-            self._known[line] = True
-            if len(self._known) > MOST_LINES:
+            known[line] = True
+            if len(known) > MOST_LINES:
                 raise TooMany(None)
+            tries += 1
+            if tries > SOME_PRICES + 3 * len(known):
+                break
+        self._known = known
 
     def _joined(self, heaps):
         """The heap of what is in one heap or more."""
         found = {}
         for heap in heaps:
-            found.update({row: piles for row, piles in heap.items() if row not in found})
+            for row, piles in heap.items():
+                found.setdefault(row, piles)
         most = max(heaps, key=len)
-        if [row for row in found if row not in most and not is_below_any(row, most)]:
+        more = [row for row in found if row not in most]
+        if more:
+            self._ask_if_many(list(found), len(found))
+        if [row for row in more if not is_below_any(row, most)]:
             return self._least(found)
         # The corners of one heap do not cover one another.
         return {row: found[row] for row in most}
 
     def _upon(self, heap, other):
         """The heap of each one of a heap with each one of another heap upon it."""
+        apart = len(heap) < 2 or len(other) < 2 or are_apart(list(heap), list(other))
+        work = len(heap) * len(other) // SUMS_FOR_A_ROW
+        if apart and work > 0:
+            self._ask_if_many(list(max(heap, other, key=len)), work)
         found = {}
         for row, piles in heap.items():
             for more, upper in other.items():
                 found[plus(row, more)] = (*piles, *upper)
-        if are_apart(list(heap), list(other)):
-            if len(found) > MANY_SUMS:
-                self._ask(list(found))
-            return found
-        self._ask_if_many(list(found))
-        return {row: found[row] for row in corner_sums(list(heap), list(other))}
+        return found if apart else self._least(found)
 
     def _flat_heap(self, number, shut):
         """The heap of single segments of a handler that shut nothing that is not shut already."""

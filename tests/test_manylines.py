@@ -168,6 +168,24 @@ class Close(ManyCase):
         self.has(two(a, sums(c, [more]), main=takes(more)), sums(a, c, [line_times(more, 2)]))
 
 
+class Shutting(ManyCase):
+    """Handlers that shut many sets of interrupts."""
+
+    def test_five_handlers_that_shut_any_set(self):
+        # Each of the five can shut each set in its segment: more than 150 ways to go on above the task.
+        names = "uvwxy"
+        for seed in range(2):
+            chance = random.Random(seed)
+            bodies = {}
+            for name in names:
+                ways = [(("shut", (other,)), ("take", chance.randint(1, 40), chance.choice("ab"))) for other in names]
+                last = ("either", (*ways[4], ("stop",)), (("stop",),))
+                bodies[f"h{name}"] = (*[("either", way, ()) for way in ways[:4]], last)
+            house = house_of({name: (f"h{name}", 1, ()) for name in names}, **bodies)
+            self.has(house, lines_of(house))
+            self.is_same(len(lines_of(house)), (4, 6)[seed])
+
+
 class Straight(ManyCase):
     """Lines on one straight line."""
 
