@@ -168,6 +168,27 @@ class Close(ManyCase):
         self.has(two(a, sums(c, [more]), main=takes(more)), sums(a, c, [line_times(more, 2)]))
 
 
+class Edges(ManyCase):
+    """A task and three handlers, each with a chain of edges; their sums have the chain of all these edges."""
+
+    def chain(self, edges):
+        return [line(a=at + 1, b=1 + sum(sorted(edges)[at:])) for at in range(len(edges) + 1)]
+
+    def house(self, *edges):
+        main, *others = [body_of(self.chain(some)) for some in edges]
+        return house_of({name: (f"f{name}", 1, ()) for name in "uvw"}, main=main, **dict(zip(("fu", "fv", "fw"), others)))
+
+    def test_fifty_nine_and_sixty_edges(self):
+        # With some of these numbers all sixty lines are seen ahead, when it is asked whether they are too many.
+        for seed in (1, 2, 3, 138, 503, 1227):
+            edges = list(range(1, 60))
+            random.Random(seed).shuffle(edges)
+            parts = edges[:14], edges[14:29], edges[29:44], edges[44:]
+            whole = [line(a=at + 4, b=4 + sum(range(at + 1, 60))) for at in range(60)]
+            self.has(self.house(*parts), whole)
+            self.has_too_many(self.house([*parts[0], 60], *parts[1:]))
+
+
 class Shutting(ManyCase):
     """Handlers that shut many sets of interrupts."""
 
